@@ -1,0 +1,1 @@
+"""Keybehind: the key behind a comparison."""

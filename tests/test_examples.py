@@ -1,0 +1,48 @@
+"""The examples of the document that use the modules that there are."""
+
+import doctest
+import unittest
+
+EXAMPLES = r"""
+>>> from keybehind.families import Family
+>>> WARES = ("ware", (), ("price",))
+>>> SHOP = Family((("cost", "money"), ("pages", "size"), ("price", "money")), WARES, ("book", ("ware",), ("pages",)), ("pen", ("ware",), ("cost",)))
+>>> TIMES = Family((("begin", "time"), ("end", "time")), ("span", (), ("begin", "end")))
+>>> BELOW = ("less", ("a", "price"), ("b", "price"))
+>>> ABOVE = ("less", ("b", "price"), ("a", "price"))
+>>> PRICES = ("if", BELOW, "less", ("if", ABOVE, "greater", "alike"))
+>>> OVER = ("if", ("less", ("a", "end"), ("b", "begin")), "less", ("if", ("less", ("b", "end"), ("a", "begin")), "greater", "alike"))
+>>> [SHOP.line("pen"), SHOP.fields_of("pen"), SHOP.is_heir("pen", "ware"), SHOP.measures]
+[('pen', 'ware'), ('cost', 'price'), True, ('money', 'size')]
+>>> PEN, BOOK = SHOP.record("pen", price=2500, cost=700), SHOP.record("book", pages=90, price=5000)
+>>> [PEN, SHOP.value(BOOK, "price"), SHOP.value(BOOK, "cost"), SHOP.text.split("\n")[4]]
+[('pen', (700, 2500)), 5000, None, 'kind book : ware ; pages']
+>>> from keybehind.cells import cell_of, cells_of
+>>> SPAN = (("span", "begin"), ("span", "end"))
+>>> cell_of(TIMES, SPAN, (), ("span", (15, 30)))
+('span', (('time', (((), ('begin',)), ((), ('end',)))),))
+>>> [len(cells_of(TIMES, SPAN, ())), len(cells_of(TIMES, SPAN, (("time", 2000),))), cells_of(SHOP, (), ())]
+[3, 13, (('book', ()), ('pen', ()), ('ware', ()))]
+>>> from keybehind.conditions import read_comparison, says, written
+>>> [says(SHOP, PRICES, PEN, BOOK), says(SHOP, PRICES, PEN, PEN)]
+['less', 'alike']
+>>> written(PRICES)
+'if a.price < b.price then less else if b.price < a.price then greater else alike'
+>>> read_comparison(SHOP, "if (a is pen and not b is pen) then less else alike")
+('if', ('and', ('is', 'a', 'pen'), ('not', ('is', 'b', 'pen'))), 'less', 'alike')
+>>> [says(TIMES, OVER, ("span", (15, 30)), ("span", (0, 10))), says(TIMES, OVER, ("span", (15, 30)), ("span", (5, 20)))]
+['greater', 'alike']
+"""
+
+
+class Examples(unittest.TestCase):
+    def test_each_one(self):
+        found = doctest.DocTestParser().get_doctest(EXAMPLES, {}, "examples", None, 0)
+        runner = doctest.DocTestRunner(verbose=False)
+        runner.run(found)
+        self.assertEqual(runner.failures, 0)
+        self.assertGreater(runner.tries, 15)
+
+
+if __name__ == "__main__":
+    unittest.main()
