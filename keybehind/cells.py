@@ -32,10 +32,26 @@ def record_of(family, reads, limits, cell):
     kind, rows = cell
     values = {}
     for _, groups in rows:
-        for height, (_, fields) in zip(_heights(groups), groups):
+        for height, (_, fields) in zip(heights_of(groups), groups):
             for field in fields:
                 values[field] = height
     return (kind, tuple([values.get(field, 0) for field in family.fields_of(kind)]))
+
+
+def narrowed(cell, reads, limits):
+    """The cell that a record of this cell has for a part of the reads and limits."""
+    kind, rows = cell
+    fewer = []
+    for measure, groups in rows:
+        kept = []
+        for limit, fields in groups:
+            named = limit if limit and (measure, limit[0]) in limits else ()
+            read = tuple([field for field in fields if (kind, field) in reads])
+            if named or read:
+                kept.append((named, read))
+        if any([fields for _, fields in kept]):
+            fewer.append((measure, tuple(kept)))
+    return (kind, tuple(fewer))
 
 
 def number_of_cells(family, reads, limits):
@@ -47,6 +63,18 @@ def number_of_cells(family, reads, limits):
             ways = ways * _number_of_orders(len(named), len(fields))
         many = many + ways
     return many
+
+
+def heights_of(groups):
+    """A value for each group, from low to high."""
+    named = [limit[0] for limit, _ in groups if limit]
+    # The groups ahead of the first limit need room below it; behind a limit there is room enough for steps of one.
+    height = (named[0] if named else 0) - len(groups)
+    heights = []
+    for limit, _ in groups:
+        height = limit[0] if limit else height + 1
+        heights.append(height)
+    return heights
 
 
 def _measures_read(family, reads, limits, kind):
@@ -107,15 +135,3 @@ def _groups_in(family, record, limits, fields):
         limit = (height,) if height in limits else ()
         groups.append((limit, tuple([field for field in fields if values[field] == height])))
     return tuple(groups)
-
-
-def _heights(groups):
-    """A value for each group, from low to high."""
-    named = [limit[0] for limit, _ in groups if limit]
-    # The groups ahead of the first limit need room below it; behind a limit there is room enough for steps of one.
-    height = (named[0] if named else 0) - len(groups)
-    heights = []
-    for limit, _ in groups:
-        height = limit[0] if limit else height + 1
-        heights.append(height)
-    return heights

@@ -75,6 +75,11 @@ def read_comparison(family, text):
     return thing
 
 
+def is_limit(thing):
+    """Whether a value is a limit."""
+    return is_whole(thing) and thing % STEP == 0
+
+
 def meets(family, condition, one, other):
     """Whether two records have a condition on two records; nothing is checked."""
     word = condition[0]
@@ -118,17 +123,13 @@ def _is_test(family, word, one, other, whos):
         return one in whos and family.is_kind(other)
     if word not in ("less", "same"):
         return False
-    if _is_limit(one):
+    if is_limit(one):
         return _is_field_side(family, other, whos)
     if not _is_field_side(family, one, whos):
         return False
-    if _is_limit(other):
+    if is_limit(other):
         return True
     return _is_field_side(family, other, whos) and family.measure_of(one[1]) == family.measure_of(other[1])
-
-
-def _is_limit(thing):
-    return is_whole(thing) and thing % STEP == 0
 
 
 def _is_field_side(family, thing, whos):

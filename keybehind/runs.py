@@ -1,0 +1,119 @@
+"""Runs of a condition in sorted lists, and whether lists by one order serve as lists by another one."""
+
+from keybehind.building import plain_node
+from keybehind.cells import record_of
+from keybehind.common import cells_in
+from keybehind.comparing import NOT_LESS, pair_said
+from keybehind.errors import NoRow
+from keybehind.orders import cells_having, chart_with
+from keybehind.sayers import Pathing, paths_for
+
+# The values of a row lie STEP apart, so that there is room for others of one measure beside each of them, and so far
+# from limits that a hundred runs have room between two of these.
+STEP = 4
+ABOVE = 100
+BELOW = 900
+
+
+def runs(order, condition):
+    """The greatest number of runs of a condition in sorted lists, or None if there is none."""
+    chart, node, having = _first_node(order, condition)
+    if _mixed_block(node, having):
+        return None
+    return _runs_in(_alternating(node, having))
+
+
+def row_with(order, condition, many):
+    """A sorted row of records that have a condition and do not have it by turns, with so many runs."""
+    chart, node, having = _first_node(order, condition)
+    block = _mixed_block(node, having)
+    if block:
+        return _mixed_row(chart, block, having, 2 * many - 1)
+    cells = _alternating(node, having)
+    if many > _runs_in(cells):
+        raise NoRow(_runs_in(cells))
+    return tuple([_any_record(chart, cell) for cell in cells[:2 * many - 1]]) if many else ()
+
+
+def obstacle(order, wish, condition):
+    """Two records with a condition of which the wish says "less" and the order does not, or None."""
+    chart = chart_with(order, condition, wish)
+    having = cells_having(chart, condition)
+    cells = [at for at, met in enumerate(having) if met]
+    return pair_said(chart, Pathing(paths_for(chart, wish.key)), Pathing(paths_for(chart, order.key)), NOT_LESS, cells)
+
+
+def _first_node(order, condition):
+    """The chart for an order and a condition, the node of the plain key, and whether each cell has the condition."""
+    chart = chart_with(order, condition)
+    node = plain_node(chart, Pathing(paths_for(chart, order.key)))
+    return chart, node, dict(zip(chart.cells, cells_having(chart, condition)))
+
+
+def _mixed_block(node, having):
+    """A block with cells that have the condition and cells that do not, or ()."""
+    for block in node:
+        met = [having[cell] for cell in cells_in(block)]
+        if any(met) and not all(met):
+            return block
+    return ()
+
+
+def _alternating(node, having):
+    """As many cells as can be, block by block, that have the condition and do not have it by turns."""
+    cells = []
+    for block in node:
+        cell = cells_in(block)[0]
+        if having[cell] == (len(cells) % 2 == 0):
+            cells.append(cell)
+    return cells
+
+
+def _runs_in(cells):
+    return (len(cells) + 1) // 2
+
+
+def _any_record(chart, cell):
+    return record_of(chart.family, chart.reads, chart.limits, cell)
+
+
+def _mixed_row(chart, block, having, many):
+    """A sorted row of so many records of one block, with the condition and without it by turns."""
+    cells = cells_in(block)
+    turns = [[cell for cell in cells if having[cell] == met][0] for met in (True, False)]
+    row = []
+    for at in range(many):
+        cell = turns[at % 2]
+        if block[0] == "alike":
+            row.append(_any_record(chart, cell))
+        else:
+            field = [pair[1] for pair in block[2] if pair[0] == cell][0]
+            row.append(_lifted(chart, cell, field, at if block[1] == "up" else many - 1 - at))
+    return tuple(row)
+
+
+def _lifted(chart, cell, field, step):
+    """A record of a cell, the value of a field so many steps above where its gap begins."""
+    kind, held = _any_record(chart, cell)
+    fields = chart.family.fields_of(kind)
+    slots = chart.slots[chart.numbers[cell]]
+    low, high = _ends_of_gap(slots, chart.places[chart.numbers[cell]][field])
+    start = 0
+    if low > 0 and slots[low - 1][0] == slots[low][0]:
+        start = slots[low - 1][1][0] + ABOVE
+    elif high < len(slots) and slots[high][0] == slots[low][0]:
+        start = slots[high][1][0] - BELOW
+    moved = [name for _, _, names in slots[low:high] for name in names]
+    far = start + step * STEP - held[fields.index(field)]
+    return (kind, tuple([value + far if name in moved else value for name, value in zip(fields, held)]))
+
+
+def _ends_of_gap(slots, slot):
+    """The first slot of the gap in which a slot lies, and the one behind its last."""
+    low = slot
+    while low > 0 and slots[low - 1][0] == slots[slot][0] and not slots[low - 1][1]:
+        low = low - 1
+    high = slot + 1
+    while high < len(slots) and slots[high][0] == slots[slot][0] and not slots[high][1]:
+        high = high + 1
+    return low, high
