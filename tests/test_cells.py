@@ -7,6 +7,7 @@ from keybehind.cells import cell_of, cells_of, record_of
 from keybehind.errors import TooMany
 from keybehind.families import Family
 from tests.helpers import SHOP, TIMES
+from tests.reference import cell
 
 SPAN = (("span", "begin"), ("span", "end"))
 PENS = (("pen", "cost"), ("pen", "price"))
@@ -21,23 +22,6 @@ CASES = (
     (MIXED, (("all", "u"), ("all", "v"), ("all", "w"), ("all", "x")), (("n", -1000), ("n", 1000))),
     (MIXED, (("all", "u"), ("all", "v"), ("all", "w")), (("m", 5000),)),
 )
-
-
-def cell(family, reads, limits, record):
-    """The cell of a record, told measure by measure as the document puts it."""
-    kind, rows = record[0], []
-    fields = [field for name, field in reads if name == kind]
-    for measure in family.measures:
-        lying = {}
-        for field in fields:
-            if family.measure_of(field) == measure:
-                lying.setdefault(family.value(record, field), [[], []])[1].append(field)
-        if lying:
-            for name, limit in limits:
-                if name == measure:
-                    lying.setdefault(limit, [[], []])[0].append(limit)
-            rows.append((measure, tuple((tuple(lying[at][0]), tuple(lying[at][1])) for at in sorted(lying))))
-    return kind, tuple(rows)
 
 
 def records_around(family, limits):

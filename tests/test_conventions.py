@@ -4,9 +4,10 @@ import copy
 import inspect
 import unittest
 
-from keybehind import cells, conditions, families
+from keybehind import cells, conditions, families, judging, keys, orders, runs
 from keybehind.errors import OrderError
 from keybehind.families import Family
+from keybehind.orders import Order
 from tests.helpers import SHOP
 
 PARAMETERS = {
@@ -29,8 +30,33 @@ PARAMETERS = {
     (Family, "is_record"): "(self, thing)",
     (Family, "value"): "(self, record, field)",
     (Family, "read"): "(text)",
+    (keys, "is_key"): "(family, thing)",
+    (keys, "is_plain"): "(family, thing)",
+    (keys, "is_normal"): "(family, thing)",
+    (keys, "key_says"): "(family, key, one, other)",
+    (keys, "normal"): "(family, key)",
+    (keys, "plain"): "(family, key, reads, limits)",
+    (keys, "parting"): "(family, key, other)",
+    (judging, "judge"): "(family, comparison)",
+    (judging, "broken_holds"): "(family, comparison, thing)",
+    (judging, "key_holds"): "(family, comparison, thing)",
+    (orders, "Order"): "(family, comparison)",
+    (Order, "of"): "(family, key)",
+    (Order, "by"): "(family, *fields)",
+    (Order, "by_kinds"): "(family, *kinds)",
+    (Order, "__call__"): "(self, one, other)",
+    (Order, "place"): "(self, record)",
+    (Order, "row"): "(self, *records)",
+    (Order, "unlike"): "(self, other)",
+    (Order, "beside"): "(self, other)",
+    (Order, "changed"): "(self, condition, other)",
+    (runs, "runs"): "(order, condition)",
+    (runs, "row_with"): "(order, condition, many)",
+    (runs, "obstacle"): "(order, wish, condition)",
 }
 NESTED = ("and", ["or", {"less": [("a", "price"), [0]]}], {"is": ["a", {"pen": []}]}, [], {})
+
+PRICES = Order.by(SHOP, "price", "-cost")
 
 
 class Conventions(unittest.TestCase):
@@ -50,7 +76,13 @@ class Conventions(unittest.TestCase):
                      lambda: conditions.is_condition(SHOP, given), lambda: conditions.is_comparison(SHOP, given),
                      lambda: conditions.holds(SHOP, given, given), lambda: conditions.holds(SHOP, ("and",), given),
                      lambda: conditions.says(SHOP, given, given, given), lambda: conditions.says(SHOP, "less", given, given),
-                     lambda: conditions.read_condition(SHOP, given), lambda: conditions.read_comparison(SHOP, given)):
+                     lambda: conditions.read_condition(SHOP, given), lambda: conditions.read_comparison(SHOP, given),
+                     lambda: judging.judge(SHOP, given), lambda: judging.broken_holds(SHOP, "less", given),
+                     lambda: judging.key_holds(SHOP, "less", given), lambda: keys.is_key(SHOP, given), lambda: keys.is_plain(SHOP, given),
+                     lambda: keys.is_normal(SHOP, ((), (), given)), lambda: Order(SHOP, given), lambda: Order.of(SHOP, given),
+                     lambda: Order.by(SHOP, "price", given), lambda: Order.by_kinds(SHOP, given), lambda: PRICES(given, given),
+                     lambda: PRICES.row(given), lambda: PRICES == given, lambda: PRICES[given], lambda: PRICES.changed(given, PRICES),
+                     lambda: runs.runs(PRICES, given), lambda: runs.row_with(PRICES, given, 1), lambda: runs.obstacle(PRICES, PRICES, given)):
             try:
                 self.assertIs(call(), False)
             except OrderError:
@@ -64,12 +96,42 @@ class Conventions(unittest.TestCase):
                           "field price money\nkind ware : ; price"])
         for name in ("fields", "kinds", "names", "measures", "text"):
             self.assertIn(name, vars(family))
+        for order in (PRICES, -PRICES, PRICES + "pages", Order(SHOP, "alike"), Order.of(SHOP, PRICES.key), PRICES[("and",)]):
+            self.assertEqual([order.family, order.reads, order.limits], [SHOP, *order.key[:2]])
+            for name in ("family", "key", "reads", "limits"):
+                self.assertIn(name, vars(order))
 
     def test_results_are_tuples(self):
         for thing in (SHOP.fields, SHOP.kinds, SHOP.names, SHOP.measures, SHOP.line("pen"), SHOP.fields_of("pen"),
                       SHOP.record("ware", price=1), SHOP.record("ware", price=1)[1], cells.cells_of(SHOP, (), ()),
-                      conditions.read_condition(SHOP, "(never and always)")):
+                      conditions.read_condition(SHOP, "(never and always)"), PRICES.key, PRICES.reads, PRICES.limits, *PRICES.key[2],
+                      PRICES.place(("pen", (1, 2))), PRICES.row(), judging.judge(SHOP, "less"), judging.judge(SHOP, "less")[1],
+                      judging.judge(SHOP, "alike"), keys.normal(SHOP, PRICES.key), keys.plain(SHOP, PRICES.key, (), ()),
+                      keys.parting(SHOP, PRICES.key, (-PRICES).key), PRICES.unlike(-PRICES), PRICES.beside(-PRICES),
+                      runs.row_with(PRICES, ("and",), 1), runs.obstacle(PRICES, -PRICES, ("and",))):
             self.assertIs(type(thing), tuple)
+
+    def test_results_are_of_plain_values_alone(self):
+        def assert_plain(thing):
+            if isinstance(thing, tuple):
+                for part in thing:
+                    assert_plain(part)
+            else:
+                self.assertIn(type(thing), (int, str))
+
+        begin = Family((("begin", "time"),), ("span", (), ("begin",)))
+        late = ("less", 2000, ("a", "begin"))
+        order = Order(begin, ("if", late, ("if", ("less", 2000, ("b", "begin")), "alike", "less"),
+                              ("if", ("less", 2000, ("b", "begin")), "greater", "alike")))
+        for thing in (PRICES.key, order.key, order.place(("span", (7,))), keys.plain(begin, order.key, (), (("time", 0),)),
+                      judging.judge(SHOP, "less"), order.unlike(-order), runs.row_with(Order.by(begin, "begin"), late, 1),
+                      runs.row_with(PRICES, ("is", "a", "pen"), 9)):
+            assert_plain(thing)
+
+    def test_methods_stand_in_the_class_itself(self):
+        for name in ("__eq__", "__call__", "__add__", "__radd__", "__neg__", "__and__", "__or__", "__le__", "__lt__", "__ge__", "__gt__", "__getitem__"):
+            self.assertIn(name, vars(Order))
+        self.assertEqual(Order.__bases__, (object,))
 
 
 if __name__ == "__main__":

@@ -32,6 +32,30 @@ EXAMPLES = r"""
 ('if', ('and', ('is', 'a', 'pen'), ('not', ('is', 'b', 'pen'))), 'less', 'alike')
 >>> [says(TIMES, OVER, ("span", (15, 30)), ("span", (0, 10))), says(TIMES, OVER, ("span", (15, 30)), ("span", (5, 20)))]
 ['greater', 'alike']
+>>> from keybehind.judging import broken_holds, judge
+>>> [judge(TIMES, OVER)[0], broken_holds(TIMES, OVER, (("span", (15, 30)), ("span", (5, 20)), ("span", (0, 10))))]
+['broken', True]
+>>> judge(SHOP, PRICES)[1][:2]
+((('book', 'price'), ('pen', 'price'), ('ware', 'price')), ())
+>>> judge(SHOP, ("if", ("is", "a", "pen"), ("if", ("is", "b", "pen"), "alike", "less"), ("if", ("is", "b", "pen"), "greater", "alike")))
+('key', ((), (), (('alike', (('pen', ()),)), ('alike', (('book', ()), ('ware', ()))))))
+>>> from keybehind.orders import Order
+>>> NESTED = Order.by(TIMES, "begin", "-end")
+>>> [NESTED.place(("span", (3, 8))), NESTED.place(("span", (3, 3))), NESTED.place(("span", (3, 1)))]
+[(0, 3, 0, -8, 0), (0, 3, 1), (0, 3, 2, -1, 0)]
+>>> [block[0] for block in NESTED.key[2][0][3]]
+['by', 'alike', 'by']
+>>> BEGINS = Order.by(TIMES, "begin")
+>>> [BEGINS + "-end" == NESTED, "begin" + NESTED == NESTED, BEGINS <= NESTED, -(-NESTED) == NESTED, (NESTED & Order.by(TIMES, "begin", "end")) == BEGINS]
+[True, True, True, True, True]
+>>> Order.by(SHOP, "price") == Order(SHOP, PRICES)
+True
+>>> from keybehind.runs import obstacle, row_with, runs
+>>> LATE = ("less", 2000, ("a", "begin"))
+>>> [runs(BEGINS, LATE), runs(BEGINS, ("not", ("same", ("a", "begin"), 2000))), runs(BEGINS, ("less", ("a", "end"), 0)), runs(-BEGINS, ("or",))]
+[1, 2, None, 0]
+>>> [obstacle(NESTED, BEGINS, LATE), obstacle(BEGINS, NESTED, LATE) is None]
+[None, False]
 """
 
 
@@ -41,7 +65,7 @@ class Examples(unittest.TestCase):
         runner = doctest.DocTestRunner(verbose=False)
         runner.run(found)
         self.assertEqual(runner.failures, 0)
-        self.assertGreater(runner.tries, 15)
+        self.assertGreater(runner.tries, 30)
 
 
 if __name__ == "__main__":
