@@ -37,7 +37,7 @@ def breaks(said, whos):
 def _broken_alone(chart, sayer):
     """A record that is not alike to itself, or ()."""
     for at, cell in enumerate(chart.cells):
-        spans = spans_at(chart.slots[at], [2 * slot + 1 for slot in range(len(chart.slots[at]))])
+        spans = spans_at(chart.slots[at], list(range(len(chart.slots[at]))))
         if word_in(sayer.tree(at, at), spans, spans) != "alike":
             return records_in(chart, chain_of(cell, 0), (at,))
     return ()

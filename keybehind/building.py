@@ -6,16 +6,16 @@ these cells, and says what was answered to enough of the questions.
 
 from keybehind.trees import word_in
 
-# Heights of one measure: told values and limits are ROOM apart. Between two of them there are three zones, ZONE apart,
-# with room for the groups of one cell. All known heights are odd.
-ROOM = 64
-ZONE = 16
+# Where two cells are compared, these are the heights between two limits or told values: one for all other groups of a
+# cell, as only groups of two cells are compared. And that of the limit or told value above them.
 LOW = 0
 MIDDLE = 1
 HIGH = 2
-# How far apart the groups of one cell are where records of one cell are compared, and how far a value is moved.
-APART = 8
-MOVE = 2
+ABOVE = 3
+ROOM = 4
+# Where records of one cell are compared: how far apart its groups lie, and how far a value is moved.
+APART = 3
+MOVE = 1
 
 
 def plain_node(chart, sayer):
@@ -74,7 +74,7 @@ def _leads(slots, tree, one, other):
 
 def _word_of_move(slots, tree, moves):
     """What is said of a record and of the one that comes from it if some slots are moved."""
-    heights = [at * APART + 1 for at in range(len(slots))]
+    heights = [at * APART for at in range(len(slots))]
     moved = [height + moves.get(at, 0) for at, height in enumerate(heights)]
     return word_in(tree, spans_at(slots, heights), spans_at(slots, moved))
 
@@ -125,19 +125,15 @@ def _laid(slots, lead, level):
 def _heights_in(slots, told, zone):
     """Heights of the slots: limits and told ones where they lie for all cells, the others in one zone between them."""
     heights = []
-    ahead = 0
-    beside = 0
+    floor = 0
     for at, (measure, limit, _) in enumerate(slots):
         if at and measure != slots[at - 1][0]:
-            ahead = 0
-            beside = 0
+            floor = 0
         if limit or at in told:
-            heights.append(ahead * ROOM + ROOM - 1)
-            ahead = ahead + 1
-            beside = 0
+            heights.append(floor + ABOVE)
+            floor = floor + ROOM
         else:
-            heights.append(ahead * ROOM + zone * ZONE + beside * MOVE + 1)
-            beside = beside + 1
+            heights.append(floor + zone)
     return heights
 
 

@@ -50,6 +50,7 @@ def _ends_together(node, at, other, beside):
 
 def _common_block(blocks, others):
     """One block for blocks of two nodes that have the same cells together."""
-    if len(blocks) == len(others) == 1 and blocks[0][0] == others[0][0] == "by" and blocks[0][1:3] == others[0][1:3]:
+    # Blocks with the same pairs have the same cells, so each is the only one here.
+    if blocks[0][0] == others[0][0] == "by" and blocks[0][1:3] == others[0][1:3]:
         return ("by", blocks[0][1], blocks[0][2], common_node(blocks[0][3], others[0][3]))
     return ("alike", ascending([cell for block in blocks for cell in cells_in(block)]))

@@ -64,8 +64,7 @@ def picked(chain, whos):
             fewer = tuple([(whos.index(who), field) for who, field in entries if who in whos])
             if limit or fewer:
                 kept.append((limit, fewer))
-        if any([entries for _, entries in kept]):
-            shorter[measure] = tuple(kept)
+        shorter[measure] = tuple(kept)
     return shorter
 
 
@@ -122,15 +121,10 @@ def _first_spans(chart, chain, cell):
 
 
 def _parted(slots, spans, slot, position):
-    """The spans if a slot lies below a position, on it, or above it, as far as it can."""
+    """The spans if a slot lies below a group of the chain, on it, or above it; it may lie in each of these places."""
     low, high = spans[slot]
-    found = []
-    if low < position:
-        found.append(_tightened(slots, spans, slot, (low, position - 1)))
-    if position < high:
-        found.append(_tightened(slots, spans, slot, (position + 1, high)))
-    found.append(_tightened(slots, spans, slot, (position, position)))
-    return found
+    parts = ((low, position - 1), (position + 1, high), (position, position))
+    return [_tightened(slots, spans, slot, part) for part in parts]
 
 
 def _tightened(slots, spans, slot, span):

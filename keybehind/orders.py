@@ -83,16 +83,12 @@ class Order:
         return tuple([records[at] for _, at in places])
 
     def __add__(self, other):
-        if isinstance(other, str):
-            return _with_field(self, other, True)
         if not isinstance(other, Order):
-            return NotImplemented
+            return _with_field(self, other, True)
         chart, paths, other_paths = _side_by_side(self, other)
         return _order_on(chart, _one_then_other(paths, other_paths))
 
     def __radd__(self, other):
-        if not isinstance(other, str):
-            return NotImplemented
         return _with_field(self, other, False)
 
     def __neg__(self):
@@ -165,17 +161,22 @@ class Order:
 def chart_with(order, condition, *others):
     """The chart for an order, a condition and other orders of its family."""
     for other in others:
-        if order.family != other.family:
+        if not _is_beside(order, other):
             raise OtherFamily()
     if not is_condition(order.family, condition):
         raise BadCondition(condition)
-    keys = [other.key for other in others]
-    return chart_for(order.family, order.key, read_and_named(order.family, condition), *keys)
+    parts = [read_and_named(order.family, condition), *[other.key for other in others]]
+    return chart_for(order.family, order.key, *parts)
 
 
 def cells_having(chart, condition):
     """Of each cell, whether its records have a condition."""
     return [settled_condition(chart, condition, "a", at) is True for at in range(len(chart.cells))]
+
+
+def _is_beside(order, thing):
+    """Whether a value is an order of the same family."""
+    return isinstance(thing, Order) and order.family == thing.family
 
 
 def _order_by(family, key):
@@ -195,7 +196,7 @@ def _order_on(chart, paths):
 
 def _side_by_side(one, other):
     """The chart for two orders, and the paths of each one for it."""
-    if one.family != other.family:
+    if not _is_beside(one, other):
         raise OtherFamily()
     chart = chart_for(one.family, one.key, other.key)
     return chart, paths_for(chart, one.key), paths_for(chart, other.key)

@@ -4,15 +4,13 @@ from keybehind.building import plain_node
 from keybehind.cells import record_of
 from keybehind.common import cells_in
 from keybehind.comparing import NOT_LESS, pair_said
+from keybehind.conditions import STEP
 from keybehind.errors import NoRow
 from keybehind.orders import cells_having, chart_with
 from keybehind.sayers import Pathing, paths_for
 
-# The values of a row lie STEP apart, so that there is room for others of one measure beside each of them, and so far
-# from limits that a hundred runs have room between two of these.
-STEP = 4
-ABOVE = 100
-BELOW = 900
+# How far from limits the values of a row stay: so the other values of each record have room beside them.
+CLEAR = 10
 
 
 def runs(order, condition):
@@ -100,11 +98,11 @@ def _lifted(chart, cell, field, step):
     low, high = _ends_of_gap(slots, chart.places[chart.numbers[cell]][field])
     start = 0
     if low > 0 and slots[low - 1][0] == slots[low][0]:
-        start = slots[low - 1][1][0] + ABOVE
+        start = slots[low - 1][1][0] + CLEAR
     elif high < len(slots) and slots[high][0] == slots[low][0]:
-        start = slots[high][1][0] - BELOW
+        start = slots[high][1][0] - STEP + CLEAR
     moved = [name for _, _, names in slots[low:high] for name in names]
-    far = start + step * STEP - held[fields.index(field)]
+    far = start + step - held[fields.index(field)]
     return (kind, tuple([value + far if name in moved else value for name, value in zip(fields, held)]))
 
 

@@ -1,8 +1,8 @@
 """Trees: what is said of the records of two cells, with only those tests left that the cells do not decide.
 
 A tree is a comparison in which each test is about one field of each record. *Spans* tell of each field of a record
-between which heights its value lies, as `(low, high)`; those with one end are known. Only values of one measure are
-compared, so each measure has heights of its own.
+from which height to which one its value may lie, as `(low, high)`; if both are one, it lies there. Only values of one
+measure are compared, so each measure has heights of its own.
 """
 
 from keybehind.parsing import JOINTS

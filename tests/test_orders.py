@@ -242,9 +242,9 @@ class OneThenOther(Case):
         times = Order.by(TIMES, "begin")
         self.assertEqual(times + "-end", Order.by(TIMES, "begin", "-end"))
         self.assertEqual("-end" + times, Order.by(TIMES, "-end", "begin"))
-        for name in ("ends", "", "-", "--end", "end-", "price"):
-            self.assert_raises(NoField, lambda: times + name, field=name)
-            self.assert_raises(NoField, lambda: name + times, field=name)
+        for name in ("ends", "", "-", "--end", "end-", "price", *ODD):
+            self.assertIs(self.assert_raises(NoField, lambda: times + name).field, name)
+            self.assertIs(self.assert_raises(NoField, lambda: name + times).field, name)
 
     def test_nothing_is_changed(self):
         one, other = Order.by(TIMES, "begin"), Order.by(TIMES, "end")
@@ -485,6 +485,11 @@ class Errors(Case):
                 self.assert_raises(OtherFamily, call)
             self.assertIs(one == other, False)
             self.assertIs(one != other, True)
+        for thing in ODD:
+            for call in (lambda: one.unlike(thing), lambda: one.beside(thing), lambda: one.changed(("and",), thing)):
+                self.assert_raises(OtherFamily, call)
+            for call in (lambda: one & thing, lambda: one | thing, lambda: one < thing, lambda: one <= thing, lambda: one > thing, lambda: one >= thing):
+                self.assertRaises(TypeError, call)
         self.assertEqual(Order.by(SHOP, "price"), Order.by(Family(SHOP.fields[::-1], *SHOP.kinds), "price"))
 
     def test_too_many_together(self):

@@ -28,7 +28,7 @@ def runs_by_blocks(order, condition):
     reads, limits = read_and_named(family, condition)
     key = plain(family, order.key, reads, limits)
     spots = {}
-    for record in records_with(family, sorted({limit + step for _, limit in key[1] for step in range(-4, 5)} | set(range(4)))):
+    for record in records_with(family, sorted({limit + step for _, limit in key[1] for step in (-2, -1, 0, 1, 2)} | set(range(3)))):
         spots.setdefault(reference.cell(family, key[0], key[1], record), set()).add(holds(family, condition, record))
     row = []
     for block in key[2]:
@@ -120,6 +120,16 @@ class Runs(Case):
                     self.assert_most(order, condition, None)
                 for gap in (over(1000, name), under(1000, name)):
                     self.assert_most(order, ("and", gap, ("less", ("a", "z"), ("a", "y")), ("less", ("a", "y"), ("a", "x"))), None)
+
+    def test_two_measures(self):
+        family = Family((("p", "m"), ("q", "m"), ("r", "n"), ("s", "n"), ("t", "o")), ("k", (), ("p", "r")), ("l", (), ("q", "s")), ("j", (), ("p", "r", "t")))
+        for name in "prst":
+            for sign in ("", "-"):
+                order = Order.by(family, sign + name)
+                for field, other in (("p", "r"), ("q", "s"), ("r", "p"), ("t", "r")):
+                    for condition in (("and", over(5000, field), ("is", "a", "k")), ("and", under(5000, field), over(-3000, other)), over(5000, field), under(-3000, field),
+                                      ("and", between(-3000, 5000, field), ("not", ("same", ("a", other), 7000)))):
+                        self.assert_most(order, condition, runs_by_blocks(order, condition))
 
     def test_many_runs(self):
         limits = ("or", *[("same", ("a", "x"), 1000 * at) for at in range(24)])
@@ -245,6 +255,9 @@ class Serving(Case):
             for condition in (("and",), None, ("is", "a", "span"), []):
                 with self.assertRaises(OtherFamily):
                     obstacle(Order.by(SHOP, "price"), wish, condition)
+        for thing in (None, SHOP, "price", (), True):
+            with self.assertRaises(OtherFamily):
+                obstacle(Order.by(SHOP, "price"), thing, ("and",))
 
 
 if __name__ == "__main__":
