@@ -1,13 +1,14 @@
 """Whether what is said of records is an order, and records that break it if it is none."""
 
 from keybehind.building import plain_node, spans_at
-from keybehind.meetings import chain_of, joined, outcomes, picked, records_in
+from keybehind.meetings import chain_of, joined, outcomes, picked, records_in, spans_in
+from keybehind.parsing import SAID
 from keybehind.sayers import TURNED_WORDS, paths_in, tree_of_paths
 from keybehind.trees import word_in
 
+NOT_BEHIND = ("less", "alike")
 # What can rightly be said of r and s, of s and r, and by the key of r and s.
 RIGHT = (("less", "greater", "less"), ("alike", "alike", "alike"), ("greater", "less", "greater"))
-TRIPLES = ((0, 1, 2), (0, 2, 1), (1, 0, 2), (1, 2, 0), (2, 0, 1), (2, 1, 0))
 
 
 def verdict(chart, sayer):
@@ -24,14 +25,9 @@ def verdict(chart, sayer):
     return ("plain", node)
 
 
-def breaks(said, whos):
-    """Whether three records, one after the other, break what is said of every two of them."""
-    one, other, last = whos
-    first = said[(one, other)]
-    second = said[(other, last)]
-    if first == "greater" or second == "greater":
-        return False
-    return said[(one, last)] != ("alike" if first == second == "alike" else "less")
+def follows(first, second):
+    """What follows of r and t from what is said of r and s, and of s and t, neither of them "greater"."""
+    return "alike" if first == second == "alike" else "less"
 
 
 def _broken_alone(chart, sayer):
@@ -44,7 +40,10 @@ def _broken_alone(chart, sayer):
 
 
 def _first_doubt(chart, sayer, paths):
-    """Two cells, and a chain of records of them, of which the key does not say what is said; or ()."""
+    """Two cells, and a chain of records of them, of which the key does not say what is said; or ().
+
+    In the chain of a doubt the key has the first record not behind the second one.
+    """
     many = len(chart.cells)
     for apart in range(many):
         for one in range(many - apart):
@@ -59,19 +58,20 @@ def _doubt_about(chart, sayer, paths, one, other):
     if trees in RIGHT:
         return ()
     chain = chain_of(chart.cells[one], 0)
-    asked = ((trees[0], 0, 1), (trees[1], 1, 0), (trees[2], 0, 1))
+    asked = ((trees[0], 0, 1, SAID), (trees[1], 1, 0, SAID), (trees[2], 0, 1, SAID))
     for words, spans in outcomes(chart, chain, 1, other, asked):
         if words not in RIGHT:
-            return ((one, other), joined(chart, chain, other, spans, 1))
+            longer = joined(chart, chain, other, spans, 1)
+            return ((other, one), picked(longer, (1, 0))) if words[2] == "greater" else ((one, other), longer)
     return ()
 
 
 def _broken_by(chart, sayer, paths, doubt):
-    """Records that break what is said, given two of which the key says something else.
+    """Records that break what is said, given a doubt.
 
-    From the one to the other leads a row of records in which each step is one about which the key was told. So a
-    third record with them breaks what is said, or with one of them and another one of which the key says something
-    else.
+    From the one record to the other one leads a row of records, by the key none behind the next one, in which each step
+    is one about which the key was told. At the first record of which something else is said than the key says, the one
+    ahead of it shows that: so it is found between two records about which there is a doubt.
     """
     todo = [doubt]
     seen = {}
@@ -81,47 +81,31 @@ def _broken_by(chart, sayer, paths, doubt):
         if records in seen:
             continue
         seen[records] = True
+        said = _word_of_chain(sayer, cells, chain, 0, 1)
+        if _word_of_chain(sayer, cells, chain, 1, 0) != TURNED_WORDS[said]:
+            return records
         for third in [*cells, *[cell for cell in range(len(chart.cells)) if cell not in cells]]:
-            for said, key_said, longer in _thirds(chart, sayer, paths, cells, chain, third):
-                whos = _broken_among(said)
-                if whos:
-                    records = records_in(chart, longer, (*cells, third))
-                    return tuple([records[who] for who in whos])
-                todo.extend(_doubts_between(said, key_said, (*cells, third), longer))
+            for words, spans in _between(chart, sayer, paths, cells, chain, third):
+                longer = joined(chart, chain, third, spans, 2)
+                if "greater" not in words[2:] and said != follows(words[2], words[3]):
+                    one, other, middle = records_in(chart, longer, (*cells, third))
+                    return (one, middle, other)
+                if words[2] != words[0]:
+                    todo.append(((cells[0], third), picked(longer, (0, 2))))
+                if words[3] != words[1]:
+                    todo.append(((third, cells[1]), picked(longer, (2, 1))))
     return ()
 
 
-def _thirds(chart, sayer, paths, cells, chain, third):
-    """What is said, and what the key says, of two records and a third one, in all ways in which it can lie."""
+def _word_of_chain(sayer, cells, chain, one, other):
+    """What is said of two records of a chain."""
+    return word_in(sayer.tree(cells[one], cells[other]), spans_in(chain, one), spans_in(chain, other))
+
+
+def _between(chart, sayer, paths, cells, chain, third):
+    """How a third record can lie between two, as the key has it; with what the key and the sayer say of it and them."""
     one, other = cells
-    pairs = ((0, 1), (1, 0), (0, 2), (2, 0), (1, 2), (2, 1))
-    all_cells = (one, other, third)
-    trees = [sayer.tree(all_cells[first], all_cells[second]) for first, second in pairs]
-    key_trees = [tree_of_paths(paths[all_cells[first]], paths[all_cells[second]]) for first, second in pairs]
-    asked = [(tree, *pair) for tree, pair in zip([*trees, *key_trees], [*pairs, *pairs])]
-    found = []
-    for words, spans in outcomes(chart, chain, 2, third, asked):
-        said = {pair: word for pair, word in zip(pairs, words)}
-        key_said = {pair: word for pair, word in zip(pairs, words[len(pairs):])}
-        found.append((said, key_said, joined(chart, chain, third, spans, 2)))
-    return found
-
-
-def _broken_among(said):
-    """Which of three records break what is said of them, in order, or ()."""
-    for one, other in ((0, 1), (0, 2), (1, 2)):
-        if said[(other, one)] != TURNED_WORDS[said[(one, other)]]:
-            return (one, other)
-    for whos in TRIPLES:
-        if breaks(said, whos):
-            return whos
-    return ()
-
-
-def _doubts_between(said, key_said, cells, chain):
-    """The doubts about each of two records and a third one, if the key has the third one between them."""
-    ahead = ("less", "alike") if key_said[(0, 1)] != "greater" else ("greater", "alike")
-    if key_said[(0, 2)] not in ahead or key_said[(2, 1)] not in ahead:
-        return []
-    return [((cells[one], cells[other]), picked(chain, (one, other)))
-            for one, other in ((0, 2), (1, 2)) if said[(one, other)] != key_said[(one, other)]]
+    asked = ((tree_of_paths(paths[one], paths[third]), 0, 2, NOT_BEHIND),
+             (tree_of_paths(paths[third], paths[other]), 2, 1, NOT_BEHIND),
+             (sayer.tree(one, third), 0, 2, SAID), (sayer.tree(third, other), 2, 1, SAID))
+    return outcomes(chart, chain, 2, third, asked)

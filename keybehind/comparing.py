@@ -1,6 +1,7 @@
 """Two orders beside each other: records of which they say such and such."""
 
 from keybehind.meetings import chain_of, joined, outcomes, records_in
+from keybehind.parsing import SAID
 
 UNLIKE = (("less", "alike"), ("less", "greater"), ("alike", "less"), ("alike", "greater"), ("greater", "less"),
           ("greater", "alike"))
@@ -22,7 +23,8 @@ def _pair_of_cells(chart, one, other, trees, wanted):
     if isinstance(trees[0], str) and isinstance(trees[1], str) and trees not in wanted:
         return ()
     chain = chain_of(chart.cells[one], 0)
-    for words, spans in outcomes(chart, chain, 1, other, ((trees[0], 0, 1), (trees[1], 0, 1))):
+    asked = ((trees[0], 0, 1, [pair[0] for pair in wanted]), (trees[1], 0, 1, SAID))
+    for words, spans in outcomes(chart, chain, 1, other, asked):
         if words in wanted:
             return records_in(chart, joined(chart, chain, other, spans, 1), (one, other))
     return ()

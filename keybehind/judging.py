@@ -1,6 +1,6 @@
 """Judging: whether a comparison is an order, and what its key is or what breaks it."""
 
-from keybehind.breaking import breaks, verdict
+from keybehind.breaking import follows, verdict
 from keybehind.charts import Chart
 from keybehind.comparing import UNLIKE, pair_said
 from keybehind.conditions import is_comparison, word_for
@@ -34,7 +34,9 @@ def broken_holds(family, comparison, thing):
         return said[(0, 0)] != "alike"
     if len(thing) == 2:
         return said[(1, 0)] != TURNED_WORDS[said[(0, 1)]]
-    return breaks(said, (0, 1, 2))
+    if said[(0, 1)] == "greater" or said[(1, 2)] == "greater":
+        return False
+    return said[(0, 2)] != follows(said[(0, 1)], said[(1, 2)])
 
 
 def key_holds(family, comparison, thing):

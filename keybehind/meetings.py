@@ -18,21 +18,23 @@ def chain_of(cell, who):
 def outcomes(chart, chain, many, cell, trees):
     """All words that trees can come to for a chain of so many records and one more of a cell, with its spans.
 
-    A tree stands with the numbers of its two records.
+    A tree stands with the numbers of its two records, and with the words that are wanted of it.
     """
-    known = [_spans_known(chain, who) for who in range(many)]
+    known = [spans_in(chain, who) for who in range(many)]
     found = []
     todo = [_first_spans(chart, chain, cell)]
     while todo:
         spans = todo.pop()
         told = [*known, {field: spans[at] for field, at in chart.places[cell].items()}]
         words = []
-        for tree, one, other in trees:
+        for tree, one, other, wanted in trees:
             word = word_in(tree, told[one], told[other])
             if isinstance(word, tuple):
                 field, beside = word if one == many else (word[1], word[0])
                 position = known[other if one == many else one][beside][0]
                 todo.extend(_parted(chart.slots[cell], spans, chart.places[cell][field], position))
+                break
+            if word not in wanted:
                 break
             words.append(word)
         else:
@@ -82,11 +84,7 @@ def records_in(chart, chain, cells):
     return tuple(records)
 
 
-def _entered(groups, who):
-    return tuple([(limit, tuple([(who, field) for field in fields])) for limit, fields in groups])
-
-
-def _spans_known(chain, who):
+def spans_in(chain, who):
     """The spans of the fields of a record that a chain has."""
     spans = {}
     for groups in list(chain.values()):
@@ -95,6 +93,10 @@ def _spans_known(chain, who):
                 if entry[0] == who:
                     spans[entry[1]] = (2 * at + 1, 2 * at + 1)
     return spans
+
+
+def _entered(groups, who):
+    return tuple([(limit, tuple([(who, field) for field in fields])) for limit, fields in groups])
 
 
 def _first_spans(chart, chain, cell):

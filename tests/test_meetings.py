@@ -7,6 +7,7 @@ from itertools import product
 from keybehind.charts import Chart
 from keybehind.families import Family
 from keybehind.meetings import chain_of, joined, outcomes, picked, records_in
+from keybehind.parsing import SAID
 from keybehind.trees import settled, word_in
 from tests import reference, samples
 from tests.helpers import SHOP, TIMES
@@ -46,7 +47,7 @@ class Meetings(unittest.TestCase):
                 one, other = choice.choices(range(len(chart.cells)), k=2)
                 tree = tree_between(chart, comparison, one, other)
                 chain = chain_of(chart.cells[one], 0)
-                for asked, turned in (((tree, 0, 1), False), ((tree_between(chart, comparison, other, one), 1, 0), True)):
+                for asked, turned in (((tree, 0, 1, SAID), False), ((tree_between(chart, comparison, other, one), 1, 0, SAID), True)):
                     found = outcomes(chart, chain, 1, other, (asked,))
                     rows = product(choice.sample(records[chart.cells[one]], min(40, len(records[chart.cells[one]]))), records[chart.cells[other]])
                     due = {word(s, r) if turned else word(r, s) for r, s in rows}
@@ -67,10 +68,10 @@ class Meetings(unittest.TestCase):
                 word = reference.worded(family, comparison)
                 cells = choice.choices(range(len(chart.cells)), k=3)
                 chain = chain_of(chart.cells[cells[0]], 0)
-                words, spans = choice.choice(outcomes(chart, chain, 1, cells[1], ((tree_between(chart, comparison, cells[1], cells[0]), 1, 0),)))
+                words, spans = choice.choice(outcomes(chart, chain, 1, cells[1], ((tree_between(chart, comparison, cells[1], cells[0]), 1, 0, SAID),)))
                 chain = joined(chart, chain, cells[1], spans, 1)
                 pairs = ((0, 1), (1, 0), (0, 2), (2, 1), (1, 2), (2, 0))
-                asked = [(tree_between(chart, comparison, cells[one], cells[other]), one, other) for one, other in pairs]
+                asked = [(tree_between(chart, comparison, cells[one], cells[other]), one, other, SAID) for one, other in pairs]
                 for words, spans in choice.sample(found := outcomes(chart, chain, 2, cells[2], asked), min(10, len(found))):
                     longer = joined(chart, chain, cells[2], spans, 2)
                     records = records_in(chart, longer, cells)
@@ -94,7 +95,7 @@ class Meetings(unittest.TestCase):
         tests = [(word, (one, x), (other, y)) for word in ("less", "same") for one, other in ("ab", "ba") for x in ("low", "high") for y in ("low", "high")]
         for one, other in product(range(3), repeat=2):
             groups = [len(chart.cells[at][1][0][1]) for at in (one, other)]
-            found = outcomes(chart, chain_of(chart.cells[one], 0), 1, other, ((self.asking(chart, tests, one, other), 0, 1),))
+            found = outcomes(chart, chain_of(chart.cells[one], 0), 1, other, ((self.asking(chart, tests, one, other), 0, 1, SAID),))
             lying = {reference.lying(PAIRS, (), *records_in(chart, joined(chart, chain_of(chart.cells[one], 0), other, spans, 1), (one, other))) for _, spans in found}
             self.assertEqual([len(found), len(lying)], [{(1, 1): 3, (1, 2): 5, (2, 1): 5, (2, 2): 13}[tuple(groups)]] * 2)
 
