@@ -1,7 +1,7 @@
 """Comparisons for the tests: orders, and some that are none."""
 
 from tests.helpers import SHOP, TIMES
-from tests.reference import BARE, MIXED, PAIRS, SHELVES, SINGLE, TRIPLE
+from tests.reference import BARE, MIXED, PAIRS, SHELVES, SINGLE, TRIPLE, UNEVEN
 from tests.samples import condition_from
 
 BACK = {"a": "b", "b": "a"}
@@ -70,7 +70,7 @@ def between(low, high, field):
     return ("and", over(low, field), under(high, field))
 
 
-# The longer side of a box, or its height if it has no other one, beside the length of what is long.
+# What is flat by its height, what is long by its length, both beside each other; all others behind them.
 WOVEN = ("if", ("and", ("is", "a", "flat"), ("is", "b", "long")),
          ("if", ("less", ("a", "height"), ("b", "length")), "less", ("if", ("less", ("b", "length"), ("a", "height")),
                                                                     "greater", "alike")),
@@ -81,7 +81,7 @@ WOVEN = ("if", ("and", ("is", "a", "flat"), ("is", "b", "long")),
            where(("is", "a", "long"), by("length"), first(("or", ("is", "a", "flat"), ("is", "a", "long")))))))
 A_LOW, B_LOW, A_HIGH, B_HIGH = ("a", "low"), ("b", "low"), ("a", "high"), ("b", "high")
 A_UPRIGHT = ("less", A_LOW, A_HIGH)
-# By the greater one of two values; only in single cells is it a value of one name.
+# By the greater one of two values, whichever it is.
 GREATER_SIDE = ("if", ("and", ("or", ("less", A_HIGH, B_HIGH), ("less", A_HIGH, B_LOW)),
                        ("or", ("less", A_LOW, B_HIGH), ("less", A_LOW, B_LOW))), "less",
                 ("if", ("and", ("or", ("less", B_HIGH, A_HIGH), ("less", B_HIGH, A_LOW)),
@@ -109,6 +109,8 @@ ORDERS = (
     (PAIRS, apart(A_UPRIGHT, by("high"), by("high"))), (PAIRS, apart(A_UPRIGHT, by("high", "-low"), by("low", "-high"))),
     (MIXED, by("age", "-size")), (MIXED, apart(under(0, "age"), by("age", "size"), by("-size", "age"))),
     (MIXED, first(over(0, "age"), first(under(1000, "size"), by("size")))),
+    (UNEVEN, by("rank", rest=by_known("depth"))), (UNEVEN, by("-rank", rest=first(("is", "a", "queen"), by_known("depth")))),
+    (UNEVEN, first(under(0, "rank"), by_known("-depth", "rank"))), (UNEVEN, where(over(0, "rank"), by("-rank", rest=by_known("depth")), by("rank"))),
     (SHELVES, WOVEN), (SHELVES, by_known("length", "rank")), (SHELVES, first(("is", "a", "row"), by_known("height", "rank"))),
     (SHELVES, apart(("is", "a", "thing"), by_known("-height", "length"), by("-rank"))),
 )

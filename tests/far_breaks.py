@@ -134,4 +134,13 @@ FAR = (
         "b.price == 1000) then greater else if a.cost < b.cost then less else if b.cost < a.cost then greater else "
         "alike",
     ),
+    (
+        "field x m\nfield y m\nfield z m\nkind k : ; x y z",
+        "if (b.y < a.y and a.z < b.z and a.y < a.x and b.x < b.y and a.x == a.z) then greater else if (a.y < b.y "
+        "and b.z < a.z and b.y < b.x and a.x < a.y and b.x == b.z) then less else if (a.y == a.z and b.y < b.x and "
+        "a.z < b.y) then less else if (b.y == b.z and a.y < a.x and b.z < a.y) then greater else if (a.y < a.z and "
+        "not b.y < b.z) then less else if (b.y < b.z and not a.y < a.z) then greater else if a.x < b.x then less "
+        "else if b.x < a.x then greater else if b.z < a.z then less else if a.z < b.z then greater else if a.y < "
+        "b.y then less else if b.y < a.y then greater else alike",
+    ),
 )

@@ -15,7 +15,9 @@ PAIRS = Family((("high", "size"), ("low", "size")), ("box", (), ("high", "low"))
 MIXED = Family((("age", "years"), ("size", "cents")), ("shirt", (), ("age", "size")))
 TRIPLE = Family((("x", "m"), ("y", "m"), ("z", "m")), ("dot", (), ("x", "y", "z")))
 BARE = Family((), ("base", (), ()), ("left", ("base",), ()), ("right", ("base",), ()), ("both", ("left", "right"), ()))
-FAMILIES = (SHOP, TIMES, SHELVES, SINGLE, PAIRS, MIXED, BARE)
+# What is the second measure of one kind is the only one of another kind.
+UNEVEN = Family((("depth", "size"), ("rank", "status")), ("hole", (), ("depth", "rank")), ("queen", (), ("rank",)))
+FAMILIES = (SHOP, TIMES, SHELVES, SINGLE, PAIRS, MIXED, UNEVEN, BARE)
 
 
 def records_with(family, values):

@@ -11,11 +11,11 @@ from keybehind.families import Family
 from keybehind.judging import broken_holds, judge, key_holds
 from keybehind.keys import is_normal, is_plain, plain
 from tests import reference, samples
-from tests.comparisons import (ABOVE, BELOW, BROKEN, MOST, ORDERS, WOVEN, apart, between, by, by_known, first, has, ordered_from,
+from tests.comparisons import (ABOVE, BELOW, BROKEN, MOST, ORDERS, WOVEN, apart, between, by, by_known, first, ordered_from,
                                over, under, where)
 from tests.far_breaks import FAR
 from tests.helpers import SHOP, TIMES, WORDY, bent, deep
-from tests.reference import BARE, FAMILIES, MIXED, PAIRS, SHELVES, SINGLE, TRIPLE, all_ways, is_order, key_word, table
+from tests.reference import BARE, MIXED, PAIRS, SHELVES, SINGLE, TRIPLE, UNEVEN, all_ways, is_order, key_word, table
 from tests.samples import tests_of, tree_from
 
 
@@ -70,7 +70,7 @@ class Judge(unittest.TestCase):
         found = {"key": 0, "broken": 0}
         choice = random.Random(7)
         for family, deepest, limits, times in ((TIMES, 3, (), 60), (SINGLE, 3, (), 60), (SINGLE, 3, (0,), 60), (MIXED, 3, (), 60),
-                                               (SHELVES, 3, (), 40), (SHOP, 3, (), 40), (PAIRS, 3, (), 60), (BARE, 3, (), 60)):
+                                               (SHELVES, 3, (), 40), (SHOP, 3, (), 40), (PAIRS, 3, (), 60), (UNEVEN, 3, (), 40), (BARE, 3, (), 60)):
             names = [field for field, _ in family.fields]
             for _ in range(times):
                 comparison = ordered_from(choice, tests_of(family, "ab", limits), tests_of(family, "a", limits), names,
