@@ -29,7 +29,7 @@ def together(*parts):
 
 
 def _tests_in(thing):
-    """All tests that compare values."""
+    """All tests in a condition or a comparison."""
     tests = []
     todo = [thing]
     while todo:
@@ -38,6 +38,6 @@ def _tests_in(thing):
             continue
         if part[0] in NESTS:
             todo.extend(part[1:])
-        elif part[0] != "is":
+        else:
             tests.append(part)
     return tests

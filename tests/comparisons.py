@@ -21,7 +21,12 @@ def swapped(thing):
 def first(condition, rest="alike"):
     """Records that have a condition are less than those that do not, then the rest."""
     other = swapped(condition)
-    return ("if", ("and", condition, ("not", other)), "less", ("if", ("and", other, ("not", condition)), "greater", rest))
+    return (
+        "if",
+        ("and", condition, ("not", other)),
+        "less",
+        ("if", ("and", other, ("not", condition)), "greater", rest),
+    )
 
 
 def where(condition, yes, no):
@@ -71,77 +76,212 @@ def between(low, high, field):
 
 
 # What is flat by its height, what is long by its length, both beside each other; all others behind them.
-WOVEN = ("if", ("and", ("is", "a", "flat"), ("is", "b", "long")),
-         ("if", ("less", ("a", "height"), ("b", "length")), "less", ("if", ("less", ("b", "length"), ("a", "height")),
-                                                                    "greater", "alike")),
-         ("if", ("and", ("is", "a", "long"), ("is", "b", "flat")),
-          ("if", ("less", ("a", "length"), ("b", "height")), "less", ("if", ("less", ("b", "height"), ("a", "length")),
-                                                                     "greater", "alike")),
-          ("if", ("and", ("is", "a", "flat"), ("is", "b", "flat")), by("height"),
-           where(("is", "a", "long"), by("length"), first(("or", ("is", "a", "flat"), ("is", "a", "long")))))))
+WOVEN = (
+    "if",
+    ("and", ("is", "a", "flat"), ("is", "b", "long")),
+    (
+        "if",
+        ("less", ("a", "height"), ("b", "length")),
+        "less",
+        ("if", ("less", ("b", "length"), ("a", "height")), "greater", "alike"),
+    ),
+    (
+        "if",
+        ("and", ("is", "a", "long"), ("is", "b", "flat")),
+        (
+            "if",
+            ("less", ("a", "length"), ("b", "height")),
+            "less",
+            ("if", ("less", ("b", "height"), ("a", "length")), "greater", "alike"),
+        ),
+        (
+            "if",
+            ("and", ("is", "a", "flat"), ("is", "b", "flat")),
+            by("height"),
+            where(("is", "a", "long"), by("length"), first(("or", ("is", "a", "flat"), ("is", "a", "long")))),
+        ),
+    ),
+)
 A_LOW, B_LOW, A_HIGH, B_HIGH = ("a", "low"), ("b", "low"), ("a", "high"), ("b", "high")
 A_UPRIGHT = ("less", A_LOW, A_HIGH)
 # By the greater one of two values, whichever it is.
-GREATER_SIDE = ("if", ("and", ("or", ("less", A_HIGH, B_HIGH), ("less", A_HIGH, B_LOW)),
-                       ("or", ("less", A_LOW, B_HIGH), ("less", A_LOW, B_LOW))), "less",
-                ("if", ("and", ("or", ("less", B_HIGH, A_HIGH), ("less", B_HIGH, A_LOW)),
-                        ("or", ("less", B_LOW, A_HIGH), ("less", B_LOW, A_LOW))), "greater", "alike"))
+GREATER_SIDE = (
+    "if",
+    (
+        "and",
+        ("or", ("less", A_HIGH, B_HIGH), ("less", A_HIGH, B_LOW)),
+        ("or", ("less", A_LOW, B_HIGH), ("less", A_LOW, B_LOW)),
+    ),
+    "less",
+    (
+        "if",
+        (
+            "and",
+            ("or", ("less", B_HIGH, A_HIGH), ("less", B_HIGH, A_LOW)),
+            ("or", ("less", B_LOW, A_HIGH), ("less", B_LOW, A_LOW)),
+        ),
+        "greater",
+        "alike",
+    ),
+)
 
 ORDERS = (
-    (BARE, "alike"), (BARE, first(("is", "a", "left"))), (BARE, first(("is", "a", "left"), first(("is", "a", "right")))),
+    (BARE, "alike"),
+    (BARE, first(("is", "a", "left"))),
+    (BARE, first(("is", "a", "left"), first(("is", "a", "right")))),
     (BARE, apart(("is", "a", "left"), first(("is", "a", "both")), first(("is", "a", "right")))),
-    (SINGLE, by("price")), (SINGLE, by("-price")), (SINGLE, first(under(0, "price"))), (SINGLE, first(over(1000, "price"), by("price"))),
-    (SINGLE, first(under(0, "price"), by("price"))), (SINGLE, first(under(0, "price"), by("-price"))),
-    (SINGLE, apart(("is", "a", "pen"), by("price"), by("-price"))), (SINGLE, by("price", rest=first(("is", "a", "gift")))),
+    (SINGLE, by("price")),
+    (SINGLE, by("-price")),
+    (SINGLE, first(under(0, "price"))),
+    (SINGLE, first(over(1000, "price"), by("price"))),
+    (SINGLE, first(under(0, "price"), by("price"))),
+    (SINGLE, first(under(0, "price"), by("-price"))),
+    (SINGLE, apart(("is", "a", "pen"), by("price"), by("-price"))),
+    (SINGLE, by("price", rest=first(("is", "a", "gift")))),
     (SINGLE, apart(("same", ("a", "price"), 0), first(("is", "a", "book")), by("price"))),
     (SINGLE, where(between(0, 1000, "price"), "alike", by("price"))),
     (SINGLE, where(between(0, 2000, "price"), by("-price"), by("price"))),
     (SINGLE, apart(under(0, "price"), by("price"), apart(("is", "a", "book"), "alike", by("-price")))),
-    (SHOP, by("price")), (SHOP, by("-price", rest=by_known("cost"))), (SHOP, by_known("cost", "-pages", "price")),
+    (SHOP, by("price")),
+    (SHOP, by("-price", rest=by_known("cost"))),
+    (SHOP, by_known("cost", "-pages", "price")),
     (SHOP, apart(("is", "a", "pen"), by("cost", "-price"), by("price", rest=by_known("pages")))),
     (SHOP, by_known("pages", rest=first(("is", "a", "pen"), by_known("cost")))),
-    (TIMES, by("begin", "end")), (TIMES, by("begin", "-end")), (TIMES, by("-end", "begin")), (TIMES, by("end")),
-    (TIMES, first(("less", ("a", "begin"), ("a", "end")), by("end"))), (TIMES, first(("same", ("a", "begin"), ("a", "end")))),
+    (TIMES, by("begin", "end")),
+    (TIMES, by("begin", "-end")),
+    (TIMES, by("-end", "begin")),
+    (TIMES, by("end")),
+    (TIMES, first(("less", ("a", "begin"), ("a", "end")), by("end"))),
+    (TIMES, first(("same", ("a", "begin"), ("a", "end")))),
     (TIMES, apart(("less", ("a", "begin"), ("a", "end")), by("begin", "end"), by("end", "-begin"))),
-    (TIMES, apart(under(0, "begin"), by("end"), by("-begin"))), (TIMES, first(between(0, 1000, "end"), by("begin", "-end"))),
+    (TIMES, apart(under(0, "begin"), by("end"), by("-begin"))),
+    (TIMES, first(between(0, 1000, "end"), by("begin", "-end"))),
     (TIMES, apart(("less", ("a", "begin"), ("a", "end")), by("begin", rest=first(under(0, "end"))), by("begin"))),
-    (PAIRS, GREATER_SIDE), (PAIRS, ("if", GREATER_SIDE[1], "less", ("if", GREATER_SIDE[3][1], "greater", by("low")))),
-    (PAIRS, apart(A_UPRIGHT, by("high"), by("high"))), (PAIRS, apart(A_UPRIGHT, by("high", "-low"), by("low", "-high"))),
-    (MIXED, by("age", "-size")), (MIXED, apart(under(0, "age"), by("age", "size"), by("-size", "age"))),
+    (PAIRS, GREATER_SIDE),
+    (PAIRS, ("if", GREATER_SIDE[1], "less", ("if", GREATER_SIDE[3][1], "greater", by("low")))),
+    (PAIRS, apart(A_UPRIGHT, by("high"), by("high"))),
+    (PAIRS, apart(A_UPRIGHT, by("high", "-low"), by("low", "-high"))),
+    (MIXED, by("age", "-size")),
+    (MIXED, apart(under(0, "age"), by("age", "size"), by("-size", "age"))),
     (MIXED, first(over(0, "age"), first(under(1000, "size"), by("size")))),
-    (UNEVEN, by("rank", rest=by_known("depth"))), (UNEVEN, by("-rank", rest=first(("is", "a", "queen"), by_known("depth")))),
-    (UNEVEN, first(under(0, "rank"), by_known("-depth", "rank"))), (UNEVEN, where(over(0, "rank"), by("-rank", rest=by_known("depth")), by("rank"))),
-    (SHELVES, WOVEN), (SHELVES, by_known("length", "rank")), (SHELVES, first(("is", "a", "row"), by_known("height", "rank"))),
+    (UNEVEN, by("rank", rest=by_known("depth"))),
+    (UNEVEN, by("-rank", rest=first(("is", "a", "queen"), by_known("depth")))),
+    (UNEVEN, first(under(0, "rank"), by_known("-depth", "rank"))),
+    (UNEVEN, where(over(0, "rank"), by("-rank", rest=by_known("depth")), by("rank"))),
+    (SHELVES, WOVEN),
+    (SHELVES, by_known("length", "rank")),
+    (SHELVES, first(("is", "a", "row"), by_known("height", "rank"))),
     (SHELVES, apart(("is", "a", "thing"), by_known("-height", "length"), by("-rank"))),
 )
 
 BELOW, ABOVE = ("less", ("a", "price"), ("b", "price")), ("less", ("b", "price"), ("a", "price"))
-OVERLAP = ("if", ("less", ("a", "end"), ("b", "begin")), "less", ("if", ("less", ("b", "end"), ("a", "begin")), "greater", "alike"))
+OVERLAP = (
+    "if",
+    ("less", ("a", "end"), ("b", "begin")),
+    "less",
+    ("if", ("less", ("b", "end"), ("a", "begin")), "greater", "alike"),
+)
 # Two of three values decide.
-TWO_LESS = ("or", ("and", ("less", ("a", "x"), ("b", "x")), ("less", ("a", "y"), ("b", "y"))),
-            ("and", ("less", ("a", "x"), ("b", "x")), ("less", ("a", "z"), ("b", "z"))),
-            ("and", ("less", ("a", "y"), ("b", "y")), ("less", ("a", "z"), ("b", "z"))))
+TWO_LESS = (
+    "or",
+    ("and", ("less", ("a", "x"), ("b", "x")), ("less", ("a", "y"), ("b", "y"))),
+    ("and", ("less", ("a", "x"), ("b", "x")), ("less", ("a", "z"), ("b", "z"))),
+    ("and", ("less", ("a", "y"), ("b", "y")), ("less", ("a", "z"), ("b", "z"))),
+)
 MOST = ("if", TWO_LESS, "less", ("if", swapped(TWO_LESS), "greater", "alike"))
 # In a ring: each kind is less than the next one, the last one less than the first one.
-RING = ("if", ("and", ("is", "a", "both"), ("is", "b", "both")), "alike",
-        ("if", ("or", ("and", ("is", "a", "both"), ("is", "b", "left")), ("and", ("is", "a", "left"), ("not", ("is", "a", "both")), ("is", "b", "right"), ("not", ("is", "b", "both"))),
-                ("and", ("is", "a", "right"), ("not", ("is", "a", "both")), ("is", "b", "both"))), "less",
-         ("if", ("or", ("and", ("is", "b", "both"), ("is", "a", "left")), ("and", ("is", "b", "left"), ("not", ("is", "b", "both")), ("is", "a", "right"), ("not", ("is", "a", "both"))),
-                 ("and", ("is", "b", "right"), ("not", ("is", "b", "both")), ("is", "a", "both"))), "greater", "alike")))
+RING = (
+    "if",
+    ("and", ("is", "a", "both"), ("is", "b", "both")),
+    "alike",
+    (
+        "if",
+        (
+            "or",
+            ("and", ("is", "a", "both"), ("is", "b", "left")),
+            (
+                "and",
+                ("is", "a", "left"),
+                ("not", ("is", "a", "both")),
+                ("is", "b", "right"),
+                ("not", ("is", "b", "both")),
+            ),
+            ("and", ("is", "a", "right"), ("not", ("is", "a", "both")), ("is", "b", "both")),
+        ),
+        "less",
+        (
+            "if",
+            (
+                "or",
+                ("and", ("is", "b", "both"), ("is", "a", "left")),
+                (
+                    "and",
+                    ("is", "b", "left"),
+                    ("not", ("is", "b", "both")),
+                    ("is", "a", "right"),
+                    ("not", ("is", "a", "both")),
+                ),
+                ("and", ("is", "b", "right"), ("not", ("is", "b", "both")), ("is", "a", "both")),
+            ),
+            "greater",
+            "alike",
+        ),
+    ),
+)
 
 BROKEN = (
-    (1, SHOP, "less"), (1, SHOP, "greater"), (1, BARE, ("if", ("is", "a", "both"), "less", "alike")), (1, SINGLE, ("if", BELOW, "less", "greater")),
-    (1, TIMES, ("if", ("less", ("a", "begin"), ("b", "end")), "less", "alike")), (1, SINGLE, ("if", under(0, "price"), "greater", "alike")),
-    (2, BARE, ("if", ("and", ("is", "a", "left"), ("not", ("is", "b", "left"))), "less", "alike")), (2, SINGLE, ("if", BELOW, "less", "alike")),
-    (2, SINGLE, ("if", ("or", BELOW, ABOVE), "greater", "alike")), (2, SHOP, ("if", BELOW, "less", ("if", ABOVE, "less", "alike"))),
-    (2, TIMES, ("if", ("less", ("a", "begin"), ("b", "begin")), "alike", ("if", ("less", ("b", "begin"), ("a", "begin")), "greater", "alike"))),
-    (3, TIMES, ("if", ("less", ("a", "begin"), ("a", "end")), OVERLAP, "alike")), (3, SHOP, by("cost")), (3, SHOP, by("pages", rest=by("price"))),
-    (3, TRIPLE, MOST), (3, BARE, RING), (3, SINGLE, where(("is", "a", "pen"), by("-price"), by("price"))),
-    (3, SINGLE, where(under(0, "price"), by("-price"), "alike")), (3, MIXED, ("if", ("and", ("less", ("a", "age"), ("b", "age")), ("less", ("a", "size"), ("b", "size"))), "less",
-                                                                              ("if", ("and", ("less", ("b", "age"), ("a", "age")), ("less", ("b", "size"), ("a", "size"))), "greater", "alike"))),
+    (1, SHOP, "less"),
+    (1, SHOP, "greater"),
+    (1, BARE, ("if", ("is", "a", "both"), "less", "alike")),
+    (1, SINGLE, ("if", BELOW, "less", "greater")),
+    (1, TIMES, ("if", ("less", ("a", "begin"), ("b", "end")), "less", "alike")),
+    (1, SINGLE, ("if", under(0, "price"), "greater", "alike")),
+    (2, BARE, ("if", ("and", ("is", "a", "left"), ("not", ("is", "b", "left"))), "less", "alike")),
+    (2, SINGLE, ("if", BELOW, "less", "alike")),
+    (2, SINGLE, ("if", ("or", BELOW, ABOVE), "greater", "alike")),
+    (2, SHOP, ("if", BELOW, "less", ("if", ABOVE, "less", "alike"))),
+    (
+        2,
+        TIMES,
+        (
+            "if",
+            ("less", ("a", "begin"), ("b", "begin")),
+            "alike",
+            ("if", ("less", ("b", "begin"), ("a", "begin")), "greater", "alike"),
+        ),
+    ),
+    (3, TIMES, ("if", ("less", ("a", "begin"), ("a", "end")), OVERLAP, "alike")),
+    (3, SHOP, by("cost")),
+    (3, SHOP, by("pages", rest=by("price"))),
+    (3, TRIPLE, MOST),
+    (3, BARE, RING),
+    (3, SINGLE, where(("is", "a", "pen"), by("-price"), by("price"))),
+    (3, SINGLE, where(under(0, "price"), by("-price"), "alike")),
+    (
+        3,
+        MIXED,
+        (
+            "if",
+            ("and", ("less", ("a", "age"), ("b", "age")), ("less", ("a", "size"), ("b", "size"))),
+            "less",
+            (
+                "if",
+                ("and", ("less", ("b", "age"), ("a", "age")), ("less", ("b", "size"), ("a", "size"))),
+                "greater",
+                "alike",
+            ),
+        ),
+    ),
     (3, PAIRS, where(A_UPRIGHT, by("high"), by("low"))),
-    (3, SINGLE, apart(("and", ("is", "a", "pen"), under(0, "price")), by("price"),
-                      where(("is", "a", "gift"), "alike", first(("is", "a", "book"), by("price"))))),
+    (
+        3,
+        SINGLE,
+        apart(
+            ("and", ("is", "a", "pen"), under(0, "price")),
+            by("price"),
+            where(("is", "a", "gift"), "alike", first(("is", "a", "book"), by("price"))),
+        ),
+    ),
 )
 
 

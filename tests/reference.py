@@ -8,8 +8,13 @@ from keybehind.families import Family
 
 TURNED = {"less": "greater", "alike": "alike", "greater": "less"}
 # Kinds with unlike fields: those of woven cells.
-SHELVES = Family((("height", "size"), ("length", "size"), ("rank", "place")), ("thing", (), ()),
-                 ("flat", ("thing",), ("height", "length")), ("long", ("thing",), ("length",)), ("row", (), ("rank",)))
+SHELVES = Family(
+    (("height", "size"), ("length", "size"), ("rank", "place")),
+    ("thing", (), ()),
+    ("flat", ("thing",), ("height", "length")),
+    ("long", ("thing",), ("length",)),
+    ("row", (), ("rank",)),
+)
 SINGLE = Family((("price", "money"),), ("pen", (), ("price",)), ("book", (), ("price",)), ("gift", ("pen",), ()))
 PAIRS = Family((("high", "size"), ("low", "size")), ("box", (), ("high", "low")))
 MIXED = Family((("age", "years"), ("size", "cents")), ("shirt", (), ("age", "size")))
@@ -27,8 +32,11 @@ def records_with(family, values):
 
 def all_ways(family, limits, many):
     """Records of which every row of so many shows all ways in which its values and the limits can lie."""
-    fields = max(sum(family.measure_of(field) == measure for field in family.fields_of(kind))
-                 for kind in family.names for measure in ("", *family.measures))
+    fields = max(
+        sum(family.measure_of(field) == measure for field in family.fields_of(kind))
+        for kind in family.names
+        for measure in ("", *family.measures)
+    )
     room = many * fields
     if not limits:
         return records_with(family, range(room))
@@ -172,6 +180,7 @@ def cells_in(block):
 
 def is_plain(family, key):
     """Whether a key is plain, word for word."""
+
     def plain(node, told):
         for block in node:
             if block[0] == "alike":
@@ -182,7 +191,7 @@ def is_plain(family, key):
                 at = next(number for number, group in enumerate(row) if field in group[1])
                 if row[at][0] or set(row[at][1]) & set(told[due]) or field != min(row[at][1]):
                     return False
-                gaps.add((ended(row[:at][::-1], told[due]), ended(row[at + 1:], told[due])))
+                gaps.add((ended(row[:at][::-1], told[due]), ended(row[at + 1 :], told[due])))
                 below[due] = (*told[due], field)
             if len(gaps) > 1 or not plain(block[3], below):
                 return False
@@ -209,7 +218,7 @@ def mattering(family, word, records):
     for kind, values in records:
         for at, field in enumerate(family.fields_of(kind)):
             for value in {row[at] for name, row in records if name == kind}:
-                other = (kind, (*values[:at], value, *values[at + 1:]))
+                other = (kind, (*values[:at], value, *values[at + 1 :]))
                 if (kind, field) not in found and word((kind, values), other) != "alike":
                     found.add((kind, field))
     return tuple(sorted(found))

@@ -28,7 +28,11 @@ def by_begin(*node, way="up"):
 
 def told_by_ends(field="end"):
     """By begin, then by end, in each cell on its own side."""
-    below = (("by", "up", ((DOWN, "end"),), (("alike", (DOWN,)),)), ("alike", (SAME,)), ("by", "up", ((UP, field),), (("alike", (UP,)),)))
+    below = (
+        ("by", "up", ((DOWN, "end"),), (("alike", (DOWN,)),)),
+        ("alike", (SAME,)),
+        ("by", "up", ((UP, field),), (("alike", (UP,)),)),
+    )
     return (SPAN, (), (by_begin(*below),))
 
 
@@ -42,7 +46,10 @@ def is_key_by_words(family, thing):
         return False
     if not isinstance(limits, tuple) or not all(isinstance(pair, tuple) and len(pair) == 2 for pair in limits):
         return False
-    if any(type(name) is not str or name not in family.measures or type(limit) is not int or limit % 1000 for name, limit in limits):
+    if any(
+        type(name) is not str or name not in family.measures or type(limit) is not int or limit % 1000
+        for name, limit in limits
+    ):
         return False
     if sorted(set(reads)) != list(reads) or sorted(set(limits)) != list(limits):
         return False
@@ -55,7 +62,11 @@ def is_node_by_words(family, cells, reads, node):
         return False
     found = []
     for block in node:
-        if not isinstance(block, tuple) or len(block) not in (2, 4) or block[0] != ("alike", None, "by")[len(block) - 2]:
+        if (
+            not isinstance(block, tuple)
+            or len(block) not in (2, 4)
+            or block[0] != ("alike", None, "by")[len(block) - 2]
+        ):
             return False
         row = block[len(block) // 2]
         if not isinstance(row, tuple) or not row or not all(isinstance(part, tuple) and len(part) == 2 for part in row):
@@ -67,7 +78,9 @@ def is_node_by_words(family, cells, reads, node):
         found += numbers
         if len(block) == 4:
             fields = [part[1] for part in row]
-            if block[1] not in ("up", "down") or any(repr((cell[0], field)) not in map(repr, reads) for cell, field in row):
+            if block[1] not in ("up", "down") or any(
+                repr((cell[0], field)) not in map(repr, reads) for cell, field in row
+            ):
                 return False
             if len({family.measure_of(field) for field in fields}) > 1:
                 return False
@@ -78,15 +91,18 @@ def is_node_by_words(family, cells, reads, node):
 
 def any_key(choice, family, reads, limits, deep=3):
     """Any key, plain or not."""
+
     def node(cells, deep):
         cells, blocks = choice.sample(cells, len(cells)), []
         while cells:
-            some = sorted(cells[:choice.randint(1, len(cells))])
+            some = sorted(cells[: choice.randint(1, len(cells))])
             fields = {cell: [field for kind, field in reads if kind == cell[0]] for cell in some}
             measures = sorted({family.measure_of(field) for cell in some[:1] for field in fields[cell]})
             if deep and measures and choice.random() < 0.7:
                 measure = choice.choice(measures)
-                lying = {cell: [field for field in fields[cell] if family.measure_of(field) == measure] for cell in some}
+                lying = {
+                    cell: [field for field in fields[cell] if family.measure_of(field) == measure] for cell in some
+                }
                 some = [cell for cell in some if lying[cell]]
                 pairs = tuple((cell, choice.choice(lying[cell])) for cell in some)
                 blocks.append(("by", choice.choice(("up", "down")), pairs, node(some, deep - 1)))
@@ -110,7 +126,7 @@ def changed(choice, node):
     elif block[0] == "by":
         node[at] = ("alike", tuple(cells_in(block)))
     elif len(block[1]) > 1 and way < 0.5:
-        node[at:at + 1] = [("alike", block[1][:1]), ("alike", block[1][1:])]
+        node[at : at + 1] = [("alike", block[1][:1]), ("alike", block[1][1:])]
     else:
         node[at - 1], node[at] = node[at], node[at - 1]
     return tuple(node)
@@ -121,7 +137,9 @@ def some_keys(times):
     choice = random.Random(11)
     for _ in range(times):
         family = choice.choice((*FAMILIES, TRIPLE))
-        reads = tuple((kind, field) for kind in sorted(family.names) for field in family.fields_of(kind) if choice.random() < 0.6)
+        reads = tuple(
+            (kind, field) for kind in sorted(family.names) for field in family.fields_of(kind) if choice.random() < 0.6
+        )
         limits = tuple((measure, limit) for measure in family.measures for limit in (0, 1000) if choice.random() < 0.25)
         try:
             key = any_key(choice, family, reads, limits, choice.randint(0, 3))
@@ -143,7 +161,11 @@ KEYS = tuple(some_keys(150))
 def near_records(family, limits, times=12):
     choice = random.Random(12)
     values = sorted({limit + step for _, limit in limits for step in (-2, -1, 0, 1, 2)} or {0, 1, 2, 3})
-    records = [(kind, tuple(choice.choice(values) for _ in family.fields_of(kind))) for kind in family.names for _ in range(times)]
+    records = [
+        (kind, tuple(choice.choice(values) for _ in family.fields_of(kind)))
+        for kind in family.names
+        for _ in range(times)
+    ]
     return sorted(set(records))
 
 
@@ -158,9 +180,39 @@ class IsKey(unittest.TestCase):
 
     def test_bent_at_any_depth(self):
         found = {True: 0, False: 0}
-        odd = (None, True, False, 0, 1, 1000, 500, "", "up", "down", "alike", "by", "begin", "time", (), ("begin",), [], ["begin"], {}, (None,), ((),), UP, (UP,), 10 ** 39, "x" * 4000)
-        for family, key in ((TIMES, told_by_ends()), (TIMES, judge(TIMES, ORDERS[21][1])[1]), (BARE, judge(BARE, ORDERS[1][1])[1]),
-                            (SINGLE, plain(SINGLE, judge(SINGLE, ORDERS[4][1])[1], (), (("money", 0),)))):
+        odd = (
+            None,
+            True,
+            False,
+            0,
+            1,
+            1000,
+            500,
+            "",
+            "up",
+            "down",
+            "alike",
+            "by",
+            "begin",
+            "time",
+            (),
+            ("begin",),
+            [],
+            ["begin"],
+            {},
+            (None,),
+            ((),),
+            UP,
+            (UP,),
+            10**39,
+            "x" * 4000,
+        )
+        for family, key in (
+            (TIMES, told_by_ends()),
+            (TIMES, judge(TIMES, ORDERS[21][1])[1]),
+            (BARE, judge(BARE, ORDERS[1][1])[1]),
+            (SINGLE, plain(SINGLE, judge(SINGLE, ORDERS[4][1])[1], (), (("money", 0),))),
+        ):
             for thing in bent(key, odd):
                 due = is_key_by_words(family, thing)
                 self.assertIs(is_key(family, thing), due, thing)
@@ -174,16 +226,38 @@ class IsKey(unittest.TestCase):
     def test_what_is_wrong_at_one_place(self):
         good = told_by_ends()
         self.assertIs(is_key(TIMES, good), True)
-        for bad in ((SPAN[::-1], (), good[2]), (SPAN + SPAN[1:], (), good[2]), (list(SPAN), (), good[2]), (SPAN, [], good[2]), (SPAN, (), list(good[2])),
-                    (SPAN, (("time", True),), good[2]), (SPAN, (("time", 500),), good[2]), (SPAN, (("money", 0),), good[2]), (SPAN, (("time", 0),), good[2]),
-                    (SPAN[:1], (), good[2]), good[:2], (*good, ()), (SPAN, (), good[2] + good[2]), (SPAN, (), ()), (SPAN, (), (("alike", ()), *good[2])),
-                    (SPAN, (), (("alike", (SAME, UP, DOWN)),)), (SPAN, (), (("alike", (SAME, DOWN)),)), (SPAN, (), (("alike", (UP, SAME, SAME, DOWN)),)),
-                    (SPAN, (), (("alike", list(CELLS)),)), (SPAN, (), (("alike", (SAME,)), ("alike", (DOWN,)))), (SPAN, (), (["alike", CELLS],)),
-                    (SPAN, (), (("alike", CELLS, ()),)), (SPAN, (), (("same", CELLS),)), (SPAN, (), (("by", "up", (), ()), *good[2])),
-                    (SPAN, (), (by_begin(way="left"),)), (SPAN, (), (by_begin(("alike", (UP, SAME))),)), (SPAN, (), (by_begin(*good[2], ("alike", (UP,))),)),
-                    (SPAN, (), (("by", "up", ((SAME, "begin"), (UP, "begin"), (DOWN, "begin")), (("alike", CELLS),)),)),
-                    (SPAN, (), (("by", "up", ((SAME, "begin"), (SAME, "end")), (("alike", (SAME,)),)), ("alike", (UP, DOWN)))),
-                    (SPAN, (), (("by", "up", ((SAME, "price"),), (("alike", (SAME,)),)), ("alike", (UP, DOWN))))):
+        for bad in (
+            (SPAN[::-1], (), good[2]),
+            (SPAN + SPAN[1:], (), good[2]),
+            (list(SPAN), (), good[2]),
+            (SPAN, [], good[2]),
+            (SPAN, (), list(good[2])),
+            (SPAN, (("time", True),), good[2]),
+            (SPAN, (("time", 500),), good[2]),
+            (SPAN, (("money", 0),), good[2]),
+            (SPAN, (("time", 0),), good[2]),
+            (SPAN[:1], (), good[2]),
+            good[:2],
+            (*good, ()),
+            (SPAN, (), good[2] + good[2]),
+            (SPAN, (), ()),
+            (SPAN, (), (("alike", ()), *good[2])),
+            (SPAN, (), (("alike", (SAME, UP, DOWN)),)),
+            (SPAN, (), (("alike", (SAME, DOWN)),)),
+            (SPAN, (), (("alike", (UP, SAME, SAME, DOWN)),)),
+            (SPAN, (), (("alike", list(CELLS)),)),
+            (SPAN, (), (("alike", (SAME,)), ("alike", (DOWN,)))),
+            (SPAN, (), (["alike", CELLS],)),
+            (SPAN, (), (("alike", CELLS, ()),)),
+            (SPAN, (), (("same", CELLS),)),
+            (SPAN, (), (("by", "up", (), ()), *good[2])),
+            (SPAN, (), (by_begin(way="left"),)),
+            (SPAN, (), (by_begin(("alike", (UP, SAME))),)),
+            (SPAN, (), (by_begin(*good[2], ("alike", (UP,))),)),
+            (SPAN, (), (("by", "up", ((SAME, "begin"), (UP, "begin"), (DOWN, "begin")), (("alike", CELLS),)),)),
+            (SPAN, (), (("by", "up", ((SAME, "begin"), (SAME, "end")), (("alike", (SAME,)),)), ("alike", (UP, DOWN)))),
+            (SPAN, (), (("by", "up", ((SAME, "price"),), (("alike", (SAME,)),)), ("alike", (UP, DOWN)))),
+        ):
             self.assertIs(is_key(TIMES, bad), False, bad)
             self.assertIs(is_plain(TIMES, bad), False, bad)
             self.assertIs(is_normal(TIMES, bad), False, bad)
@@ -194,15 +268,30 @@ class IsKey(unittest.TestCase):
         for fields, due in ((("age",) * 3, True), (("size",) * 3, True), (("age", "size", "age"), False)):
             key = (reads, (("cents", 0),), (("by", "up", tuple(zip(cells, fields)), (("alike", cells),)),))
             self.assertIs(is_key(reference.MIXED, key), due)
-        self.assertIs(is_key(reference.MIXED, (reads[:1], (), (("by", "up", ((cells_of(reference.MIXED, reads[:1], ())[0], "size"),), ()),))), False)
+        self.assertIs(
+            is_key(
+                reference.MIXED,
+                (reads[:1], (), (("by", "up", ((cells_of(reference.MIXED, reads[:1], ())[0], "size"),), ()),)),
+            ),
+            False,
+        )
 
     def test_bools_are_no_limits(self):
         for zero, due in ((0, True), (False, False)):
-            cells = [("pen", (("money", lying),)) for lying in ((((), ("price",)), ((zero,), ())), (((zero,), ()), ((), ("price",))), (((zero,), ("price",)),))]
+            cells = [
+                ("pen", (("money", lying),))
+                for lying in (
+                    (((), ("price",)), ((zero,), ())),
+                    (((zero,), ()), ((), ("price",))),
+                    (((zero,), ("price",)),),
+                )
+            ]
             family = Family((("price", "money"),), ("pen", (), ("price",)))
             reads = (("pen", "price"),)
             self.assertIs(is_key(family, (reads, (("money", 0),), (("alike", tuple(cells)),))), due)
-            self.assertIs(is_key(family, (reads, (("money", zero),), (("alike", cells_of(family, reads, (("money", 0),))),))), due)
+            self.assertIs(
+                is_key(family, (reads, (("money", zero),), (("alike", cells_of(family, reads, (("money", 0),))),))), due
+            )
 
     def test_deep_values_and_deep_keys(self):
         self.assertIs(is_key(TIMES, deep(((), (), ()), 28)), False)
@@ -227,8 +316,16 @@ class IsKey(unittest.TestCase):
                 # Beside seven limits, the one value lies in 15 ways; the other one in 15 if both are the same or on limits.
                 self.assertEqual(caught.exception.cells, 7 * 15 + 8 * 17)
                 many = many + 1
-            for thing in ((SPAN, limits), (SPAN, limits, (), ()), [SPAN, limits, ()], (SPAN, limits[::-1], ()), (SPAN, list(limits), ()),
-                          (SPAN[::-1], limits, ()), (SPAN, (*limits, ("time", True)), ()), (SPAN, (*limits, ("time", 100)), ())):
+            for thing in (
+                (SPAN, limits),
+                (SPAN, limits, (), ()),
+                [SPAN, limits, ()],
+                (SPAN, limits[::-1], ()),
+                (SPAN, list(limits), ()),
+                (SPAN[::-1], limits, ()),
+                (SPAN, (*limits, ("time", True)), ()),
+                (SPAN, (*limits, ("time", 100)), ()),
+            ):
                 self.assertIs(call(TIMES, thing), False)
         self.assertEqual(many, 18)
         far = tuple(("time", 1000 * at) for at in range(1000))
@@ -255,7 +352,12 @@ class IsKey(unittest.TestCase):
 
 
 def _by(field):
-    return ("if", ("less", ("a", field), ("b", field)), "less", ("if", ("less", ("b", field), ("a", field)), "greater", "alike"))
+    return (
+        "if",
+        ("less", ("a", field), ("b", field)),
+        "less",
+        ("if", ("less", ("b", field), ("a", field)), "greater", "alike"),
+    )
 
 
 class PlainAndNormal(unittest.TestCase):
@@ -274,7 +376,9 @@ class PlainAndNormal(unittest.TestCase):
         self.assertIs(is_plain(TIMES, (SPAN, (), (again,))), False)
         ends = ("by", "up", ((SAME, "end"),), (("alike", (SAME,)),))
         self.assertIs(is_plain(TIMES, (SPAN, (), (ends, ("alike", (UP, DOWN))))), False)
-        self.assertIs(is_plain(TIMES, (SPAN, (), (("by", "up", ((SAME, "begin"),), (ends,)), ("alike", (UP, DOWN))))), False)
+        self.assertIs(
+            is_plain(TIMES, (SPAN, (), (("by", "up", ((SAME, "begin"),), (ends,)), ("alike", (UP, DOWN))))), False
+        )
         # Two sides of what was told.
         sides = ("by", "up", ((UP, "end"), (DOWN, "end")), (("alike", (UP, DOWN)),))
         for node, due in (((by_begin(sides, ("alike", (SAME,))),), False), ((sides, ("alike", (SAME,))), True)):
@@ -283,11 +387,22 @@ class PlainAndNormal(unittest.TestCase):
         # Two sides of a limit, and a field on a limit.
         reads, limits = (("pen", "price"),), (("money", 0),)
         pens = Family((("price", "money"),), ("pen", (), ("price",)))
-        below, above, on = [("pen", (("money", lying),)) for lying in
-                            ((((), ("price",)), ((0,), ())), (((0,), ()), ((), ("price",))), (((0,), ("price",)),))]
-        for pair, other, due in (((below, above), on, False), ((below,), above, True), ((above,), below, True), ((on,), above, False)):
+        below, above, on = [
+            ("pen", (("money", lying),))
+            for lying in ((((), ("price",)), ((0,), ())), (((0,), ()), ((), ("price",))), (((0,), ("price",)),))
+        ]
+        for pair, other, due in (
+            ((below, above), on, False),
+            ((below,), above, True),
+            ((above,), below, True),
+            ((on,), above, False),
+        ):
             rest = sorted({below, above, on} - set(pair))
-            key = (reads, limits, (("by", "up", tuple((cell, "price") for cell in pair), (("alike", pair),)), ("alike", tuple(rest))))
+            key = (
+                reads,
+                limits,
+                (("by", "up", tuple((cell, "price") for cell in pair), (("alike", pair),)), ("alike", tuple(rest))),
+            )
             self.assertIs(is_key(pens, key), True)
             self.assertIs(is_plain(pens, key), due, pair)
 
@@ -302,8 +417,15 @@ class PlainAndNormal(unittest.TestCase):
         choice = random.Random(13)
         many = 0
         for family, key in KEYS:
-            reads = tuple((kind, field) for kind in sorted(family.names) for field in family.fields_of(kind) if choice.random() < 0.3)
-            limits = tuple((measure, limit) for measure in family.measures for limit in (-1000, 0) if choice.random() < 0.2)
+            reads = tuple(
+                (kind, field)
+                for kind in sorted(family.names)
+                for field in family.fields_of(kind)
+                if choice.random() < 0.3
+            )
+            limits = tuple(
+                (measure, limit) for measure in family.measures for limit in (-1000, 0) if choice.random() < 0.2
+            )
             both = tuple(sorted({*key[0], *reads})), tuple(sorted({*key[1], *limits}))
             try:
                 cells = cells_of(family, *both)
@@ -340,12 +462,19 @@ class PlainAndNormal(unittest.TestCase):
         for family, key in KEYS[::3]:
             reads, limits, _ = least = normal(family, key)
             values = [limit for _, limit in limits]
-            records = reference.records_with(family, sorted({limit + step for limit in values or [0] for step in (-2, -1, 0, 1, 2)}))
+            records = reference.records_with(
+                family, sorted({limit + step for limit in values or [0] for step in (-2, -1, 0, 1, 2)})
+            )
             if len(records) > 130:
                 continue
-            self.assertEqual(reference.mattering(family, lambda one, other: key_word(family, least, one, other), records), reads)
+            self.assertEqual(
+                reference.mattering(family, lambda one, other: key_word(family, least, one, other), records), reads
+            )
             if limits:
-                self.assertEqual(reference.needed(family, lambda one, other: key_word(family, least, one, other), limits, records), limits)
+                self.assertEqual(
+                    reference.needed(family, lambda one, other: key_word(family, least, one, other), limits, records),
+                    limits,
+                )
                 many = many + 1
         self.assertGreater(many, 10)
 
@@ -353,7 +482,11 @@ class PlainAndNormal(unittest.TestCase):
         for family, comparison in ORDERS:
             key = judge(family, comparison)[1]
             for measure in family.measures:
-                for limits in (((measure, 5000),), ((measure, -7000), (measure, 5000)), ((measure, -1000), (measure, 0), (measure, 1000))):
+                for limits in (
+                    ((measure, 5000),),
+                    ((measure, -7000), (measure, 5000)),
+                    ((measure, -1000), (measure, 0), (measure, 1000)),
+                ):
                     if len(family.names) > 3:
                         continue
                     try:
@@ -390,13 +523,25 @@ class Saying(unittest.TestCase):
 
     def test_words(self):
         key = told_by_ends()
-        for one, other, word in (((1, 2), (1, 2), "alike"), ((1, 2), (1, 3), "less"), ((1, 2), (1, 1), "greater"), ((1, 0), (1, 1), "less"), ((2, 0), (1, 9), "greater"),
-                                 ((1, 10 ** 29), (1, -10 ** 29), "greater")):
+        for one, other, word in (
+            ((1, 2), (1, 2), "alike"),
+            ((1, 2), (1, 3), "less"),
+            ((1, 2), (1, 1), "greater"),
+            ((1, 0), (1, 1), "less"),
+            ((2, 0), (1, 9), "greater"),
+            ((1, 10**29), (1, -(10**29)), "greater"),
+        ):
             self.assertEqual(key_says(family=TIMES, key=key, one=("span", one), other=("span", other)), word)
         down = (SPAN, (), (by_begin(way="down"),))
-        self.assertEqual([key_says(TIMES, down, ("span", (1, 0)), ("span", (value, 5))) for value in (0, 1, 2)], ["less", "alike", "greater"])
+        self.assertEqual(
+            [key_says(TIMES, down, ("span", (1, 0)), ("span", (value, 5))) for value in (0, 1, 2)],
+            ["less", "alike", "greater"],
+        )
         blocks = (SPAN, (), (("alike", (UP,)), ("alike", (DOWN,)), ("alike", (SAME,))))
-        self.assertEqual([key_says(TIMES, blocks, ("span", (1, 0)), ("span", row)) for row in ((0, 1), (9, 3), (4, 4))], ["greater", "alike", "less"])
+        self.assertEqual(
+            [key_says(TIMES, blocks, ("span", (1, 0)), ("span", row)) for row in ((0, 1), (9, 3), (4, 4))],
+            ["greater", "alike", "less"],
+        )
 
     def test_comparisons(self):
         for family, comparison in ORDERS:

@@ -13,10 +13,24 @@ from tests import reference, samples
 from tests.helpers import SHOP, TIMES
 from tests.reference import PAIRS, SHELVES, SINGLE, TRIPLE, cell
 
-LAYOUTS = Family((("p", "m"), ("q", "m"), ("r", "n"), ("s", "n")), ("k", (), ("p", "q")), ("l", (), ("q", "r", "s")), ("j", (), ("s",)))
+LAYOUTS = Family(
+    (("p", "m"), ("q", "m"), ("r", "n"), ("s", "n")),
+    ("k", (), ("p", "q")),
+    ("l", (), ("q", "r", "s")),
+    ("j", (), ("s",)),
+)
 # The records have every field read, so that a comparison can ask for any of them.
-CHARTS = ((TIMES, ()), (TIMES, (("time", 0),)), (PAIRS, ()), (SHELVES, ()), (SHOP, ()), (SHOP, (("money", 0), ("size", 0))),
-          (SINGLE, (("money", 0), ("money", 1000))), (LAYOUTS, ()), (LAYOUTS, (("m", 0), ("n", 0))))
+CHARTS = (
+    (TIMES, ()),
+    (TIMES, (("time", 0),)),
+    (PAIRS, ()),
+    (SHELVES, ()),
+    (SHOP, ()),
+    (SHOP, (("money", 0), ("size", 0))),
+    (SINGLE, (("money", 0), ("money", 1000))),
+    (LAYOUTS, ()),
+    (LAYOUTS, (("m", 0), ("n", 0))),
+)
 
 
 def whole_chart(family, limits):
@@ -31,8 +45,15 @@ def tree_between(chart, comparison, one, other):
 class Meetings(unittest.TestCase):
     def comparisons(self, choice, family, limits, times):
         tests = samples.tests_of(family, "ab", [limit for _, limit in limits])
-        across = [test for test in tests if test[0] != "is" and {"a", "b"} == {side[0] for side in test[1:] if isinstance(side, tuple)}]
-        return [samples.tree_from(choice, across if choice.random() < 0.7 else tests, choice.randint(1, 4)) for _ in range(times)]
+        across = [
+            test
+            for test in tests
+            if test[0] != "is" and {"a", "b"} == {side[0] for side in test[1:] if isinstance(side, tuple)}
+        ]
+        return [
+            samples.tree_from(choice, across if choice.random() < 0.7 else tests, choice.randint(1, 4))
+            for _ in range(times)
+        ]
 
     def test_all_words_of_two_cells(self):
         choice = random.Random(41)
@@ -47,14 +68,23 @@ class Meetings(unittest.TestCase):
                 one, other = choice.choices(range(len(chart.cells)), k=2)
                 tree = tree_between(chart, comparison, one, other)
                 chain = chain_of(chart.cells[one], 0)
-                for asked, turned in (((tree, 0, 1, SAID), False), ((tree_between(chart, comparison, other, one), 1, 0, SAID), True)):
+                for asked, turned in (
+                    ((tree, 0, 1, SAID), False),
+                    ((tree_between(chart, comparison, other, one), 1, 0, SAID), True),
+                ):
                     found = outcomes(chart, chain, 1, other, (asked,))
-                    rows = product(choice.sample(records[chart.cells[one]], min(40, len(records[chart.cells[one]]))), records[chart.cells[other]])
+                    rows = product(
+                        choice.sample(records[chart.cells[one]], min(40, len(records[chart.cells[one]]))),
+                        records[chart.cells[other]],
+                    )
                     due = {word(s, r) if turned else word(r, s) for r, s in rows}
                     self.assertLessEqual(due, {words[0] for words, _ in found})
                     for words, spans in found:
                         r, s = records_in(chart, joined(chart, chain, other, spans, 1), (one, other))
-                        self.assertEqual([cell(family, chart.reads, chart.limits, record) for record in (r, s)], [chart.cells[one], chart.cells[other]])
+                        self.assertEqual(
+                            [cell(family, chart.reads, chart.limits, record) for record in (r, s)],
+                            [chart.cells[one], chart.cells[other]],
+                        )
                         self.assertEqual(words[0], word(s, r) if turned else word(r, s))
                         many = many + 1
         self.assertGreater(many, 800)
@@ -68,20 +98,34 @@ class Meetings(unittest.TestCase):
                 word = reference.worded(family, comparison)
                 cells = choice.choices(range(len(chart.cells)), k=3)
                 chain = chain_of(chart.cells[cells[0]], 0)
-                words, spans = choice.choice(outcomes(chart, chain, 1, cells[1], ((tree_between(chart, comparison, cells[1], cells[0]), 1, 0, SAID),)))
+                words, spans = choice.choice(
+                    outcomes(
+                        chart, chain, 1, cells[1], ((tree_between(chart, comparison, cells[1], cells[0]), 1, 0, SAID),)
+                    )
+                )
                 chain = joined(chart, chain, cells[1], spans, 1)
                 pairs = ((0, 1), (1, 0), (0, 2), (2, 1), (1, 2), (2, 0))
-                asked = [(tree_between(chart, comparison, cells[one], cells[other]), one, other, SAID) for one, other in pairs]
-                for words, spans in choice.sample(found := outcomes(chart, chain, 2, cells[2], asked), min(10, len(found))):
+                asked = [
+                    (tree_between(chart, comparison, cells[one], cells[other]), one, other, SAID)
+                    for one, other in pairs
+                ]
+                for words, spans in choice.sample(
+                    found := outcomes(chart, chain, 2, cells[2], asked), min(10, len(found))
+                ):
                     longer = joined(chart, chain, cells[2], spans, 2)
                     records = records_in(chart, longer, cells)
-                    self.assertEqual([cell(family, chart.reads, chart.limits, record) for record in records], [chart.cells[at] for at in cells])
+                    self.assertEqual(
+                        [cell(family, chart.reads, chart.limits, record) for record in records],
+                        [chart.cells[at] for at in cells],
+                    )
                     self.assertEqual(words, tuple(word(records[one], records[other]) for one, other in pairs))
                     for whos in ((0, 2), (2, 1), (1, 0)):
                         fewer = picked(longer, whos)
                         some = records_in(chart, fewer, [cells[who] for who in whos])
-                        self.assertEqual(reference.lying(family, chart.limits, *some),
-                                         reference.lying(family, chart.limits, *[records[who] for who in whos]))
+                        self.assertEqual(
+                            reference.lying(family, chart.limits, *some),
+                            reference.lying(family, chart.limits, *[records[who] for who in whos]),
+                        )
                         # Nothing is left of the third one: all groups have limits or values of the two.
                         for groups in fewer.values():
                             self.assertTrue(all(limit or entries for limit, entries in groups))
@@ -92,12 +136,29 @@ class Meetings(unittest.TestCase):
     def test_each_way_once(self):
         # Two values beside two others of one measure can lie in 13 ways; if all are asked for, each is found once.
         chart = whole_chart(PAIRS, ())
-        tests = [(word, (one, x), (other, y)) for word in ("less", "same") for one, other in ("ab", "ba") for x in ("low", "high") for y in ("low", "high")]
+        tests = [
+            (word, (one, x), (other, y))
+            for word in ("less", "same")
+            for one, other in ("ab", "ba")
+            for x in ("low", "high")
+            for y in ("low", "high")
+        ]
         for one, other in product(range(3), repeat=2):
             groups = [len(chart.cells[at][1][0][1]) for at in (one, other)]
-            found = outcomes(chart, chain_of(chart.cells[one], 0), 1, other, ((self.asking(chart, tests, one, other), 0, 1, SAID),))
-            lying = {reference.lying(PAIRS, (), *records_in(chart, joined(chart, chain_of(chart.cells[one], 0), other, spans, 1), (one, other))) for _, spans in found}
-            self.assertEqual([len(found), len(lying)], [{(1, 1): 3, (1, 2): 5, (2, 1): 5, (2, 2): 13}[tuple(groups)]] * 2)
+            found = outcomes(
+                chart, chain_of(chart.cells[one], 0), 1, other, ((self.asking(chart, tests, one, other), 0, 1, SAID),)
+            )
+            lying = {
+                reference.lying(
+                    PAIRS,
+                    (),
+                    *records_in(chart, joined(chart, chain_of(chart.cells[one], 0), other, spans, 1), (one, other)),
+                )
+                for _, spans in found
+            }
+            self.assertEqual(
+                [len(found), len(lying)], [{(1, 1): 3, (1, 2): 5, (2, 1): 5, (2, 2): 13}[tuple(groups)]] * 2
+            )
 
     def asking(self, chart, tests, one, other):
         """A tree that asks for all of the tests, one after the other, whatever the answers are."""
@@ -109,11 +170,29 @@ class Meetings(unittest.TestCase):
     def test_words_in_spans(self):
         less, same = ("less", ("a", "x"), ("b", "y")), ("same", ("b", "y"), ("a", "x"))
         tree = ("if", less, "less", ("if", same, "alike", "greater"))
-        for span, other, due in (((1, 1), (1, 1), "alike"), ((1, 1), (2, 2), "less"), ((3, 3), (2, 2), "greater"), ((0, 2), (3, 3), "less"), ((4, 6), (3, 3), "greater"),
-                                 ((0, 3), (3, 3), ("x", "y")), ((3, 3), (3, 5), ("x", "y")), ((3, 3), (0, 6), ("x", "y"))):
+        for span, other, due in (
+            ((1, 1), (1, 1), "alike"),
+            ((1, 1), (2, 2), "less"),
+            ((3, 3), (2, 2), "greater"),
+            ((0, 2), (3, 3), "less"),
+            ((4, 6), (3, 3), "greater"),
+            ((0, 3), (3, 3), ("x", "y")),
+            ((3, 3), (3, 5), ("x", "y")),
+            ((3, 3), (0, 6), ("x", "y")),
+        ):
             self.assertEqual(word_in(tree, {"x": span}, {"y": other}), due)
-        self.assertEqual(word_in(("if", ("not", ("less", ("b", "y"), ("a", "x"))), "less", "greater"), {"x": (1, 1)}, {"y": (1, 1)}), "less")
-        self.assertEqual(word_in(("if", ("and", less, same), "less", ("if", ("or", less, same), "alike", "greater")), {"x": (1, 1)}, {"y": (3, 3)}), "alike")
+        self.assertEqual(
+            word_in(("if", ("not", ("less", ("b", "y"), ("a", "x"))), "less", "greater"), {"x": (1, 1)}, {"y": (1, 1)}),
+            "less",
+        )
+        self.assertEqual(
+            word_in(
+                ("if", ("and", less, same), "less", ("if", ("or", less, same), "alike", "greater")),
+                {"x": (1, 1)},
+                {"y": (3, 3)},
+            ),
+            "alike",
+        )
 
 
 if __name__ == "__main__":

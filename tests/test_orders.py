@@ -6,8 +6,19 @@ from itertools import combinations, product
 
 from keybehind.cells import cells_of
 from keybehind.conditions import holds
-from keybehind.errors import (BadComparison, BadCondition, BadKey, Broken, NoField, NoKind, NotOrder, NotRecord, Opposite, OtherFamily,
-                              TooMany)
+from keybehind.errors import (
+    BadComparison,
+    BadCondition,
+    BadKey,
+    Broken,
+    NoField,
+    NoKind,
+    NotOrder,
+    NotRecord,
+    Opposite,
+    OtherFamily,
+    TooMany,
+)
 from keybehind.families import Family
 from keybehind.judging import broken_holds, judge
 from keybehind.keys import is_normal, plain
@@ -18,14 +29,40 @@ from tests.helpers import SHOP, TIMES, bent, deep
 from tests.reference import BARE, FAMILIES, MIXED, SHELVES, SINGLE, TRIPLE, TURNED, broken, key_word
 from tests.samples import condition_from, tests_of
 
-ODD = (None, True, False, 0, 1, 1000, "", "a", "price", "alike", "pens", "-", "--price", "price-", "PRICE", (), ("less",), [], ["price"], {}, (None,), 10 ** 39, "x" * 4000)
+ODD = (
+    None,
+    True,
+    False,
+    0,
+    1,
+    1000,
+    "",
+    "a",
+    "price",
+    "alike",
+    "pens",
+    "-",
+    "--price",
+    "price-",
+    "PRICE",
+    (),
+    ("less",),
+    [],
+    ["price"],
+    {},
+    (None,),
+    10**39,
+    "x" * 4000,
+)
 CHAOS = random.Random(20)
 
 
 def any_order(choice, family, limits=(0,), deepest=3):
     names = [field for field, _ in family.fields]
     while True:
-        comparison = ordered_from(choice, tests_of(family, "ab", limits), tests_of(family, "a", limits), names, choice.randint(0, deepest))
+        comparison = ordered_from(
+            choice, tests_of(family, "ab", limits), tests_of(family, "a", limits), names, choice.randint(0, deepest)
+        )
         try:
             return Order(family, comparison)
         except (NotOrder, TooMany):
@@ -35,7 +72,13 @@ def any_order(choice, family, limits=(0,), deepest=3):
 def some_records(family, limits=(0,), times=12):
     choice = random.Random(21)
     values = sorted({limit + step for limit in limits for step in (-2, -1, 0, 1, 2)} | {5})
-    return sorted({(kind, tuple(choice.choice(values) for _ in family.fields_of(kind))) for kind in family.names for _ in range(times)})
+    return sorted(
+        {
+            (kind, tuple(choice.choice(values) for _ in family.fields_of(kind)))
+            for kind in family.names
+            for _ in range(times)
+        }
+    )
 
 
 def groups_of_orders(times, many=2):
@@ -96,17 +139,38 @@ class Making(Case):
 
     def test_by_a_key(self):
         for family, comparison, order in KNOWN:
-            for key in (order.key, plain(family, order.key, tuple((kind, field) for kind in family.names[:1] for field in family.fields_of(kind)), ())):
+            for key in (
+                order.key,
+                plain(
+                    family,
+                    order.key,
+                    tuple((kind, field) for kind in family.names[:1] for field in family.fields_of(kind)),
+                    (),
+                ),
+            ):
                 found = Order.of(family, key)
-                self.assertEqual((found.family, found.key, found.reads, found.limits), (family, order.key, *order.key[:2]))
+                self.assertEqual(
+                    (found.family, found.key, found.reads, found.limits), (family, order.key, *order.key[:2])
+                )
                 self.assertEqual(found, order)
         cells = cells_of(SINGLE, (("pen", "price"),), ())
         upside = ((("pen", "price"),), (), (("alike", cells[2:]), ("alike", cells[:2])))
-        self.assertEqual(Order.of(key=upside, family=SINGLE).key, ((), (), (("alike", (("pen", ()),)), ("alike", (("book", ()), ("gift", ()))))))
+        self.assertEqual(
+            Order.of(key=upside, family=SINGLE).key,
+            ((), (), (("alike", (("pen", ()),)), ("alike", (("book", ()), ("gift", ()))))),
+        )
 
     def test_values_that_are_no_keys(self):
         key = KNOWN[4][2].key
-        for thing in (*ODD, key[:2], (*key, ()), list(key), (key[0], key[1], ()), (key[0], (("money", True),), key[2]), deep(key, 20)):
+        for thing in (
+            *ODD,
+            key[:2],
+            (*key, ()),
+            list(key),
+            (key[0], key[1], ()),
+            (key[0], (("money", True),), key[2]),
+            deep(key, 20),
+        ):
             self.assertIs(self.assert_raises(BadKey, lambda: Order.of(SINGLE, thing)).thing, thing)
         self.assertIs(self.assert_raises(BadKey, lambda: Order.of(SHOP, key)).thing, key)
         limits = tuple(("money", 1000 * at) for at in range(20))
@@ -131,12 +195,19 @@ class Making(Case):
                 elif x != y:
                     return "less" if (x < y) == (name == field) else "greater"
             return "alike"
+
         return word
 
     def test_records_without_a_field_come_last(self):
         up, down = Order.by(SHOP, "cost"), Order.by(SHOP, "-cost")
-        self.assertEqual([up(("pen", (5, 1)), ("ware", (0,))), down(("pen", (5, 1)), ("ware", (0,))), (-up)(("pen", (5, 1)), ("ware", (0,)))],
-                         ["less", "less", "greater"])
+        self.assertEqual(
+            [
+                up(("pen", (5, 1)), ("ware", (0,))),
+                down(("pen", (5, 1)), ("ware", (0,))),
+                (-up)(("pen", (5, 1)), ("ware", (0,))),
+            ],
+            ["less", "less", "greater"],
+        )
         self.assertNotEqual(-up, down)
         self.assertEqual(-Order.by(SHOP, "price"), Order.by(SHOP, "-price"))
         self.assertEqual(up, Order(SHOP, by_known("cost")))
@@ -153,14 +224,26 @@ class Making(Case):
         family = Family(fields, *[(name, (), ("x", "y", "z")) for name in "pqrst"], ("u", (), ("x", "y")))
         self.assertEqual(Order.by(family, "x", "-y").reads, tuple((name, field) for name in "pqrstu" for field in "xy"))
         self.assertEqual(len(cells_of(family, *Order.by(family, "x", "y", "z").key[:2])), 68)
-        wide = Family((*fields, ("v", "n")), *[(name, (), ("x", "y", "z")) for name in "pqrstu"], ("o", (), ("x", "y", "z")), ("n", (), ("x", "y", "z")))
+        wide = Family(
+            (*fields, ("v", "n")),
+            *[(name, (), ("x", "y", "z")) for name in "pqrstu"],
+            ("o", (), ("x", "y", "z")),
+            ("n", (), ("x", "y", "z"))
+        )
         self.assert_raises(TooMany, lambda: Order.by(wide, "x", "y", "z"), cells=8 * 13)
         self.assert_raises(NoField, lambda: Order.by(wide, "x", "y", "z", "u"), field="u")
         self.assertEqual(len(Order.by(wide, "x", "y").reads), 16)
 
     def test_by_kinds(self):
         for family in FAMILIES:
-            for row in [(), *[(kind,) for kind in family.names], *product(family.names, repeat=2), family.names, family.names[::-1]]:
+            for row in [
+                (),
+                *[(kind,) for kind in family.names],
+                *product(family.names, repeat=2),
+                family.names,
+                family.names[::-1],
+            ]:
+
                 def rank(record):
                     return min([at for at, kind in enumerate(row) if kind in family.line(record[0])], default=len(row))
 
@@ -168,7 +251,10 @@ class Making(Case):
                     return "less" if rank(one) < rank(other) else "greater" if rank(one) > rank(other) else "alike"
 
                 self.assert_says(Order.by_kinds(family, *row), word, some_records(family, (0,), 2))
-        self.assertEqual(Order.by_kinds(SHOP, "pen", "ware").key, ((), (), (("alike", (("pen", ()),)), ("alike", (("book", ()), ("ware", ()))))))
+        self.assertEqual(
+            Order.by_kinds(SHOP, "pen", "ware").key,
+            ((), (), (("alike", (("pen", ()),)), ("alike", (("book", ()), ("ware", ()))))),
+        )
         for thing in (*ODD, "pens"):
             self.assertIs(self.assert_raises(NoKind, lambda: Order.by_kinds(SHOP, "pen", thing, None)).kind, thing)
 
@@ -181,7 +267,9 @@ class Saying(Case):
             if not due:
                 self.assertIs(self.assert_raises(NotRecord, lambda: order(thing, None)).thing, thing)
                 self.assertIs(self.assert_raises(NotRecord, lambda: order(("pen", (1, 2)), thing)).thing, thing)
-                self.assertIs(self.assert_raises(NotRecord, lambda: order.row(("pen", (1, 2)), thing, None)).thing, thing)
+                self.assertIs(
+                    self.assert_raises(NotRecord, lambda: order.row(("pen", (1, 2)), thing, None)).thing, thing
+                )
         self.assertEqual(order(one=("pen", (1, 2)), other=("pen", (1, 2))), "alike")
 
     def test_places(self):
@@ -217,7 +305,9 @@ class Saying(Case):
             self.assertIs(type(found), tuple)
             self.assertEqual(list(found), sorted(records, key=order.place))
             # Those that are alike stay as they were passed.
-            ranked = [(sum(order(other, record) == "less" for other in records), at) for at, record in enumerate(records)]
+            ranked = [
+                (sum(order(other, record) == "less" for other in records), at) for at, record in enumerate(records)
+            ]
             self.assertEqual(list(found), [records[at] for _, at in sorted(ranked)])
         self.assertEqual(order.row(), ())
         pens = [("pen", (3,)), ("book", (1,)), ("gift", (2,))]
@@ -231,7 +321,11 @@ class OneThenOther(Case):
                 both = one + other
             except TooMany:
                 continue
-            self.assert_says(both, lambda r, s: one(r, s) if one(r, s) != "alike" else other(r, s), some_records(family, limits or (0,), 5))
+            self.assert_says(
+                both,
+                lambda r, s: one(r, s) if one(r, s) != "alike" else other(r, s),
+                some_records(family, limits or (0,), 5),
+            )
 
     def test_names(self):
         for family, _, order in KNOWN:
@@ -249,7 +343,9 @@ class OneThenOther(Case):
     def test_nothing_is_changed(self):
         one, other = Order.by(TIMES, "begin"), Order.by(TIMES, "end")
         keys = one.key, other.key
-        one + other, -one, one & other, one <= other, one == other, one + "end", one[("and",)], one.changed(("and",), other)
+        one + other, -one, one & other, one <= other, one == other, one + "end", one[("and",)], one.changed(
+            ("and",), other
+        )
         self.assertEqual((one.key, other.key), keys)
         self.assertEqual((one.reads, one.limits), keys[0][:2])
 
@@ -266,11 +362,20 @@ class Finer(Case):
     def test_finer_and_equal(self):
         found = {True: 0, False: 0}
         for family, limits, (one, other) in TWO:
-            for less, more in ((one, other), (other, one), (one, one), (one, one + other), (one + other, one), (one & other, other)):
+            for less, more in (
+                (one, other),
+                (other, one),
+                (one, one),
+                (one, one + other),
+                (one + other, one),
+                (one & other, other),
+            ):
                 records = less.beside(more)
                 self.assertEqual(records is None, less <= more)
-                self.assertEqual([less <= more, less < more, more >= less, more > less],
-                                 [records is None, records is None and less.key != more.key] * 2)
+                self.assertEqual(
+                    [less <= more, less < more, more >= less, more > less],
+                    [records is None, records is None and less.key != more.key] * 2,
+                )
                 if records:
                     self.assert_pair(family, records)
                     self.assertEqual(less(*records), "less")
@@ -314,9 +419,21 @@ class Finer(Case):
 
     def test_orders_in_a_row(self):
         begins, nested, all_alike = Order.by(TIMES, "begin"), Order.by(TIMES, "begin", "-end"), Order.by(TIMES)
-        self.assertEqual([all_alike < begins < nested, nested > begins > all_alike, nested < begins, begins < begins, begins <= begins, begins >= begins],
-                         [True, True, False, False, True, True])
-        self.assertEqual([begins <= Order.by(TIMES, "end"), begins >= Order.by(TIMES, "end"), begins == Order.by(TIMES, "end")], [False] * 3)
+        self.assertEqual(
+            [
+                all_alike < begins < nested,
+                nested > begins > all_alike,
+                nested < begins,
+                begins < begins,
+                begins <= begins,
+                begins >= begins,
+            ],
+            [True, True, False, False, True, True],
+        )
+        self.assertEqual(
+            [begins <= Order.by(TIMES, "end"), begins >= Order.by(TIMES, "end"), begins == Order.by(TIMES, "end")],
+            [False] * 3,
+        )
 
 
 class Common(Case):
@@ -339,16 +456,33 @@ class Common(Case):
         self.assertGreater(found, 150)
 
     def test_by_what_they_say(self):
-        for fields, others, due in ((("begin", "end"), ("begin", "-end"), ("begin",)), (("begin",), ("end",), ()), (("begin", "end"), ("end", "begin"), ()),
-                                    (("begin", "end"), ("begin",), ("begin",)), (("-begin",), ("begin",), ())):
+        for fields, others, due in (
+            (("begin", "end"), ("begin", "-end"), ("begin",)),
+            (("begin",), ("end",), ()),
+            (("begin", "end"), ("end", "begin"), ()),
+            (("begin", "end"), ("begin",), ("begin",)),
+            (("-begin",), ("begin",), ()),
+        ):
             self.assertEqual(Order.by(TIMES, *fields) & Order.by(TIMES, *others), Order.by(TIMES, *due))
         kinds = Order.by_kinds(BARE, "both", "left", "right")
         self.assertEqual(kinds & Order.by_kinds(BARE, "left", "right"), Order.by_kinds(BARE, "left", "right"))
-        self.assertEqual(kinds & Order.by_kinds(BARE, "both", "right", "left"), Order(BARE, first(("is", "a", "both"), apart(("or", ("is", "a", "left"), ("is", "a", "right")), "alike", "alike"))))
+        self.assertEqual(
+            kinds & Order.by_kinds(BARE, "both", "right", "left"),
+            Order(
+                BARE,
+                first(("is", "a", "both"), apart(("or", ("is", "a", "left"), ("is", "a", "right")), "alike", "alike")),
+            ),
+        )
 
     def test_blocks_with_as_many_cells_are_not_enough(self):
         one = Order.by_kinds(BARE, "both", "left", "right")
-        other = Order(BARE, first(("and", ("is", "a", "left"), ("not", ("is", "a", "both"))), first(("is", "a", "both"), first(("is", "a", "right")))))
+        other = Order(
+            BARE,
+            first(
+                ("and", ("is", "a", "left"), ("not", ("is", "a", "both"))),
+                first(("is", "a", "both"), first(("is", "a", "right"))),
+            ),
+        )
         self.assertEqual(one & other, Order(BARE, apart(("is", "a", "left"), "alike", first(("is", "a", "right")))))
 
     def test_one_block_that_is_partly_by_values(self):
@@ -364,7 +498,13 @@ class Both(Case):
     def test_both(self):
         found = {True: 0, False: 0}
         for family, limits, (one, other) in TWO:
-            for left, right in ((one, other), (one, one + other), (one & other, other), (one, -one), (one[("and",)], one)):
+            for left, right in (
+                (one, other),
+                (one, one + other),
+                (one & other, other),
+                (one, -one),
+                (one[("and",)], one),
+            ):
                 records = some_records(family, limits or (0,), 5)
                 try:
                     both = left | right
@@ -390,8 +530,23 @@ class Both(Case):
         self.assertEqual(begins | (begins + "end"), begins + "end")
         self.assertEqual(begins | Order.by(TIMES), begins)
         self.assert_raises(Opposite, lambda: begins | Order.by(TIMES, "end"))
-        low, high = Order(SINGLE, where(under(0, "price"), by("price"), first(under(0, "price")))), Order(SINGLE, where(over(0, "price"), by("-price"), first(("not", over(0, "price")))))
-        self.assertEqual(low | high, Order(SINGLE, first(under(0, "price"), where(under(0, "price"), by("price"), first(("not", over(0, "price")), where(over(0, "price"), by("-price"), "alike"))))))
+        low, high = Order(SINGLE, where(under(0, "price"), by("price"), first(under(0, "price")))), Order(
+            SINGLE, where(over(0, "price"), by("-price"), first(("not", over(0, "price"))))
+        )
+        self.assertEqual(
+            low | high,
+            Order(
+                SINGLE,
+                first(
+                    under(0, "price"),
+                    where(
+                        under(0, "price"),
+                        by("price"),
+                        first(("not", over(0, "price")), where(over(0, "price"), by("-price"), "alike")),
+                    ),
+                ),
+            ),
+        )
 
 
 class Within(Case):
@@ -462,7 +617,9 @@ class Changed(Case):
             self.assertEqual(order.changed(("or",), -order), order)
             self.assertEqual(order.changed(("and",), order), order)
         price = Order.by(SINGLE, "price")
-        self.assertEqual(price.changed(under(0, "price"), -price), Order(SINGLE, where(under(0, "price"), by("-price"), by("price"))))
+        self.assertEqual(
+            price.changed(under(0, "price"), -price), Order(SINGLE, where(under(0, "price"), by("-price"), by("price")))
+        )
         error = self.assert_raises(NotOrder, lambda: price.changed(("is", "a", "pen"), -price))
         self.assertEqual(len(error.records), 3)
 
@@ -479,40 +636,88 @@ class Errors(Case):
 
     def test_other_families(self):
         wares = Family(SHOP.fields, SHOP.kinds[0], SHOP.kinds[2], SHOP.kinds[1])
-        for one, other in ((Order.by(SHOP, "price"), Order.by(TIMES, "begin")), (Order.by(SHOP), Order.by(wares)), (Order.by(Family(())), Order.by(BARE))):
-            for call in (lambda: one + other, lambda: one & other, lambda: one | other, lambda: one <= other, lambda: one < other, lambda: one >= other, lambda: one > other,
-                         lambda: one.unlike(other), lambda: one.beside(other), lambda: one.changed(None, other), lambda: one.changed(("and",), other)):
+        for one, other in (
+            (Order.by(SHOP, "price"), Order.by(TIMES, "begin")),
+            (Order.by(SHOP), Order.by(wares)),
+            (Order.by(Family(())), Order.by(BARE)),
+        ):
+            for call in (
+                lambda: one + other,
+                lambda: one & other,
+                lambda: one | other,
+                lambda: one <= other,
+                lambda: one < other,
+                lambda: one >= other,
+                lambda: one > other,
+                lambda: one.unlike(other),
+                lambda: one.beside(other),
+                lambda: one.changed(None, other),
+                lambda: one.changed(("and",), other),
+            ):
                 self.assert_raises(OtherFamily, call)
             self.assertIs(one == other, False)
             self.assertIs(one != other, True)
         for thing in ODD:
             for call in (lambda: one.unlike(thing), lambda: one.beside(thing), lambda: one.changed(("and",), thing)):
                 self.assert_raises(OtherFamily, call)
-            for call in (lambda: one & thing, lambda: one | thing, lambda: one < thing, lambda: one <= thing, lambda: one > thing, lambda: one >= thing):
+            for call in (
+                lambda: one & thing,
+                lambda: one | thing,
+                lambda: one < thing,
+                lambda: one <= thing,
+                lambda: one > thing,
+                lambda: one >= thing,
+            ):
                 self.assertRaises(TypeError, call)
         self.assertEqual(Order.by(SHOP, "price"), Order.by(Family(SHOP.fields[::-1], *SHOP.kinds), "price"))
 
     def test_too_many_together(self):
-        steps = Order(self.FAMILY, first(under(0, "w"), first(under(1000, "w"), first(under(2000, "w"), first(under(3000, "w"))))))
+        steps = Order(
+            self.FAMILY, first(under(0, "w"), first(under(1000, "w"), first(under(2000, "w"), first(under(3000, "w")))))
+        )
         three = Order.by(self.FAMILY, "x", "-y", "z")
         self.assertEqual(len(steps.limits), 4)
         # Four limits make 9 cells of one value, no limit 13 of three values; and there is the other kind.
-        for call in (lambda: steps + three, lambda: three & steps, lambda: three | steps, lambda: three <= steps, lambda: three < steps, lambda: three >= steps,
-                     lambda: three > steps, lambda: three.unlike(steps), lambda: three.beside(steps), lambda: three.changed(("and",), steps),
-                     lambda: three.changed(under(0, "w"), steps), lambda: three[("or", *[under(1000 * at, "w") for at in range(4)])],
-                     lambda: three.changed(("or", under(0, "w"), under(1000, "w"), under(2000, "w"), under(3000, "w")), three)):
+        for call in (
+            lambda: steps + three,
+            lambda: three & steps,
+            lambda: three | steps,
+            lambda: three <= steps,
+            lambda: three < steps,
+            lambda: three >= steps,
+            lambda: three > steps,
+            lambda: three.unlike(steps),
+            lambda: three.beside(steps),
+            lambda: three.changed(("and",), steps),
+            lambda: three.changed(under(0, "w"), steps),
+            lambda: three[("or", *[under(1000 * at, "w") for at in range(4)])],
+            lambda: three.changed(("or", under(0, "w"), under(1000, "w"), under(2000, "w"), under(3000, "w")), three),
+        ):
             self.assert_raises(TooMany, call, cells=9 * 13 + 1)
         self.assertIs(three == steps, False)
         self.assert_raises(BadCondition, lambda: three.changed(("is", "b", "k"), steps))
         # A name is read in all kinds that have it, also if an order by it alone would not matter.
-        self.assert_raises(TooMany, lambda: Order.by(self.FAMILY, "x", "y", "z") + Order(self.FAMILY, first(under(0, "x"), first(under(1000, "x")))), cells=234)
+        self.assert_raises(
+            TooMany,
+            lambda: Order.by(self.FAMILY, "x", "y", "z")
+            + Order(self.FAMILY, first(under(0, "x"), first(under(1000, "x")))),
+            cells=234,
+        )
         wide = steps + "x"
         self.assert_raises(TooMany, lambda: wide + "y" + "z", cells=9 * 13 + 1)
         self.assert_raises(TooMany, lambda: "-z" + ("-y" + wide), cells=9 * 13 + 1)
         self.assert_raises(NoField, lambda: wide + "y" + "v", field="v")
 
     def test_too_many_for_a_comparison(self):
-        reading = ("or", under(0, "w"), under(1000, "w"), under(2000, "w"), under(3000, "w"), ("less", ("a", "x"), ("a", "y")), ("less", ("a", "x"), ("a", "z")))
+        reading = (
+            "or",
+            under(0, "w"),
+            under(1000, "w"),
+            under(2000, "w"),
+            under(3000, "w"),
+            ("less", ("a", "x"), ("a", "y")),
+            ("less", ("a", "x"), ("a", "z")),
+        )
         self.assert_raises(TooMany, lambda: Order(self.FAMILY, first(reading)), cells=9 * 13 + 1)
         self.assert_raises(TooMany, lambda: Order(self.FAMILY, ("if", reading, "less", "greater")), cells=9 * 13 + 1)
 
@@ -522,7 +727,16 @@ class Errors(Case):
         limits = tuple(("m", 1000 * at) for at in range(49))
         cells = [cell for cell in cells_of(family, (("k", "x"),), limits) if cell[0] == "k"]
         choice = random.Random(26)
-        keys = [((("k", "x"),), limits, tuple(("alike", tuple(sorted(row))) for row in ([cell] for cell in [*choice.sample(cells, 99), ("o", ())]))) for _ in range(2)]
+        keys = [
+            (
+                (("k", "x"),),
+                limits,
+                tuple(
+                    ("alike", tuple(sorted(row))) for row in ([cell] for cell in [*choice.sample(cells, 99), ("o", ())])
+                ),
+            )
+            for _ in range(2)
+        ]
         one, other = [Order.of(family, key) for key in keys]
         self.assertEqual([len(cells_of(family, order.reads, order.limits)) for order in (one, other)], [100, 100])
         records = [("k", (value,)) for value in range(-1000, 49001, 500)] + [("o", ())]
@@ -530,10 +744,16 @@ class Errors(Case):
         self.assert_says(one + other, lambda r, s: key_word(family, keys[0], r, s), records[::9])
         self.assertEqual((one & other) <= one, True)
         self.assertEqual([one <= other, one == other, one == -(-one)], [False, False, True])
-        self.assertEqual([one(*one.unlike(other)) == other(*one.unlike(other)), one(*one.beside(other)), other(*one.beside(other))], [False, "less", "greater"])
+        self.assertEqual(
+            [one(*one.unlike(other)) == other(*one.unlike(other)), one(*one.beside(other)), other(*one.beside(other))],
+            [False, "less", "greater"],
+        )
         self.assert_raises(Opposite, lambda: one | other)
         self.assert_raises(TooMany, lambda: one[under(-1000, "x")], cells=102)
-        self.assertEqual(one[under(10000, "x")].row(*records)[:5], one.row(*[record for record in records if record[0] == "k" and record[1][0] < 10000])[:5])
+        self.assertEqual(
+            one[under(10000, "x")].row(*records)[:5],
+            one.row(*[record for record in records if record[0] == "k" and record[1][0] < 10000])[:5],
+        )
 
 
 if __name__ == "__main__":

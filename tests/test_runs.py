@@ -28,7 +28,9 @@ def runs_by_blocks(order, condition):
     reads, limits = read_and_named(family, condition)
     key = plain(family, order.key, reads, limits)
     spots = {}
-    for record in records_with(family, sorted({limit + step for _, limit in key[1] for step in (-2, -1, 0, 1, 2)} | set(range(3)))):
+    for record in records_with(
+        family, sorted({limit + step for _, limit in key[1] for step in (-2, -1, 0, 1, 2)} | set(range(3)))
+    ):
         spots.setdefault(reference.cell(family, key[0], key[1], record), set()).add(holds(family, condition, record))
     row = []
     for block in key[2]:
@@ -51,7 +53,7 @@ class Case(unittest.TestCase):
         for one, other in zip(row, row[1:]):
             self.assertNotEqual(order(other, one), "less")
         if len(row) < 30:
-            self.assertNotIn("less", [order(other, one) for at, one in enumerate(row) for other in row[at + 1:]])
+            self.assertNotIn("less", [order(other, one) for at, one in enumerate(row) for other in row[at + 1 :]])
 
     def assert_most(self, order, condition, most):
         self.assertEqual(runs(order=order, condition=condition), most)
@@ -71,9 +73,18 @@ class Case(unittest.TestCase):
 class Runs(Case):
     def test_examples(self):
         begins = Order.by(TIMES, "begin")
-        for condition, most in ((under(2000, "begin"), 1), (over(2000, "begin"), 1), (("not", ("same", ("a", "begin"), 2000)), 2), (under(0, "end"), None), (("or",), 0), (("and",), 1),
-                                (between(0, 2000, "begin"), 1), (("or", between(0, 2000, "begin"), under(-3000, "begin"), over(5000, "begin")), 3),
-                                (("same", ("a", "begin"), ("a", "end")), None), (("and", ("same", ("a", "begin"), 0), under(0, "end")), None)):
+        for condition, most in (
+            (under(2000, "begin"), 1),
+            (over(2000, "begin"), 1),
+            (("not", ("same", ("a", "begin"), 2000)), 2),
+            (under(0, "end"), None),
+            (("or",), 0),
+            (("and",), 1),
+            (between(0, 2000, "begin"), 1),
+            (("or", between(0, 2000, "begin"), under(-3000, "begin"), over(5000, "begin")), 3),
+            (("same", ("a", "begin"), ("a", "end")), None),
+            (("and", ("same", ("a", "begin"), 0), under(0, "end")), None),
+        ):
             self.assert_most(begins, condition, most)
             self.assert_most(-begins, condition, most)
         both = Order.by(TIMES, "begin", "end")
@@ -102,11 +113,15 @@ class Runs(Case):
         self.assert_most(lengths, ("less", ("a", "length"), 1000), None)
 
     def test_between_limits(self):
-        for low in (-3000, 0, 10 ** 11):
+        for low in (-3000, 0, 10**11):
             spot = between(low, low + 1000, "begin")
             for fields in (("begin",), ("-begin",), ("begin", "end"), ("-begin", "end")):
                 order = Order.by(TIMES, *fields)
-                for side in (("less", ("a", "begin"), ("a", "end")), ("less", ("a", "end"), ("a", "begin")), ("same", ("a", "end"), low)):
+                for side in (
+                    ("less", ("a", "begin"), ("a", "end")),
+                    ("less", ("a", "end"), ("a", "begin")),
+                    ("same", ("a", "end"), low),
+                ):
                     self.assert_most(order, ("and", spot, side), None)
                     self.assert_most(order, ("and", under(low, "begin"), side), None)
                     self.assert_most(order, ("and", over(low, "begin"), ("not", side)), None)
@@ -115,20 +130,35 @@ class Runs(Case):
         for name in "xyz":
             for sign in ("", "-"):
                 order = Order.by(FAMILY, sign + name)
-                for condition in (("less", ("a", "x"), ("a", "y")), ("and", ("less", ("a", "x"), ("a", "y")), ("less", ("a", "y"), ("a", "z"))),
-                                  ("and", ("less", ("a", "z"), ("a", "y")), ("less", ("a", "y"), ("a", "x")))):
+                for condition in (
+                    ("less", ("a", "x"), ("a", "y")),
+                    ("and", ("less", ("a", "x"), ("a", "y")), ("less", ("a", "y"), ("a", "z"))),
+                    ("and", ("less", ("a", "z"), ("a", "y")), ("less", ("a", "y"), ("a", "x"))),
+                ):
                     self.assert_most(order, condition, None)
                 for gap in (over(1000, name), under(1000, name)):
-                    self.assert_most(order, ("and", gap, ("less", ("a", "z"), ("a", "y")), ("less", ("a", "y"), ("a", "x"))), None)
+                    self.assert_most(
+                        order, ("and", gap, ("less", ("a", "z"), ("a", "y")), ("less", ("a", "y"), ("a", "x"))), None
+                    )
 
     def test_two_measures(self):
-        family = Family((("p", "m"), ("q", "m"), ("r", "n"), ("s", "n"), ("t", "o")), ("k", (), ("p", "r")), ("l", (), ("q", "s")), ("j", (), ("p", "r", "t")))
+        family = Family(
+            (("p", "m"), ("q", "m"), ("r", "n"), ("s", "n"), ("t", "o")),
+            ("k", (), ("p", "r")),
+            ("l", (), ("q", "s")),
+            ("j", (), ("p", "r", "t")),
+        )
         for name in "prst":
             for sign in ("", "-"):
                 order = Order.by(family, sign + name)
                 for field, other in (("p", "r"), ("q", "s"), ("r", "p"), ("t", "r")):
-                    for condition in (("and", over(5000, field), ("is", "a", "k")), ("and", under(5000, field), over(-3000, other)), over(5000, field), under(-3000, field),
-                                      ("and", between(-3000, 5000, field), ("not", ("same", ("a", other), 7000)))):
+                    for condition in (
+                        ("and", over(5000, field), ("is", "a", "k")),
+                        ("and", under(5000, field), over(-3000, other)),
+                        over(5000, field),
+                        under(-3000, field),
+                        ("and", between(-3000, 5000, field), ("not", ("same", ("a", other), 7000))),
+                    ):
                         self.assert_most(order, condition, runs_by_blocks(order, condition))
 
     def test_many_runs(self):
@@ -137,7 +167,10 @@ class Runs(Case):
         order = Order.by(family, "x")
         self.assert_most(order, limits, 24)
         self.assert_most(order, ("not", limits), 25)
-        self.assertEqual(runs(Order.of(family, order.key), ("not", ("or", *[("same", ("a", "x"), 1000 * at) for at in range(49)]))), 50)
+        self.assertEqual(
+            runs(Order.of(family, order.key), ("not", ("or", *[("same", ("a", "x"), 1000 * at) for at in range(49)]))),
+            50,
+        )
         self.assert_row(-order, ("not", ("or", *[("same", ("a", "x"), 1000 * at) for at in range(49)])), 50)
 
     def test_of_any_orders(self):
@@ -173,14 +206,23 @@ class Runs(Case):
         known = samples.Judge(SHOP, "a")
         for thing in bent(("or", ("is", "a", "pen"), under(0, "price"))):
             if not known.is_condition(thing):
-                for call in (lambda: runs(order, thing), lambda: row_with(order, thing, 100), lambda: obstacle(order, order, thing)):
+                for call in (
+                    lambda: runs(order, thing),
+                    lambda: row_with(order, thing, 100),
+                    lambda: obstacle(order, order, thing),
+                ):
                     with self.assertRaises(BadCondition) as caught:
                         call()
                     self.assertIs(caught.exception.thing, thing)
         three = Order.by(FAMILY, "x", "y", "z")
         steps = ("or", *[under(1000 * at, "w") for at in range(4)])
-        for call in (lambda: runs(three, steps), lambda: row_with(three, steps, 1), lambda: row_with(three, steps, 100), lambda: obstacle(three, three, steps),
-                     lambda: obstacle(Order.by(FAMILY, "x", "z"), Order.by(FAMILY, "y"), steps)):
+        for call in (
+            lambda: runs(three, steps),
+            lambda: row_with(three, steps, 1),
+            lambda: row_with(three, steps, 100),
+            lambda: obstacle(three, three, steps),
+            lambda: obstacle(Order.by(FAMILY, "x", "z"), Order.by(FAMILY, "y"), steps),
+        ):
             with self.assertRaises(TooMany) as caught:
                 call()
             self.assertEqual(caught.exception.cells, 9 * 13 + 1)
@@ -211,13 +253,26 @@ class Serving(Case):
         self.assertIsNone(obstacle(begins, nested, ("same", ("a", "end"), 0)))
         self.assertIsNone(obstacle(begins, Order.by(TIMES, "end"), ("same", ("a", "begin"), ("a", "end"))))
         self.assert_obstacle(begins, Order.by(TIMES, "end"), ("less", ("a", "begin"), ("a", "end")))
-        self.assertIsNone(obstacle(Order.by(SINGLE, "price"), Order(SINGLE, apart(("is", "a", "pen"), by("price"), by("-price"))), ("is", "a", "pen")))
-        self.assert_obstacle(Order.by(SINGLE, "price"), Order(SINGLE, apart(("is", "a", "pen"), by("price"), by("-price"))), ("is", "a", "book"))
+        self.assertIsNone(
+            obstacle(
+                Order.by(SINGLE, "price"),
+                Order(SINGLE, apart(("is", "a", "pen"), by("price"), by("-price"))),
+                ("is", "a", "pen"),
+            )
+        )
+        self.assert_obstacle(
+            Order.by(SINGLE, "price"),
+            Order(SINGLE, apart(("is", "a", "pen"), by("price"), by("-price"))),
+            ("is", "a", "book"),
+        )
 
     def assert_obstacle(self, order, wish, condition):
         records = obstacle(order, wish, condition)
         self.assertIs(type(records), tuple)
-        self.assertEqual([order.family.is_record(record) and holds(order.family, condition, record) for record in records], [True, True])
+        self.assertEqual(
+            [order.family.is_record(record) and holds(order.family, condition, record) for record in records],
+            [True, True],
+        )
         self.assertEqual(wish(*records), "less")
         self.assertNotEqual(order(*records), "less")
 
