@@ -3,7 +3,7 @@
 import ast
 import random
 import unittest
-from itertools import permutations, product
+from itertools import product
 
 from keybehind.cells import cells_of
 from keybehind.conditions import read_comparison

@@ -12,7 +12,7 @@ from keybehind.keys import is_key, is_normal, is_plain, key_says, normal, partin
 from tests import reference
 from tests.comparisons import ORDERS
 from tests.helpers import SHOP, TIMES, bent, deep
-from tests.reference import BARE, FAMILIES, PAIRS, SHELVES, SINGLE, TRIPLE, all_ways, cells_in, key_word
+from tests.reference import BARE, FAMILIES, SINGLE, TRIPLE, cells_in, key_word
 
 SPAN = (("span", "begin"), ("span", "end"))
 # The cells of spans: the begin ahead of the end, both the same, the end ahead of the begin.

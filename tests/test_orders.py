@@ -26,7 +26,7 @@ from keybehind.orders import Order
 from tests import reference, samples
 from tests.comparisons import BROKEN, ORDERS, apart, by, by_known, first, ordered_from, over, under, where
 from tests.helpers import SHOP, TIMES, bent, deep
-from tests.reference import BARE, FAMILIES, MIXED, SHELVES, SINGLE, TRIPLE, TURNED, broken, key_word
+from tests.reference import BARE, FAMILIES, SINGLE, TURNED, broken, key_word
 from tests.samples import condition_from, tests_of
 
 ODD = (
@@ -228,7 +228,7 @@ class Making(Case):
             (*fields, ("v", "n")),
             *[(name, (), ("x", "y", "z")) for name in "pqrstu"],
             ("o", (), ("x", "y", "z")),
-            ("n", (), ("x", "y", "z"))
+            ("n", (), ("x", "y", "z")),
         )
         self.assert_raises(TooMany, lambda: Order.by(wide, "x", "y", "z"), cells=8 * 13)
         self.assert_raises(NoField, lambda: Order.by(wide, "x", "y", "z", "u"), field="u")
@@ -754,6 +754,54 @@ class Errors(Case):
             one[under(10000, "x")].row(*records)[:5],
             one.row(*[record for record in records if record[0] == "k" and record[1][0] < 10000])[:5],
         )
+
+
+class AtTheLimits(Case):
+    # Eight fields, six kinds, four fields of a kind, three of them of one measure; with one limit 82 cells.
+    FULL = Family(
+        (*[(name, "m") for name in "abc"], ("d", "n"), *[(name, "o") for name in "efg"], ("h", "p")),
+        *[(name, (), tuple("abcd")) for name in ("one", "two")],
+        *[(name, (), tuple("efgh")) for name in ("three", "four", "five", "six")],
+    )
+    LIMIT = 999_999_999_000
+    # Thirty tests at most, twelve levels, conditions on eight levels.
+    COMPARISON = apart(deep(("less", ("a", "d"), LIMIT), 6), by("a", "-b", "c"), by("-d", "c", "b", "a"))
+
+    def records(self, times):
+        choice = random.Random(27)
+        for _ in range(times):
+            kind = choice.choice(self.FULL.names)
+            far = choice.choice((0, 10**29, -(10**29), self.LIMIT))
+            yield kind, tuple(far + choice.randint(-2, 2) for _ in range(4))
+
+    def test_the_greatest_comparisons(self):
+        # Those of the other kinds have none of the values: so they stand behind, and with each other they are alike.
+        comparison = apart(("or", ("is", "a", "one"), ("is", "a", "two")), self.COMPARISON, "alike")
+        order = Order(self.FULL, comparison)
+        self.assertEqual([order.limits, len(order.reads)], [(("n", self.LIMIT),), 8])
+        self.assertEqual(len(cells_of(self.FULL, order.reads, order.limits)), 82)
+        records = list(self.records(40))
+        self.assert_says(order, reference.worded(self.FULL, comparison), records)
+        self.assert_says(-order, reference.worded(self.FULL, turned_words(comparison)), records)
+        more = order + "e" + "-h"
+        self.assertEqual([order < more, order <= -more, order & more, order | more], [True, False, order, more])
+        self.assert_raises(TooMany, lambda: more[under(0, "d")], cells=130 + 4)
+
+    def test_two_hundred_records(self):
+        order = Order.by(self.FULL, "-a", "b", "h") + Order.by_kinds(self.FULL, "five", "two")
+        records = list(self.records(200))
+        found = order.row(*records)
+        self.assertEqual(len(found), 200)
+        self.assertEqual(sorted(records, key=order.place), list(found))
+        for one, other in zip(found, found[1:]):
+            self.assertNotEqual(order(one, other), "greater")
+
+
+def turned_words(comparison):
+    """A comparison that says greater for less and less for greater."""
+    if isinstance(comparison, str):
+        return TURNED[comparison]
+    return (*comparison[:2], *map(turned_words, comparison[2:]))
 
 
 if __name__ == "__main__":

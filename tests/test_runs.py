@@ -13,11 +13,11 @@ from keybehind.orders import Order
 from keybehind.reading import read_and_named
 from keybehind.runs import obstacle, row_with, runs
 from tests import reference, samples
-from tests.comparisons import ORDERS, apart, between, by, by_known, first, over, under, where
+from tests.comparisons import ORDERS, apart, between, by, first, over, under
 from tests.helpers import SHOP, TIMES, bent
 from tests.reference import BARE, SHELVES, SINGLE, cells_in, records_with
 from tests.samples import condition_from, tests_of
-from tests.test_orders import KNOWN, TWO, some_records
+from tests.test_orders import TWO, some_records
 
 FAMILY = Family((("x", "m"), ("y", "m"), ("z", "m"), ("w", "n")), ("k", (), ("w", "x", "y", "z")), ("o", (), ()))
 
