@@ -1,9 +1,10 @@
-"""The plain key behind what is said: found by asking about a few records, as the document tells.
+"""The plain paths behind what is said: found by asking about a few records, as the document tells.
 
-If what is said is an order, the node that is found is that of its plain key. If it is none, the node is still one for
-these cells, and says what was answered to enough of the questions.
+If what is said is an order, the paths that are found are those of its plain key. If it is none, they are still paths of
+a key for these cells, which says what was answered to enough of the questions.
 """
 
+from keybehind.plainpaths import position_of
 from keybehind.trees import word_in
 
 # Where two cells are compared, these are the heights between two limits or told values: one for all other groups of a
@@ -18,32 +19,33 @@ APART = 3
 MOVE = 1
 
 
-def plain_node(chart, sayer):
-    """The node of the plain key for a chart, as a sayer has it."""
-    leads = [_leads_in(chart.slots[cell], sayer.tree(cell, cell)) for cell in range(len(chart.cells))]
-    return _node(chart, sayer, leads, list(range(len(chart.cells))), 0)
+def said_of(sayer, one, other):
+    """What a sayer says of two cells: a word, or a tree if it is not certain."""
+    for word in sayer.decided:
+        if sayer.decided[word][one] >> other & 1:
+            return word
+    return sayer.tree(one, other)
 
 
-def says_so(chart, sayer, node):
-    """Whether an order says the same as the plain key for a chart with this node."""
-    return plain_node(chart, sayer) == node
+def leads_of(chart, trees):
+    """For cells their slots that count, each with its way, those ahead that lead; given what is said of each alone."""
+    return {cell: _leads_in(chart.slots[cell], tree) if isinstance(tree, tuple) else () for cell, tree in trees.items()}
 
 
-def anchor_beside(slots, told, slot, step):
-    """What is met first if one goes up or down from a slot: a limit, the number of a told slot, or nothing."""
-    at = slot + step
-    while 0 <= at < len(slots) and slots[at][0] == slots[slot][0]:
-        if slots[at][1]:
-            return ("limit", slots[at][1][0])
-        if at in told:
-            return ("told", told.index(at))
-        at = at + step
-    return ()
-
-
-def gap_of(slots, told, slot):
-    """The gap in which a slot lies among the limits and the told slots."""
-    return (slots[slot][0], anchor_beside(slots, told, slot, -1), anchor_beside(slots, told, slot, 1))
+def found_paths(chart, sayer, leads, cells, level):
+    """The paths of some cells, by the cells; as many slots that lead as there are levels above are told."""
+    paths = {}
+    for number, block in enumerate(_blocks(chart, sayer, leads, cells, level)):
+        if level == len(leads[block[0]]):
+            for cell in block:
+                paths[cell] = ((number, "", ""),)
+            continue
+        way = "up" if leads[block[0]][level][1] > 0 else "down"
+        below = found_paths(chart, sayer, leads, block, level + 1)
+        for cell in block:
+            slot = leads[cell][level][0]
+            paths[cell] = ((number, way, chart.slots[cell][slot][2][0]), *below[cell])
+    return paths
 
 
 def spans_at(slots, heights):
@@ -79,9 +81,10 @@ def _word_of_move(slots, tree, moves):
     return word_in(tree, spans_at(slots, heights), spans_at(slots, moved))
 
 
-def _node(chart, sayer, leads, cells, level):
-    """The node for these cells, of which the slots that lead are told, as many as there are levels above."""
-    laid = {cell: _laid(chart.slots[cell], leads[cell], level) for cell in cells}
+def _blocks(chart, sayer, leads, cells, level):
+    """The cells in rows, block by block."""
+    told = {cell: [slot for slot, _ in leads[cell][:level]] for cell in cells}
+    leaders = {cell: _leader(chart, leads[cell], told[cell], cell, level) for cell in cells}
     blocks = []
     for cell in cells:
         low = 0
@@ -89,7 +92,8 @@ def _node(chart, sayer, leads, cells, level):
         order = 1
         while low < high and order != 0:
             middle = (low + high) // 2
-            order = _order_of(sayer, laid, cell, blocks[middle][0])
+            other = blocks[middle][0]
+            order = _order_of(chart, sayer, (cell, other), (leaders[cell], leaders[other]), (told[cell], told[other]))
             if order < 0:
                 high = middle
             elif order > 0:
@@ -98,32 +102,40 @@ def _node(chart, sayer, leads, cells, level):
                 blocks[middle] = (*blocks[middle], cell)
         if order != 0:
             blocks.insert(low, (cell,))
-    return tuple([_block(chart, sayer, leads, block, level) for block in blocks])
+    return blocks
 
 
-def _block(chart, sayer, leads, block, level):
-    if level == len(leads[block[0]]):
-        return ("alike", tuple([chart.cells[cell] for cell in block]))
-    pairs = []
-    for cell in block:
-        slot = leads[cell][level][0]
-        pairs.append((chart.cells[cell], chart.slots[cell][slot][2][0]))
-    way = "up" if leads[block[0]][level][1] > 0 else "down"
-    return ("by", way, tuple(pairs), _node(chart, sayer, leads, block, level + 1))
+def _leader(chart, lead, told, cell, level):
+    """The way and the gap of the slot of a cell that leads, or ()."""
+    if level == len(lead):
+        return ()
+    slot, way = lead[level]
+    return (way, chart.slots[cell][slot][0], position_of(chart, cell, slot, told))
 
 
-def _laid(slots, lead, level):
-    """What must be known of a cell to compare it: the way and the gap of what leads, and its spans in each zone."""
-    told = [slot for slot, _ in lead[:level]]
-    leader = ()
-    if level < len(lead):
-        slot, way = lead[level]
-        leader = (way, gap_of(slots, told, slot))
-    return (leader, [spans_at(slots, _heights_in(slots, told, zone)) for zone in (LOW, MIDDLE, HIGH)])
+def _order_of(chart, sayer, cells, leaders, told):
+    """Whether the records of a cell lie ahead of those of another one (-1), behind them (1), or among them (0)."""
+    tree = said_of(sayer, cells[0], cells[1])
+    if isinstance(tree, str):
+        above = tree
+        below = tree
+    else:
+        spans = _spans_in(chart.slots[cells[0]], told[0], MIDDLE)
+        above = word_in(tree, spans, _spans_in(chart.slots[cells[1]], told[1], HIGH))
+        below = word_in(tree, spans, _spans_in(chart.slots[cells[1]], told[1], LOW))
+    if leaders[0] != leaders[1]:
+        return -1 if above == "less" else 1
+    if not leaders[0]:
+        return (-1 if above == "less" else 1) if above != "alike" else 0
+    early, late = (above, below) if leaders[0][0] > 0 else (below, above)
+    # Who is less where it stands late is less everywhere.
+    if late == "less":
+        return -1
+    return 1 if early == "greater" else 0
 
 
-def _heights_in(slots, told, zone):
-    """Heights of the slots: limits and told ones where they lie for all cells, the others in one zone between them."""
+def _spans_in(slots, told, zone):
+    """Spans of the fields: limits and told slots where they lie for all cells, the others in one zone between them."""
     heights = []
     floor = 0
     for at, (measure, limit, _) in enumerate(slots):
@@ -134,22 +146,4 @@ def _heights_in(slots, told, zone):
             floor = floor + ROOM
         else:
             heights.append(floor + zone)
-    return heights
-
-
-def _order_of(sayer, laid, one, other):
-    """Whether the records of a cell lie ahead of those of another one (-1), behind them (1), or among them (0)."""
-    leader, spans = laid[one]
-    other_leader, other_spans = laid[other]
-    tree = sayer.tree(one, other)
-    above = word_in(tree, spans[MIDDLE], other_spans[HIGH])
-    if leader != other_leader:
-        return -1 if above == "less" else 1
-    if not leader:
-        return (-1 if above == "less" else 1) if above != "alike" else 0
-    below = word_in(tree, spans[MIDDLE], other_spans[LOW])
-    early, late = (above, below) if leader[0] > 0 else (below, above)
-    # Who is less where it stands late is less everywhere.
-    if late == "less":
-        return -1
-    return 1 if early == "greater" else 0
+    return spans_at(slots, heights)

@@ -14,7 +14,7 @@ def cells_of(family, reads, limits):
         raise TooMany(many)
     cells = []
     for kind in family.names:
-        cells.extend([(kind, rows) for rows in _rows_of(_measures_read(family, reads, limits, kind))])
+        cells.extend([(kind, rows) for rows in _rows_of(measures_read(family, reads, limits, kind))])
     return ascending(cells)
 
 
@@ -22,7 +22,7 @@ def cell_of(family, reads, limits, record):
     """The cell that a record has."""
     kind = record[0]
     rows = []
-    for measure, named, fields in _measures_read(family, reads, limits, kind):
+    for measure, named, fields in measures_read(family, reads, limits, kind):
         rows.append((measure, _groups_in(family, record, named, fields)))
     return (kind, tuple(rows))
 
@@ -39,7 +39,7 @@ def record_of(family, reads, limits, cell):
 
 
 def narrowed(cell, reads, limits):
-    """The cell that a record of this cell has for a part of the reads and limits."""
+    """The cell that a record of this cell has for a part of the reads and limits, both given as keys of a dict."""
     kind, rows = cell
     fewer = []
     for measure, groups in rows:
@@ -54,15 +54,44 @@ def narrowed(cell, reads, limits):
     return (kind, tuple(fewer))
 
 
+def widened(cell, measures):
+    """The cell for more reads and limits in which new fields lie lowest, new limits highest up to the next old one.
+
+    The measures are those that are read of the kind of the cell, as `measures_read` tells them.
+    """
+    kind, rows = cell
+    held = dict(rows)
+    wider = []
+    for measure, named, fields in measures:
+        groups = list(held.get(measure, ()))
+        known = [field for _, group in groups for field in group]
+        limits = [limit[0] for limit, _ in groups if limit]
+        for limit in [limit for limit in named if limit not in limits]:
+            above = [at for at, (old, _) in enumerate(groups) if old and old[0] > limit]
+            groups.insert(above[0] if above else len(groups), ((limit,), ()))
+        wider.append((measure, (*[((), (field,)) for field in fields if field not in known], *groups)))
+    return (kind, tuple(wider))
+
+
 def number_of_cells(family, reads, limits):
     """How many cells there are, told without making them."""
     many = 0
     for kind in family.names:
         ways = 1
-        for _, named, fields in _measures_read(family, reads, limits, kind):
+        for _, named, fields in measures_read(family, reads, limits, kind):
             ways = ways * _number_of_orders(len(named), len(fields))
         many = many + ways
     return many
+
+
+def measures_read(family, reads, limits, kind):
+    """For each measure of a read field of the kind: the measure, its limits and these fields."""
+    fields = [pair[1] for pair in reads if pair[0] == kind]
+    rows = []
+    for measure in ascending([family.measure_of(field) for field in fields]):
+        named = [pair[1] for pair in limits if pair[0] == measure]
+        rows.append((measure, named, [field for field in fields if family.measure_of(field) == measure]))
+    return rows
 
 
 def heights_of(groups):
@@ -75,16 +104,6 @@ def heights_of(groups):
         height = limit[0] if limit else height + 1
         heights.append(height)
     return heights
-
-
-def _measures_read(family, reads, limits, kind):
-    """For each measure of a read field of the kind: the measure, its limits and these fields."""
-    fields = [pair[1] for pair in reads if pair[0] == kind]
-    rows = []
-    for measure in ascending([family.measure_of(field) for field in fields]):
-        named = [pair[1] for pair in limits if pair[0] == measure]
-        rows.append((measure, named, [field for field in fields if family.measure_of(field) == measure]))
-    return rows
 
 
 def _number_of_orders(limits, fields):

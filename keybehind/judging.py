@@ -5,10 +5,10 @@ from keybehind.charts import Chart
 from keybehind.comparing import UNLIKE, pair_said
 from keybehind.conditions import is_comparison, word_for
 from keybehind.errors import BadComparison
-from keybehind.keys import chart_for
+from keybehind.keys import chart_for, sayer_for
 from keybehind.normals import normal_key
 from keybehind.reading import read_and_named
-from keybehind.sayers import TURNED_WORDS, Comparing, Pathing, paths_for
+from keybehind.sayers import TURNED_WORDS, Comparing
 from keybehind.shapes import chart_of_key
 
 
@@ -44,5 +44,4 @@ def key_holds(family, comparison, thing):
     if chart_of_key(family, thing) is None:
         return False
     chart = chart_for(family, read_and_named(family, comparison), thing)
-    cells = list(range(len(chart.cells)))
-    return pair_said(chart, Comparing(chart, comparison), Pathing(paths_for(chart, thing)), UNLIKE, cells) is None
+    return pair_said(chart, Comparing(chart, comparison), sayer_for(chart, thing), UNLIKE, chart.full) is None

@@ -1,11 +1,11 @@
 """Keys: which values are some, what they say, and other keys that say the same."""
 
-from keybehind.building import plain_node
 from keybehind.cells import cell_of
 from keybehind.charts import Chart
 from keybehind.comparing import UNLIKE, pair_said
 from keybehind.families import value_in
 from keybehind.normals import normal_key
+from keybehind.plainpaths import node_of, plain_paths
 from keybehind.reading import together
 from keybehind.sayers import Pathing, paths_for, paths_in
 from keybehind.shapes import chart_of_key, is_plain_node
@@ -40,26 +40,31 @@ def key_says(family, key, one, other):
 def normal(family, key):
     """The normal key that says the same as a key."""
     chart = Chart(family, key[0], key[1])
-    return normal_key(chart, plain_node(chart, Pathing(paths_for(chart, key))))
+    return normal_key(chart, plain_paths(chart, paths_for(chart, key)))
 
 
 def plain(family, key, reads, limits):
     """The plain key that says the same, for what the key reads and names and these reads and limits together."""
     chart = chart_for(family, key, (reads, limits))
-    return (chart.reads, chart.limits, plain_node(chart, Pathing(paths_for(chart, key))))
+    return (chart.reads, chart.limits, node_of(chart, plain_paths(chart, paths_for(chart, key))))
 
 
 def parting(family, key, other):
     """Two records of which two keys do not say the same, or None."""
     chart = chart_for(family, key, other)
-    sayers = [Pathing(paths_for(chart, part)) for part in (key, other)]
-    return pair_said(chart, sayers[0], sayers[1], UNLIKE, list(range(len(chart.cells))))
+    sayers = [sayer_for(chart, part) for part in (key, other)]
+    return pair_said(chart, sayers[0], sayers[1], UNLIKE, chart.full)
 
 
 def chart_for(family, *parts):
     """The chart for several pairs of reads and limits together; keys may stand for such pairs."""
     reads, limits = together(*parts)
     return Chart(family, reads, limits)
+
+
+def sayer_for(chart, key):
+    """What a key says, for a chart that has at least its reads and limits."""
+    return Pathing(plain_paths(chart, paths_for(chart, key)))
 
 
 def place_on(family, path, record):

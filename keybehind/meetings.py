@@ -42,6 +42,28 @@ def outcomes(chart, chain, many, cell, trees):
     return found
 
 
+def arranged(chart, chain, cell):
+    """All spans of a record of a cell beside a chain in which each value has its place."""
+    found = []
+    todo = [_first_spans(chart, chain, cell)]
+    while todo:
+        spans = todo.pop()
+        loose = [at for at, (low, high) in enumerate(spans) if low < high]
+        if not loose:
+            found.append(spans)
+            continue
+        low, high = spans[loose[0]]
+        for position in range(low, high + 1):
+            todo.append(_tightened(chart.slots[cell], spans, loose[0], (position, position)))
+    return found
+
+
+def pair_of(chart, one, other):
+    """Any two records of two cells."""
+    chain = chain_of(chart.cells[one], 0)
+    return records_in(chart, joined(chart, chain, other, _first_spans(chart, chain, other), 1), (one, other))
+
+
 def joined(chart, chain, cell, spans, who):
     """The chain with one more record of a cell, its values as low as the spans allow."""
     longer = {measure: chain[measure] for measure in chain}
@@ -55,19 +77,6 @@ def joined(chart, chain, cell, spans, who):
             longer[measure] = entered
         at = at + len(groups)
     return longer
-
-
-def picked(chain, whos):
-    """The chain of some of the records, numbered anew."""
-    shorter = {}
-    for measure, groups in chain.items():
-        kept = []
-        for limit, entries in groups:
-            fewer = tuple([(whos.index(who), field) for who, field in entries if who in whos])
-            if limit or fewer:
-                kept.append((limit, fewer))
-        shorter[measure] = tuple(kept)
-    return shorter
 
 
 def records_in(chart, chain, cells):

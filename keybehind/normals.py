@@ -1,91 +1,84 @@
 """Normal keys: what is read and named without need is left out."""
 
-from keybehind.building import plain_node, says_so
-from keybehind.cells import narrowed
+from keybehind.cells import measures_read, widened
 from keybehind.charts import Chart
-from keybehind.sayers import Pathing, paths_in
+from keybehind.plainpaths import node_of, plain_paths
 
 
-def normal_key(chart, node):
-    """The normal key that says what the plain key for a chart with this node says."""
-    paths = paths_in(node)
-    needless = [pair for pair in chart.reads if not _matters(chart, node, paths, pair)]
+def normal_key(chart, paths):
+    """The normal key that says what plain paths for a chart say."""
+    needless = [pair for pair in chart.reads if not _matters(chart, paths, pair)]
     if needless:
-        chart, node = _without_reads(chart, paths, needless)
-        paths = paths_in(node)
-    needless = [pair for pair in chart.limits if not _is_needed(chart, node, paths, pair)]
+        reads = tuple([pair for pair in chart.reads if pair not in needless])
+        chart, paths = _narrower(chart, paths, reads, chart.limits)
+    needless = [pair for pair in chart.limits if not _is_needed(chart, paths, pair)]
     if needless:
-        chart, node = _without_limits(chart, paths, needless)
-    return (chart.reads, chart.limits, node)
+        limits = tuple([pair for pair in chart.limits if pair not in needless])
+        chart, paths = _narrower(chart, paths, chart.reads, limits)
+    return (chart.reads, chart.limits, node_of(chart, paths))
 
 
-def _matters(chart, node, paths, pair):
+def _narrower(chart, paths, reads, limits):
+    """The chart for fewer reads and limits, and its plain paths: what is left out lies where it tells nothing."""
+    narrow = Chart(chart.family, reads, limits)
+    wide = {kind: measures_read(chart.family, chart.reads, chart.limits, kind) for kind in chart.family.names}
+    moved = [paths[chart.numbers[widened(cell, wide[cell[0]])]] for cell in narrow.cells]
+    return narrow, plain_paths(narrow, moved)
+
+
+def _matters(chart, paths, pair):
     """Whether records that differ in this field of this kind alone are not always alike."""
     kind, field = pair
+    kin = [at for at, cell in enumerate(chart.cells) if cell[0] == kind]
+    path = paths[kin[0]]
+    if not path[0][1] and all([paths[at] == path for at in kin]):
+        return False
+    measure = chart.family.measure_of(field)
+    for at in kin:
+        path = paths[chart.numbers[_lowered(chart.cells[at], measure, field)]]
+        # Plain paths that say the same are the same, but a field may have come to others.
+        if field in [step[2] for step in path] or _led(chart, at, path) != paths[at]:
+            return True
+    return False
+
+
+def _led(chart, cell, path):
+    """A path with the least fields of the groups in which its fields are in a cell."""
+    steps = []
+    for number, way, field in path:
+        steps.append((number, way, chart.slots[cell][chart.places[cell][field]][2][0] if way else ""))
+    return tuple(steps)
+
+
+def _is_needed(chart, paths, pair):
+    """Whether something else is said of some records if their values move past this limit together."""
     moved = []
-    for cell in chart.cells:
-        path = paths[_lowered(chart.family, cell, field) if cell[0] == kind else cell]
-        if cell[0] == kind and field in [step[2] for step in path]:
+    for at, cell in enumerate(chart.cells):
+        path = paths[chart.numbers[_raised(cell, pair)]]
+        if path != paths[at] and not path[0][1]:
             return True
         moved.append(path)
-    return not says_so(chart, Pathing(moved), node)
+    return moved != paths and plain_paths(chart, moved) != paths
 
 
-def _is_needed(chart, node, paths, pair):
-    """Whether something else is said of some records if their values move past this limit together."""
-    moved = [_raised(cell, pair) for cell in chart.cells]
-    if moved == list(chart.cells):
-        return False
-    return not says_so(chart, Pathing([paths[cell] for cell in moved]), node)
-
-
-def _without_reads(chart, paths, needless):
-    """The chart without some pairs that do not matter, and the node for it."""
-    moved = {}
-    for cell in chart.cells:
-        low = cell
-        for kind, field in needless:
-            if kind == cell[0]:
-                low = _lowered(chart.family, low, field)
-        moved[cell] = low
-    reads = tuple([pair for pair in chart.reads if pair not in needless])
-    return _narrower(chart, paths, moved, reads, chart.limits)
-
-
-def _without_limits(chart, paths, needless):
-    """The chart without some limits that are not needed, and the node for it."""
-    moved = {}
-    for cell in chart.cells:
-        low = cell
-        # From high to low: so of limits beside one another each one passes all values between them.
-        for pair in needless[::-1]:
-            low = _raised(low, pair)
-        moved[cell] = low
-    limits = tuple([pair for pair in chart.limits if pair not in needless])
-    return _narrower(chart, paths, moved, chart.reads, limits)
-
-
-def _narrower(chart, paths, moved, reads, limits):
-    """The chart for fewer reads and limits, and its node: records go by the path of the cell to which they move."""
-    fewer = {narrowed(cell, reads, limits): paths[moved[cell]] for cell in chart.cells}
-    narrow = Chart(chart.family, reads, limits)
-    return (narrow, plain_node(narrow, Pathing([fewer[cell] for cell in narrow.cells])))
-
-
-def _lowered(family, cell, field):
+def _lowered(cell, measure, field):
     """The cell in which a field lies below all others of its measure."""
-    kind, rows = cell
-    lowered = []
-    for measure, groups in rows:
-        if measure == family.measure_of(field):
+    rows = []
+    for name, groups in cell[1]:
+        if name == measure:
             groups = (((), (field,)), *_without_field(groups, field))
-        lowered.append((measure, groups))
-    return (kind, tuple(lowered))
+        rows.append((name, groups))
+    return (cell[0], tuple(rows))
 
 
 def _without_field(groups, field):
-    fewer = [(limit, tuple([part for part in fields if part != field])) for limit, fields in groups]
-    return [(limit, fields) for limit, fields in fewer if limit or fields]
+    fewer = []
+    for limit, fields in groups:
+        if field in fields:
+            fields = tuple([part for part in fields if part != field])
+        if limit or fields:
+            fewer.append((limit, fields))
+    return fewer
 
 
 def _raised(cell, pair):

@@ -2,18 +2,18 @@
 
 from keybehind.basics import ascending
 from keybehind.breaking import verdict
-from keybehind.building import plain_node
 from keybehind.cells import cell_of
-from keybehind.common import common_node, turned_node
+from keybehind.common import common_paths, turned_node
 from keybehind.comparing import NOT_LESS, OPPOSITE, UNLIKE, pair_said
 from keybehind.conditions import is_condition
 from keybehind.errors import BadCondition, BadKey, Broken, NoField, NoKind, NotOrder, NotRecord, Opposite, OtherFamily
 from keybehind.judging import judge
+from keybehind.deciding import cells_with
 from keybehind.keys import chart_for, is_key, normal, place_on
 from keybehind.normals import normal_key
+from keybehind.plainpaths import plain_paths
 from keybehind.reading import read_and_named, reads_of
 from keybehind.sayers import Changing, Pathing, paths_for, paths_in
-from keybehind.trees import settled_condition
 
 
 class Order:
@@ -98,15 +98,16 @@ class Order:
         if not isinstance(other, Order):
             return NotImplemented
         chart, paths, other_paths = _side_by_side(self, other)
-        node = common_node(plain_node(chart, Pathing(paths)), plain_node(chart, Pathing(other_paths)))
-        paths = paths_in(node)
-        return _order_on(chart, [paths[cell] for cell in chart.cells])
+        plain = [plain_paths(chart, part) for part in (paths, other_paths)]
+        found = common_paths(plain[0], plain[1])
+        return _order_on(chart, [found[cell] for cell in range(len(paths))])
 
     def __or__(self, other):
         if not isinstance(other, Order):
             return NotImplemented
         chart, paths, other_paths = _side_by_side(self, other)
-        records = pair_said(chart, Pathing(paths), Pathing(other_paths), OPPOSITE, list(range(len(chart.cells))))
+        sayers = [Pathing(plain_paths(chart, part)) for part in (paths, other_paths)]
+        records = pair_said(chart, sayers[0], sayers[1], OPPOSITE, chart.full)
         if records:
             raise Opposite(records[0], records[1])
         return _order_on(chart, _one_then_other(paths, other_paths))
@@ -142,8 +143,8 @@ class Order:
     def __getitem__(self, condition):
         chart = chart_with(self, condition)
         paths = paths_for(chart, self.key)
-        having = cells_having(chart, condition)
-        return _order_on(chart, [_path_within(path, met) for path, met in zip(paths, having)])
+        met = cells_with(chart, condition)
+        return _order_on(chart, [_path_within(path, met >> at & 1) for at, path in enumerate(paths)])
 
     def __iter__(self):
         raise TypeError("an order is not iterated over")
@@ -151,7 +152,8 @@ class Order:
     def changed(self, condition, other):
         """This order, but the other one for two records that both have a condition."""
         chart = chart_with(self, condition, other)
-        sayer = Changing(paths_for(chart, self.key), paths_for(chart, other.key), cells_having(chart, condition))
+        paths = [plain_paths(chart, paths_for(chart, part.key)) for part in (self, other)]
+        sayer = Changing(chart, paths[0], paths[1], cells_with(chart, condition))
         word, found = verdict(chart, sayer)
         if word == "broken":
             raise NotOrder(found) from Broken(found)
@@ -167,11 +169,6 @@ def chart_with(order, condition, *others):
         raise BadCondition(condition)
     parts = [read_and_named(order.family, condition), *[other.key for other in others]]
     return chart_for(order.family, order.key, *parts)
-
-
-def cells_having(chart, condition):
-    """Of each cell, whether its records have a condition."""
-    return [settled_condition(chart, condition, "a", at) is True for at in range(len(chart.cells))]
 
 
 def _is_beside(order, thing):
@@ -191,7 +188,7 @@ def _order_by(family, key):
 
 def _order_on(chart, paths):
     """The order by the paths of the cells of a chart."""
-    return _order_by(chart.family, normal_key(chart, plain_node(chart, Pathing(paths))))
+    return _order_by(chart.family, normal_key(chart, plain_paths(chart, paths)))
 
 
 def _side_by_side(one, other):
@@ -207,7 +204,8 @@ def _pair_said(one, other, wanted):
     chart, paths, other_paths = _side_by_side(one, other)
     if one.key == other.key:
         return None
-    return pair_said(chart, Pathing(paths), Pathing(other_paths), wanted, list(range(len(chart.cells))))
+    sayers = [Pathing(plain_paths(chart, part)) for part in (paths, other_paths)]
+    return pair_said(chart, sayers[0], sayers[1], wanted, chart.full)
 
 
 def _one_then_other(paths, other_paths):

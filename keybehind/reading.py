@@ -9,7 +9,7 @@ def read_and_named(family, thing):
     """The reads and limits of a condition or a comparison."""
     fields = []
     limits = []
-    for test in _tests_in(thing):
+    for test in tests_in(thing):
         read = [side[1] for side in test[1:] if isinstance(side, tuple)]
         fields.extend(read)
         limits.extend([(family.measure_of(read[0]), side) for side in test[1:] if isinstance(side, int)])
@@ -28,15 +28,17 @@ def together(*parts):
     return (ascending(reads), ascending(limits))
 
 
-def _tests_in(thing):
-    """All tests in a condition or a comparison."""
+def tests_in(thing):
+    """All tests in a condition or a tree."""
     tests = []
     todo = [thing]
     while todo:
         part = todo.pop()
         if isinstance(part, str):
             continue
-        if part[0] in NESTS:
+        if part[0] == "then":
+            todo.extend([part[1], *[rest for _, rest in part[2]]])
+        elif part[0] in NESTS:
             todo.extend(part[1:])
         else:
             tests.append(part)

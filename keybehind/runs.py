@@ -1,13 +1,15 @@
 """Runs of a condition in sorted lists, and whether lists by one order serve as lists by another one."""
 
-from keybehind.building import plain_node
 from keybehind.cells import record_of
 from keybehind.common import cells_in
 from keybehind.comparing import NOT_LESS, pair_said
 from keybehind.conditions import STEP
+from keybehind.deciding import cells_with
 from keybehind.errors import NoRow
-from keybehind.orders import cells_having, chart_with
-from keybehind.sayers import Pathing, paths_for
+from keybehind.keys import sayer_for
+from keybehind.orders import chart_with
+from keybehind.plainpaths import node_of, plain_paths
+from keybehind.sayers import paths_for
 
 # How far from limits the values of a row stay: so the other values of each record have room beside them.
 CLEAR = 10
@@ -36,16 +38,16 @@ def row_with(order, condition, many):
 def obstacle(order, wish, condition):
     """Two records with a condition of which the wish says "less" and the order does not, or None."""
     chart = chart_with(order, condition, wish)
-    having = cells_having(chart, condition)
-    cells = [at for at, met in enumerate(having) if met]
-    return pair_said(chart, Pathing(paths_for(chart, wish.key)), Pathing(paths_for(chart, order.key)), NOT_LESS, cells)
+    sayers = [sayer_for(chart, part.key) for part in (wish, order)]
+    return pair_said(chart, sayers[0], sayers[1], NOT_LESS, cells_with(chart, condition))
 
 
 def _first_node(order, condition):
     """The chart for an order and a condition, the node of the plain key, and whether each cell has the condition."""
     chart = chart_with(order, condition)
-    node = plain_node(chart, Pathing(paths_for(chart, order.key)))
-    return chart, node, dict(zip(chart.cells, cells_having(chart, condition)))
+    node = node_of(chart, plain_paths(chart, paths_for(chart, order.key)))
+    met = cells_with(chart, condition)
+    return chart, node, {cell: met >> at & 1 == 1 for at, cell in enumerate(chart.cells)}
 
 
 def _mixed_block(node, having):

@@ -1,12 +1,19 @@
 """Sayers: what says of two records whether the first one is less, alike or greater, told by the cells of a chart.
 
+Each sayer has `decided`, for each word the rows of the pairs of cells of which it says this word for certain, and
+`tree`, a settled tree for two cells of which it is not certain. With those that may be broken, `firsts` tells for each
+cell the first one that is like it: the same is said of both, beside whatever cell.
+
 A *path* tells of a cell what its records are compared by, step after step. A step is `(number, way, field)`: the lesser
 number is less; if the numbers are equal and there is a way, the values of the fields are compared that way; then the
-next step follows. Who has come to the end is alike. So the blocks of a key make a path for each cell.
+next step follows. Who has come to the end is alike. So the blocks of a key make a path for each cell. For a chart,
+paths are a list with the path of each cell; those of a plain key are *plain*.
 """
 
 from keybehind.cells import narrowed
-from keybehind.trees import settled
+from keybehind.deciding import decided
+from keybehind.reading import tests_in
+from keybehind.trees import is_of_kind, settled
 
 TURNED_WORDS = {"less": "greater", "alike": "alike", "greater": "less"}
 
@@ -16,37 +23,62 @@ class Comparing:
 
     def __init__(self, chart, comparison):
         self.chart = chart
-        self.by_first = [settled(chart, comparison, "a", at) for at in range(len(chart.cells))]
+        self.comparison = comparison
+        self.decided = decided(chart, comparison)
 
     def tree(self, one, other):
-        """What is said of records of two cells, as far as the cells tell."""
-        return settled(self.chart, self.by_first[one], "b", other)
+        """What is said of records of two cells."""
+        return settled(self.chart, self.comparison, one, other)
+
+    def firsts(self):
+        """For each cell the first one that is like it."""
+        family = self.chart.family
+        asked = [test for test in tests_in(self.comparison) if test[0] in ("is", "kind")]
+        signs = {kind: tuple([is_of_kind(family, test, kind) for test in asked]) for kind in family.names}
+        return _firsts_of([(signs[kind], rows) for kind, rows in self.chart.cells])
 
 
 class Pathing:
-    """What paths say, one for each cell of a chart."""
+    """What plain paths say."""
 
     def __init__(self, paths):
         self.paths = paths
+        self.decided = _decided_by_paths(paths)
 
     def tree(self, one, other):
-        """What is said of records of two cells, as far as the cells tell."""
+        """What is said of records of two cells."""
         return tree_of_paths(self.paths[one], self.paths[other])
 
 
 class Changing:
-    """What paths say; but other paths of records that both have their cells among some."""
+    """What plain paths say; but other ones of records that both have their cells in a set."""
 
-    def __init__(self, paths, changed_paths, having):
+    def __init__(self, chart, paths, changed_paths, having):
+        self.chart = chart
         self.paths = paths
         self.changed_paths = changed_paths
         self.having = having
+        rows = _decided_by_paths(paths)
+        changed = _decided_by_paths(changed_paths)
+        self.decided = {word: [_joined(having, at, row, changed[word][at]) for at, row in enumerate(rows[word])]
+                        for word in rows}
 
     def tree(self, one, other):
-        """What is said of records of two cells, as far as the cells tell."""
-        if self.having[one] and self.having[other]:
+        """What is said of records of two cells."""
+        if self.having >> one & self.having >> other & 1:
             return tree_of_paths(self.changed_paths[one], self.changed_paths[other])
         return tree_of_paths(self.paths[one], self.paths[other])
+
+    def firsts(self):
+        """For each cell the first one that is like it."""
+        return _firsts_of([(self.having >> at & 1, path, self.changed_paths[at], self.chart.cells[at][1])
+                           for at, path in enumerate(self.paths)])
+
+
+def certain(sayer, word, cell):
+    """The set of the cells of which, beside one cell, a sayer says a word for certain."""
+    rows = sayer.decided.get(word, ())
+    return rows[cell] if rows else 0
 
 
 def tree_of_paths(path, other_path):
@@ -86,4 +118,41 @@ def paths_in(node):
 def paths_for(chart, key):
     """The paths of a key for a chart that has at least the reads and limits of the key."""
     paths = paths_in(key[2])
-    return [paths[narrowed(cell, key[0], key[1])] for cell in chart.cells]
+    if (chart.reads, chart.limits) == key[:2]:
+        return [paths[cell] for cell in chart.cells]
+    reads = {read: True for read in key[0]}
+    limits = {limit: True for limit in key[1]}
+    return [paths[narrowed(cell, reads, limits)] for cell in chart.cells]
+
+
+def _firsts_of(looks):
+    """For each of some values the number of the first one that is equal to it."""
+    firsts = {}
+    for at, look in enumerate(looks):
+        firsts.setdefault(look, at)
+    return [firsts[look] for look in looks]
+
+
+def _decided_by_paths(paths):
+    """For each word, the rows of the pairs of cells of which plain paths say it whatever the values are."""
+    sets = []
+    for at, path in enumerate(paths):
+        number = path[0][0]
+        while number >= len(sets):
+            sets.append(0)
+        sets[number] = sets[number] | 1 << at
+    behind = []
+    ahead = []
+    passed = 0
+    for found in sets:
+        ahead.append(passed)
+        passed = passed | found
+    behind = [passed ^ low ^ found for low, found in zip(ahead, sets)]
+    return {"less": [behind[path[0][0]] for path in paths],
+            "alike": [0 if path[0][1] else sets[path[0][0]] for path in paths],
+            "greater": [ahead[path[0][0]] for path in paths]}
+
+
+def _joined(having, at, row, changed):
+    """A row for one cell; the other row counts where both cells are in a set."""
+    return changed & having | row & ~having if having >> at & 1 else row

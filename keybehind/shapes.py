@@ -1,7 +1,6 @@
 """Which values are keys, and which of these are plain; any value can be asked about."""
 
 from keybehind.basics import ascending, is_row, is_whole
-from keybehind.building import gap_of
 from keybehind.charts import Chart
 from keybehind.conditions import is_limit
 
@@ -121,8 +120,25 @@ def _is_plain(chart, node, told):
             _, limit, fields = chart.slots[at][slot]
             if limit or slot in told[cell] or field != fields[0]:
                 return False
-            gaps.append(gap_of(chart.slots[at], told[cell], slot))
+            gaps.append(_gap_of(chart.slots[at], told[cell], slot))
             below[cell] = (*told[cell], slot)
         if not all([gap == gaps[0] for gap in gaps]) or not _is_plain(chart, block[3], below):
             return False
     return True
+
+
+def _gap_of(slots, told, slot):
+    """The gap in which a slot lies among the limits and the told slots."""
+    return (slots[slot][0], _anchor_beside(slots, told, slot, -1), _anchor_beside(slots, told, slot, 1))
+
+
+def _anchor_beside(slots, told, slot, step):
+    """What is met first if one goes up or down from a slot: a limit, the number of a told slot, or nothing."""
+    at = slot + step
+    while 0 <= at < len(slots) and slots[at][0] == slots[slot][0]:
+        if slots[at][1]:
+            return ("limit", slots[at][1][0])
+        if at in told:
+            return ("told", told.index(at))
+        at = at + step
+    return ()

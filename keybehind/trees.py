@@ -1,76 +1,114 @@
-"""Trees: what is said of the records of two cells, with only those tests left that the cells do not decide.
+"""Trees: what is said of two records, as comparisons tell it.
 
-A tree is a comparison in which each test is about one field of each record. *Spans* tell of each field of a record
-from which height to which one its value may lie, as `(low, high)`; if both are one, it lies there. Only values of one
-measure are compared, so each measure has heights of its own.
+A tree is a word; or ("if", condition, yes, no) as in comparisons; or ("then", tree, rows) with a row (word, tree) for
+each word at which the first tree can end, where it goes on with the second one. Its conditions are those on two
+records, with one more test: ("kind", who, kind), the record is of just this kind.
+
+*Spans* tell of each field of a record from which height to which one its value may lie, as `(low, high)`; if both are
+one, it lies there. Only values of one measure are compared, so each measure has heights of its own.
 """
 
 from keybehind.parsing import JOINTS
 
 
-def settled(chart, tree, who, cell):
-    """A comparison, as it is left if the cell of one of its records is known."""
+def settled(chart, tree, one, other):
+    """A tree, as it is left if the cells of both records are known: in each test a field of each record is left."""
+    while not isinstance(tree, str) and tree[0] == "if":
+        condition = _settled_condition(chart, tree[1], one, other)
+        if not isinstance(condition, bool):
+            yes = settled(chart, tree[2], one, other)
+            no = settled(chart, tree[3], one, other)
+            return yes if yes == no else ("if", condition, yes, no)
+        tree = tree[2] if condition else tree[3]
     if isinstance(tree, str):
         return tree
-    condition = settled_condition(chart, tree[1], who, cell)
-    if condition is True:
-        return settled(chart, tree[2], who, cell)
-    if condition is False:
-        return settled(chart, tree[3], who, cell)
-    yes = settled(chart, tree[2], who, cell)
-    no = settled(chart, tree[3], who, cell)
-    return yes if yes == no else ("if", condition, yes, no)
+    ahead = settled(chart, tree[1], one, other)
+    if isinstance(ahead, str):
+        return settled(chart, rest_behind(tree, ahead), one, other)
+    return ("then", ahead, tuple([(word, settled(chart, rest, one, other)) for word, rest in tree[2]]))
 
 
-def settled_condition(chart, condition, who, cell):
-    """A condition, as it is left if the cell of one of its records is known; True or False if it is decided."""
+def word_in(tree, spans, other_spans):
+    """The word of a settled tree; or two fields, one of each record, whose values must be known first."""
+    while not isinstance(tree, str):
+        if tree[0] == "if":
+            met = _met(tree[1], spans, other_spans)
+            if isinstance(met, tuple):
+                return met
+            tree = tree[2] if met else tree[3]
+        else:
+            word = word_in(tree[1], spans, other_spans)
+            if isinstance(word, tuple):
+                return word
+            tree = rest_behind(tree, word)
+    return tree
+
+
+def is_of_kind(family, test, kind):
+    """Whether a test of the kind of a record is true for a kind."""
+    return kind == test[2] if test[0] == "kind" else family.is_heir(kind, test[2])
+
+
+def rest_behind(tree, ahead):
+    """Where a tree goes on behind a word."""
+    return [rest for word, rest in tree[2] if word == ahead][0]
+
+
+def _settled_condition(chart, condition, one, other):
+    """A condition, as it is left if the cells are known; True or False if it is decided."""
     word = condition[0]
     if word == "not":
-        part = settled_condition(chart, condition[1], who, cell)
+        part = _settled_condition(chart, condition[1], one, other)
         return (not part) if isinstance(part, bool) else ("not", part)
     if word not in JOINTS:
-        return _settled_test(chart, condition, who, cell)
+        return _settled_test(chart, condition, one, other)
     # The part that decides: a false one among those joined by "and", a true one among those joined by "or".
     deciding = word == "or"
     left = []
     for part in condition[1:]:
-        part_left = settled_condition(chart, part, who, cell)
+        part_left = _settled_condition(chart, part, one, other)
         if not isinstance(part_left, bool):
             left.append(part_left)
         elif part_left == deciding:
             return deciding
+    if len(left) == 1:
+        return left[0]
     return (word, *left) if left else not deciding
 
 
-def word_in(tree, spans, other_spans):
-    """The word of a tree; or two fields, one of each record, whose values must be known first."""
-    while not isinstance(tree, str):
-        met = _met(tree[1], spans, other_spans)
-        if isinstance(met, tuple):
-            return met
-        tree = tree[2] if met else tree[3]
-    return tree
-
-
-def _settled_test(chart, test, who, cell):
-    word, one, other = test
-    if word == "is":
-        return chart.family.is_heir(chart.cells[cell][0], other) if one == who else test
-    read = [side for side in (one, other) if isinstance(side, tuple)]
-    mine = [side[1] for side in read if side[0] == who]
-    if not all([field in chart.places[cell] for field in mine]):
+def _settled_test(chart, test, one, other):
+    word, low, high = test
+    if word == "is" or word == "kind":
+        return is_of_kind(chart.family, test, chart.cells[one if low == "a" else other][0])
+    if isinstance(low, int):
+        cell = one if high[0] == "a" else other
+        return _met_beside_limit(chart, word, cell, high[1], low, True)
+    cell = one if low[0] == "a" else other
+    if isinstance(high, int):
+        return _met_beside_limit(chart, word, cell, low[1], high, False)
+    beside = one if high[0] == "a" else other
+    if low[1] not in chart.places[cell] or high[1] not in chart.places[beside]:
         return False
-    if len(mine) < len(read) or not mine:
+    slot = chart.places[cell][low[1]]
+    other_slot = chart.places[beside][high[1]]
+    if low[0] == high[0]:
+        return slot < other_slot if word == "less" else slot == other_slot
+    zone = chart.zones[cell][slot]
+    other_zone = chart.zones[beside][other_slot]
+    if zone == other_zone and zone % 2 == 0:
         return test
-    measure = chart.family.measure_of(mine[0])
-    low = _slot_of(chart, cell, measure, one)
-    high = _slot_of(chart, cell, measure, other)
-    return low < high if word == "less" else low == high
+    return zone < other_zone if word == "less" else zone == other_zone
 
 
-def _slot_of(chart, cell, measure, side):
-    """In which slot of a cell a side of a test stands."""
-    return chart.marks[cell][(measure, side)] if isinstance(side, int) else chart.places[cell][side[1]]
+def _met_beside_limit(chart, word, cell, field, limit, turned):
+    """Whether a field and a limit, or turned the limit and the field, have a test."""
+    if field not in chart.places[cell]:
+        return False
+    zone = chart.zones[cell][chart.places[cell][field]]
+    mark = chart.marks[(chart.family.measure_of(field), limit)]
+    if word == "same":
+        return zone == mark
+    return mark < zone if turned else zone < mark
 
 
 def _met(condition, spans, other_spans):

@@ -6,7 +6,7 @@ from itertools import product
 
 from keybehind.charts import Chart
 from keybehind.families import Family
-from keybehind.meetings import chain_of, joined, outcomes, picked, records_in
+from keybehind.meetings import arranged, chain_of, joined, outcomes, pair_of, records_in
 from keybehind.parsing import SAID
 from keybehind.trees import settled, word_in
 from tests import reference, samples
@@ -39,7 +39,7 @@ def whole_chart(family, limits):
 
 
 def tree_between(chart, comparison, one, other):
-    return settled(chart, settled(chart, comparison, "a", one), "b", other)
+    return settled(chart, comparison, one, other)
 
 
 class Meetings(unittest.TestCase):
@@ -119,17 +119,6 @@ class Meetings(unittest.TestCase):
                         [chart.cells[at] for at in cells],
                     )
                     self.assertEqual(words, tuple(word(records[one], records[other]) for one, other in pairs))
-                    for whos in ((0, 2), (2, 1), (1, 0)):
-                        fewer = picked(longer, whos)
-                        some = records_in(chart, fewer, [cells[who] for who in whos])
-                        self.assertEqual(
-                            reference.lying(family, chart.limits, *some),
-                            reference.lying(family, chart.limits, *[records[who] for who in whos]),
-                        )
-                        # Nothing is left of the third one: all groups have limits or values of the two.
-                        for groups in fewer.values():
-                            self.assertTrue(all(limit or entries for limit, entries in groups))
-                            self.assertLessEqual({who for _, entries in groups for who, _ in entries}, {0, 1})
                     many = many + 1
         self.assertGreater(many, 400)
 
@@ -159,6 +148,29 @@ class Meetings(unittest.TestCase):
             self.assertEqual(
                 [len(found), len(lying)], [{(1, 1): 3, (1, 2): 5, (2, 1): 5, (2, 2): 13}[tuple(groups)]] * 2
             )
+
+    def test_all_ways_of_two_cells(self):
+        # Every way in which the values of two records can lie is there once, whatever is asked.
+        for family, limits in (*CHARTS, (TRIPLE, ())):
+            chart = whole_chart(family, limits)
+            records = reference.all_ways(family, [limit for _, limit in limits], 2)
+            by_cell = {}
+            for record in records:
+                by_cell.setdefault(cell(family, chart.reads, chart.limits, record), []).append(record)
+            choice = random.Random(43)
+            for one, other in [choice.choices(range(len(chart.cells)), k=2) for _ in range(12)]:
+                chain = chain_of(chart.cells[one], 0)
+                found = [
+                    reference.lying(
+                        family, chart.limits, *records_in(chart, joined(chart, chain, other, spans, 1), (one, other))
+                    )
+                    for spans in arranged(chart, chain, other)
+                ]
+                self.assertEqual(len(found), len(set(found)))
+                rows = product(by_cell[chart.cells[one]], by_cell[chart.cells[other]])
+                self.assertLessEqual({reference.lying(family, chart.limits, r, s) for r, s in rows}, set(found))
+                pair = pair_of(chart, one, other)
+                self.assertIn(reference.lying(family, chart.limits, *pair), found)
 
     def asking(self, chart, tests, one, other):
         """A tree that asks for all of the tests, one after the other, whatever the answers are."""

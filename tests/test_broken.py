@@ -1,0 +1,157 @@
+"""Broken comparisons: whatever breaks them, wherever it lies, one to three records are named that do."""
+
+import random
+import unittest
+
+from keybehind.errors import Broken, NotOrder, TooMany
+from keybehind.families import Family
+from keybehind.judging import broken_holds, judge, key_holds
+from keybehind.orders import Order
+from tests import reference
+from tests.comparisons import apart, by, first, swapped, under
+from tests.drawn import LIMITS, any_comparison, any_family
+from tests.reference import all_ways, is_order, table
+
+TWO = Family((("x", "m"), ("y", "m")), ("k", (), ("x", "y")))
+THREE = Family((("x", "m"),), ("k", (), ("x",)), ("l", (), ("x",)), ("o", (), ("x",)))
+
+
+def same(who):
+    return ("same", (who, "x"), (who, "y"))
+
+
+# Of two records with equal values the greater ones are less; of one such and one other, both are less or greater.
+EVEN = (
+    "if",
+    ("and", same("a"), same("b")),
+    by("-y"),
+    (
+        "if",
+        same("a"),
+        ("if", ("less", ("a", "y"), ("b", "y")), "greater", "less"),
+        ("if", same("b"), "greater", "alike"),
+    ),
+)
+
+
+def ring(yes):
+    """Each of three kinds is less than the next one, if a condition holds; in each kind by the values."""
+    tree = "alike"
+    for one, other in (("k", "l"), ("l", "o"), ("o", "k")):
+        condition = ("and", ("is", "a", one), ("is", "b", other), yes)
+        tree = ("if", condition, "less", ("if", swapped(condition), "greater", tree))
+    return ("if", ("or", *[("and", ("is", "a", kind), ("is", "b", kind)) for kind in "klo"]), by("x"), tree)
+
+
+class Case(unittest.TestCase):
+    def assert_broken(self, family, comparison):
+        """Checks the records that are named for a broken comparison, and returns them."""
+        word, records = judge(family, comparison)
+        self.assertEqual(word, "broken")
+        self.assertIs(type(records), tuple)
+        self.assertIn(len(records), (1, 2, 3))
+        self.assertTrue(all(family.is_record(record) for record in records))
+        self.assertTrue(reference.breaks(family, comparison, records))
+        self.assertIs(broken_holds(family, comparison, records), True)
+        with self.assertRaises(NotOrder) as caught:
+            Order(family, comparison)
+        self.assertIs(broken_holds(family, comparison, caught.exception.records), True)
+        self.assertIs(type(caught.exception.__cause__), Broken)
+        return records
+
+
+class Drawn(Case):
+    def test_whatever_is_told_to_be_broken_is_broken(self):
+        choice = random.Random(51)
+        found = {1: 0, 2: 0, 3: 0}
+        orders = 0
+        for _ in range(4000):
+            family, limits = any_family(choice), choice.choice(LIMITS)
+            comparison = any_comparison(choice, family, limits)
+            try:
+                word, records = judge(family, comparison)
+            except TooMany:
+                continue
+            if word == "key":
+                orders = orders + 1
+                continue
+            self.assertIn(len(records), (1, 2, 3), (family.text, comparison))
+            self.assertIs(broken_holds(family, comparison, records), True, (family.text, comparison))
+            self.assertTrue(reference.breaks(family, comparison, records))
+            found[len(records)] = found[len(records)] + 1
+        self.assertGreater(min(found.values()), 300)
+        self.assertGreater(orders, 1000)
+
+    def test_just_what_is_an_order_has_a_key(self):
+        choice = random.Random(52)
+        found = {True: 0, False: 0}
+        while min(found.values()) < 60:
+            family = any_family(choice)
+            records = all_ways(family, (), 3)
+            if len(records) > 250:
+                continue
+            comparison = any_comparison(choice, family, ())
+            due = is_order(table(family, comparison, records))
+            word, key = judge(family, comparison)
+            self.assertEqual(word == "key", due, (family.text, comparison))
+            if due:
+                self.assertIs(key_holds(family, comparison, key), True)
+            found[due] = found[due] + 1
+
+
+class Apart(Case):
+    def test_apart_from_where_the_search_begins(self):
+        self.assert_broken(TWO, EVEN)
+        for names in (("is", "less"), ("p", "q"), ("zz", "aa")):
+            one, other = sorted(names)
+            family = Family(((one, "a"), (other, "a")), ("k", (), (one, other)))
+            self.assert_broken(family, renamed(EVEN, {"x": one, "y": other}))
+            self.assert_broken(family, renamed(EVEN, {"x": other, "y": one}))
+
+    def test_beside_limits(self):
+        for limit in (0, 1000, -5000):
+            for comparison in (
+                ("if", ("and", under(limit, "x"), ("less", ("b", "x"), limit)), EVEN, by("x")),
+                apart(under(limit, "y"), EVEN, by("x", "y")),
+                apart(("same", ("a", "x"), limit), by("y"), EVEN),
+                first(("same", ("a", "y"), limit), EVEN),
+            ):
+                self.assert_broken(TWO, comparison)
+
+    def test_broken_by_two_in_one_place_alone(self):
+        # Only two records between two limits, one of them even, are said to be less both ways round.
+        place = ("and", ("less", 0, ("a", "x")), under(1000, "x"), same("a"), ("less", ("b", "x"), ("b", "y")))
+        for limits in ((), (2000, 3000)):
+            comparison = ("if", place, "less", by("x", "y"))
+            for limit in limits:
+                comparison = first(("same", ("a", "x"), limit), comparison)
+            records = self.assert_broken(TWO, comparison)
+            self.assertEqual(len(records), 2)
+
+    def test_three_kinds(self):
+        self.assertEqual(sorted(kind for kind, _ in self.assert_broken(THREE, ring(("and",)))), ["k", "l", "o"])
+        for yes in (under(0, "x"), ("less", 0, ("b", "x")), ("and", under(0, "x"), ("less", ("b", "x"), 0))):
+            self.assertEqual(len(self.assert_broken(THREE, ring(yes))), 3)
+        two_of_them = first(("is", "a", "k"), by("x"))
+        self.assertEqual(judge(THREE, two_of_them)[0], "key")
+
+    def test_three_records_of_one_kind(self):
+        middle = ("and", ("less", 0, ("a", "x")), under(1000, "x"))
+        for comparison in (
+            ("if", ("and", middle, swapped(middle)), "alike", by("y", "x")),
+            ("if", ("and", middle, ("not", swapped(middle))), "alike", ("if", ("and", swapped(middle), ("not", middle)),
+                                                                        "alike", by("x"))),
+            ("if", ("less", ("a", "x"), ("b", "y")), "less", ("if", ("less", ("b", "x"), ("a", "y")), "greater", "alike")),
+        ):
+            self.assert_broken(TWO, comparison)
+
+
+def renamed(thing, names):
+    """A comparison with other names of fields."""
+    if isinstance(thing, tuple) and len(thing) == 2 and thing[0] in ("a", "b"):
+        return (thing[0], names[thing[1]])
+    return tuple(renamed(part, names) for part in thing) if isinstance(thing, tuple) else thing
+
+
+if __name__ == "__main__":
+    unittest.main()
