@@ -16,11 +16,7 @@ def is_condition(family, thing, *, both=False):
 
 def is_comparison(family, thing):
     """Whether a value is a comparison."""
-    if isinstance(thing, str):
-        return thing in SAID
-    if not is_row(thing, 4) or thing[0] != "if" or not is_condition(family, thing[1], both=True):
-        return False
-    return is_comparison(family, thing[2]) and is_comparison(family, thing[3])
+    return is_program(family, thing, SAID)
 
 
 def holds(family, condition, record):
@@ -73,6 +69,15 @@ def read_comparison(family, text):
     if not is_comparison(family, thing) or written(thing) != text:
         raise InvalidText()
     return thing
+
+
+def is_program(family, thing, words):
+    """Whether a value is one of these words, or an "if" with a condition on two records and such values."""
+    if isinstance(thing, str):
+        return thing in words
+    if not is_row(thing, 4) or thing[0] != "if" or not is_condition(family, thing[1], both=True):
+        return False
+    return is_program(family, thing[2], words) and is_program(family, thing[3], words)
 
 
 def is_limit(thing):

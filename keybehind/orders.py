@@ -37,7 +37,7 @@ class Order:
         """The order by a key."""
         if not is_key(family, key):
             raise BadKey(key)
-        return _order_by(family, normal(family, key))
+        return order_by(family, normal(family, key))
 
     @classmethod
     def by(cls, family, *fields):
@@ -92,7 +92,7 @@ class Order:
         return _with_field(self, other, False)
 
     def __neg__(self):
-        return _order_by(self.family, (self.reads, self.limits, turned_node(self.key[2])))
+        return order_by(self.family, (self.reads, self.limits, turned_node(self.key[2])))
 
     def __and__(self, other):
         if not isinstance(other, Order):
@@ -153,17 +153,13 @@ class Order:
         """This order, but the other one for two records that both have a condition."""
         chart = chart_with(self, condition, other)
         paths = [plain_paths(chart, paths_for(chart, part.key)) for part in (self, other)]
-        sayer = Changing(chart, paths[0], paths[1], cells_with(chart, condition))
-        word, found = verdict(chart, sayer)
-        if word == "broken":
-            raise NotOrder(found) from Broken(found)
-        return _order_by(self.family, normal_key(chart, found))
+        return order_said(chart, Changing(chart, paths[0], paths[1], cells_with(chart, condition)))
 
 
 def chart_with(order, condition, *others):
     """The chart for an order, a condition and other orders of its family."""
     for other in others:
-        if not _is_beside(order, other):
+        if not is_order_of(other, order.family):
             raise OtherFamily()
     if not is_condition(order.family, condition):
         raise BadCondition(condition)
@@ -171,12 +167,20 @@ def chart_with(order, condition, *others):
     return chart_for(order.family, order.key, *parts)
 
 
-def _is_beside(order, thing):
-    """Whether a value is an order of the same family."""
-    return isinstance(thing, Order) and order.family == thing.family
+def is_order_of(thing, family):
+    """Whether a value is an order of a family."""
+    return isinstance(thing, Order) and thing.family == family
 
 
-def _order_by(family, key):
+def order_said(chart, sayer):
+    """The order that a sayer is."""
+    word, found = verdict(chart, sayer)
+    if word == "broken":
+        raise NotOrder(found) from Broken(found)
+    return order_by(chart.family, normal_key(chart, found))
+
+
+def order_by(family, key):
     """The order by a normal key."""
     order = Order(family, "alike")
     order.key = key
@@ -188,12 +192,12 @@ def _order_by(family, key):
 
 def _order_on(chart, paths):
     """The order by the paths of the cells of a chart."""
-    return _order_by(chart.family, normal_key(chart, plain_paths(chart, paths)))
+    return order_by(chart.family, normal_key(chart, plain_paths(chart, paths)))
 
 
 def _side_by_side(one, other):
     """The chart for two orders, and the paths of each one for it."""
-    if not _is_beside(one, other):
+    if not is_order_of(other, one.family):
         raise OtherFamily()
     chart = chart_for(one.family, one.key, other.key)
     return chart, paths_for(chart, one.key), paths_for(chart, other.key)

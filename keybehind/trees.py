@@ -10,6 +10,8 @@ one, it lies there. Only values of one measure are compared, so each measure has
 
 from keybehind.parsing import JOINTS
 
+BACK = {"a": "b", "b": "a"}
+
 
 def settled(chart, tree, one, other):
     """A tree, as it is left if the cells of both records are known: in each test a field of each record is left."""
@@ -44,6 +46,15 @@ def word_in(tree, spans, other_spans):
     return tree
 
 
+def swapped(tree):
+    """The tree that says of two records what a tree says of them in each other's places."""
+    if isinstance(tree, str):
+        return tree
+    if tree[0] == "then":
+        return ("then", swapped(tree[1]), tuple([(word, swapped(rest)) for word, rest in tree[2]]))
+    return ("if", _swapped_condition(tree[1]), swapped(tree[2]), swapped(tree[3]))
+
+
 def is_of_kind(family, test, kind):
     """Whether a test of the kind of a record is true for a kind."""
     return kind == test[2] if test[0] == "kind" else family.is_heir(kind, test[2])
@@ -52,6 +63,15 @@ def is_of_kind(family, test, kind):
 def rest_behind(tree, ahead):
     """Where a tree goes on behind a word."""
     return [rest for word, rest in tree[2] if word == ahead][0]
+
+
+def _swapped_condition(condition):
+    word = condition[0]
+    if word == "not" or word in JOINTS:
+        return (word, *[_swapped_condition(part) for part in condition[1:]])
+    if word in ("is", "kind"):
+        return (word, BACK[condition[1]], condition[2])
+    return (word, *[side if isinstance(side, int) else (BACK[side[0]], side[1]) for side in condition[1:]])
 
 
 def _settled_condition(chart, condition, one, other):
@@ -78,7 +98,7 @@ def _settled_condition(chart, condition, one, other):
 
 def _settled_test(chart, test, one, other):
     word, low, high = test
-    if word == "is" or word == "kind":
+    if word in ("is", "kind"):
         return is_of_kind(chart.family, test, chart.cells[one if low == "a" else other][0])
     if isinstance(low, int):
         cell = one if high[0] == "a" else other

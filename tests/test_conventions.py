@@ -4,10 +4,13 @@ import copy
 import inspect
 import unittest
 
-from keybehind import cells, conditions, families, judging, keys, orders, runs
+from keybehind import cells, conditions, drafts, families, findings, judging, keys, operators, orders, runs, shelves
+from keybehind.drafts import Draft
 from keybehind.errors import OrderError
 from keybehind.families import Family
+from keybehind.operators import Operators
 from keybehind.orders import Order
+from keybehind.shelves import Shelf
 from tests.helpers import SHOP
 
 PARAMETERS = {
@@ -53,10 +56,30 @@ PARAMETERS = {
     (runs, "runs"): "(order, condition)",
     (runs, "row_with"): "(order, condition, many)",
     (runs, "obstacle"): "(order, wish, condition)",
+    (operators, "Operators"): "(family, *entries)",
+    (Operators, "ask"): "(self, sign, one, other)",
+    (Operators, "asked"): "(self, sign, one, other)",
+    (Operators, "refused"): "(self, sign)",
+    (Operators, "by_less"): "(self)",
+    (Operators, "otherwise"): "(self, sign, order)",
+    (drafts, "Draft"): "(order)",
+    (Draft, "set_order"): "(self, order)",
+    (Draft, "change"): "(self, condition, other)",
+    (Draft, "undo"): "(self)",
+    (Draft, "trying"): "(self)",
+    (Draft, "tried"): "(self, action)",
+    (shelves, "Shelf"): "(order, *records)",
+    (Shelf, "set_order"): "(self, order)",
+    (Shelf, "put"): "(self, *records)",
+    (Shelf, "take"): "(self, record)",
+    (Shelf, "span"): "(self, record)",
+    (Shelf, "merged"): "(self, other)",
+    (findings, "finding_holds"): "(thing)",
 }
 NESTED = ("and", ["or", {"less": [("a", "price"), [0]]}], {"is": ["a", {"pen": []}]}, [], {})
 
 PRICES = Order.by(SHOP, "price", "-cost")
+CLASSES = Operators(SHOP, ("ware", "<", ("if", ("less", ("a", "price"), ("b", "price")), "yes", "no")))
 
 
 class Conventions(unittest.TestCase):
@@ -82,7 +105,15 @@ class Conventions(unittest.TestCase):
                      lambda: keys.is_normal(SHOP, ((), (), given)), lambda: Order(SHOP, given), lambda: Order.of(SHOP, given),
                      lambda: Order.by(SHOP, "price", given), lambda: Order.by_kinds(SHOP, given), lambda: PRICES(given, given),
                      lambda: PRICES.row(given), lambda: PRICES == given, lambda: PRICES[given], lambda: PRICES.changed(given, PRICES),
-                     lambda: runs.runs(PRICES, given), lambda: runs.row_with(PRICES, given, 1), lambda: runs.obstacle(PRICES, PRICES, given)):
+                     lambda: runs.runs(PRICES, given), lambda: runs.row_with(PRICES, given, 1), lambda: runs.obstacle(PRICES, PRICES, given),
+                     lambda: Operators(SHOP, given), lambda: Operators(SHOP, ("pen", "<", given)), lambda: CLASSES.ask(given, given, given),
+                     lambda: CLASSES.asked("<", given, given), lambda: CLASSES.refused(given), lambda: CLASSES.otherwise(given, given),
+                     lambda: CLASSES.otherwise("<", given), lambda: Draft(PRICES).set_order(given), lambda: Draft(PRICES)[given],
+                     lambda: Draft(PRICES).change(given, PRICES), lambda: Shelf(PRICES, given), lambda: Shelf(PRICES).put(given),
+                     lambda: Shelf(PRICES).take(given), lambda: given in Shelf(PRICES), lambda: Shelf(PRICES)[given],
+                     lambda: Shelf(PRICES).span(given), lambda: Shelf(PRICES).merged(given), lambda: Shelf(PRICES).set_order(given),
+                     lambda: findings.finding_holds(given), lambda: findings.finding_holds(("order", given, given, given)),
+                     lambda: findings.finding_holds(("runs", PRICES, given, given, 1))):
             try:
                 self.assertIs(call(), False)
             except OrderError:
@@ -100,6 +131,8 @@ class Conventions(unittest.TestCase):
             self.assertEqual([order.family, order.reads, order.limits], [SHOP, *order.key[:2]])
             for name in ("family", "key", "reads", "limits"):
                 self.assertIn(name, vars(order))
+        for name in ("family", "entries"):
+            self.assertIn(name, vars(CLASSES))
 
     def test_results_are_tuples(self):
         for thing in (SHOP.fields, SHOP.kinds, SHOP.names, SHOP.measures, SHOP.line("pen"), SHOP.fields_of("pen"),
@@ -108,8 +141,26 @@ class Conventions(unittest.TestCase):
                       PRICES.place(("pen", (1, 2))), PRICES.row(), judging.judge(SHOP, "less"), judging.judge(SHOP, "less")[1],
                       judging.judge(SHOP, "alike"), keys.normal(SHOP, PRICES.key), keys.plain(SHOP, PRICES.key, (), ()),
                       keys.parting(SHOP, PRICES.key, (-PRICES).key), PRICES.unlike(-PRICES), PRICES.beside(-PRICES),
-                      runs.row_with(PRICES, ("and",), 1), runs.obstacle(PRICES, -PRICES, ("and",))):
+                      runs.row_with(PRICES, ("and",), 1), runs.obstacle(PRICES, -PRICES, ("and",)), CLASSES.entries,
+                      CLASSES.asked("<", ("ware", (1,)), ("ware", (2,))), CLASSES.refused("<="), CLASSES.otherwise("<", -PRICES),
+                      Shelf(PRICES).rows, Shelf(PRICES)[("and",)], Shelf(PRICES).span(("ware", (1,)))):
             self.assertIs(type(thing), tuple)
+
+    def test_methods_that_return_nothing(self):
+        draft, shelf = Draft(PRICES), Shelf(PRICES, ("ware", (1,)))
+        for found in (draft.set_order(-PRICES), draft.change(("and",), PRICES), draft.undo(), shelf.put(("ware", (2,))),
+                      shelf.take(("ware", (1,))), shelf.set_order(-PRICES)):
+            self.assertIsNone(found)
+
+    def test_no_object_is_equal_to_another_value(self):
+        things = (SHOP, PRICES, CLASSES, Draft(PRICES), Draft(PRICES).trying(), Shelf(PRICES))
+        for thing in things:
+            for other in (None, True, False, 0, 1, "", "price", (), [], {}, PRICES.key, SHOP.kinds, SHOP.text, (thing,), [thing], NESTED):
+                self.assertIs(thing == other, False)
+                self.assertIs(other == thing, False)
+                self.assertIs(thing != other, True)
+        for one in things:
+            self.assertEqual([one == other for other in things].count(True), 1)
 
     def test_results_are_of_plain_values_alone(self):
         def assert_plain(thing):
@@ -132,6 +183,14 @@ class Conventions(unittest.TestCase):
         for name in ("__eq__", "__call__", "__add__", "__radd__", "__neg__", "__and__", "__or__", "__le__", "__lt__", "__ge__", "__gt__", "__getitem__"):
             self.assertIn(name, vars(Order))
         self.assertEqual(Order.__bases__, (object,))
+        for name in ("__iadd__", "__iand__", "__ior__", "__getitem__", "__setitem__", "__len__", "__iter__", "order", "tried", "trying", "undo"):
+            self.assertIn(name, vars(Draft))
+        for name in ("__iadd__", "__getitem__", "__len__", "__contains__", "__iter__", "order", "rows", "put", "take", "span", "merged"):
+            self.assertIn(name, vars(Shelf))
+        for name in ("ask", "asked", "refused", "by_less", "otherwise"):
+            self.assertIn(name, vars(Operators))
+        for made in (Operators, Draft, Shelf):
+            self.assertEqual(made.__bases__, (object,))
 
 
 if __name__ == "__main__":

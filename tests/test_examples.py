@@ -1,4 +1,4 @@
-"""The examples of the document that use the modules that there are."""
+"""All examples of the document."""
 
 import doctest
 import unittest
@@ -56,6 +56,27 @@ True
 [1, 2, None, 0]
 >>> [obstacle(NESTED, BEGINS, LATE), obstacle(BEGINS, NESTED, LATE) is None]
 [None, False]
+>>> from keybehind.operators import Operators
+>>> CLASSES = Operators(SHOP, ("ware", "<", ("if", BELOW, "yes", "no")))
+>>> WARE = SHOP.record("ware", price=3000)
+>>> [CLASSES.ask("<", PEN, WARE), CLASSES.ask(">", PEN, WARE), CLASSES.ask("<=", PEN, WARE)]
+['yes', 'no', 'refused']
+>>> [CLASSES.by_less() == Order.by(SHOP, "price"), CLASSES.refused(">"), CLASSES.refused("<=") is None]
+[True, None, False]
+>>> COSTS = Operators(SHOP, ("ware", "<", ("if", BELOW, "yes", "no")), ("pen", ">", ("if", ("less", ("b", "cost"), ("a", "cost")), "yes", "other")))
+>>> len(COSTS.asked("<", WARE, PEN))
+2
+>>> from keybehind.drafts import Draft
+>>> from keybehind.shelves import Shelf
+>>> SHELF = Shelf(Order.by(SHOP, "-price"), PEN, BOOK)
+>>> SHELF.put(WARE, PEN)
+>>> [SHELF.rows, SHELF.span(PEN), SHELF[("is", "a", "pen")]]
+[(('book', (90, 5000)), ('ware', (3000,)), ('pen', (700, 2500)), ('pen', (700, 2500))), (2, 4), (('pen', (700, 2500)), ('pen', (700, 2500)))]
+>>> DRAFT = Draft(BEGINS)
+>>> DRAFT += "end"
+>>> DRAFT[LATE] = NESTED
+>>> [DRAFT.order.limits, len(DRAFT), DRAFT.undo(), DRAFT.order == Order.by(TIMES, "begin", "end")]
+[(('time', 2000),), 2, None, True]
 """
 
 
@@ -65,7 +86,7 @@ class Examples(unittest.TestCase):
         runner = doctest.DocTestRunner(verbose=False)
         runner.run(found)
         self.assertEqual(runner.failures, 0)
-        self.assertGreater(runner.tries, 30)
+        self.assertGreater(runner.tries, 50)
 
 
 if __name__ == "__main__":
