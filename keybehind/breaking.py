@@ -9,13 +9,15 @@ by which their places were found.
 from keybehind.basics import ascending
 from keybehind.building import found_paths, leads_of, said_of, spans_at
 from keybehind.charts import bits_in, set_of
-from keybehind.meetings import arranged, chain_of, joined, outcomes, pair_of, records_in, spans_in
+from keybehind.meetings import arranged, chain_of, joined, outcomes, records_in, records_of, spans_in
 from keybehind.parsing import SAID
+from keybehind.reading import tests_in
 from keybehind.sayers import TURNED_WORDS, Pathing, certain, tree_of_paths
 from keybehind.trees import word_in
 
 # What can rightly be said of r and s, of s and r, and by the key of r and s.
 RIGHT = (("less", "greater", "less"), ("alike", "alike", "alike"), ("greater", "less", "greater"))
+NOT_BEHIND = ("less", "alike")
 ROWS_OF_THREE = ((0, 1, 2), (0, 2, 1), (1, 0, 2), (1, 2, 0), (2, 0, 1), (2, 1, 0))
 
 
@@ -33,7 +35,11 @@ def verdict(chart, sayer):
     paths = found_paths(chart, sayer, leads, cells, 0)
     pathing = Pathing([paths[first] for first in firsts])
     # What is certain of two cells can be compared fast, so that comes first.
-    doubts, records = _looked_through(chart, sayer, leads, paths, _pairs_wrong(sayer, pathing, among))
+    pairs = _pairs_wrong(sayer, pathing, among)
+    doubts = []
+    records = _broken_for_certain(chart, sayer, among, pairs)
+    if not records:
+        doubts, records = _looked_through(chart, sayer, leads, paths, pairs)
     if not records:
         more, records = _looked_through(chart, sayer, leads, paths, _pairs_left(sayer, among))
         doubts = [*doubts, *more]
@@ -63,8 +69,33 @@ def _broken_turned(chart, sayer, among):
     for one in bits_in(among):
         for other in bits_in(certain(sayer, "less", one) & among):
             if wrong[other] >> one & 1:
-                return pair_of(chart, one, other)
+                return records_of(chart, (one, other))
     return ()
+
+
+def _broken_for_certain(chart, sayer, among, pairs):
+    """Three records of cells of a set, two of them one of the pairs, that break what is said for certain; or ()."""
+    for pair in pairs:
+        for one, other in (pair, pair[::-1]):
+            for third in bits_in(among & _hardly_between(sayer, one, other)):
+                # What is certain one way round need not fit the other way round.
+                words = [said_of(sayer, one, third), said_of(sayer, third, other), said_of(sayer, one, other)]
+                if words[1] in NOT_BEHIND and words[2] != follows(words[0], words[1]):
+                    return records_of(chart, (one, third, other))
+    return ()
+
+
+def _hardly_between(sayer, one, other):
+    """The set of the cells that break what is said for certain if they come between two cells."""
+    low = certain(sayer, "less", one)
+    alike = certain(sayer, "alike", one)
+    high = certain(sayer, "greater", other)
+    other_alike = certain(sayer, "alike", other)
+    if certain(sayer, "greater", one) >> other & 1:
+        return (low | alike) & (high | other_alike)
+    if alike >> other & 1:
+        return low & (high | other_alike) | alike & high
+    return alike & other_alike if low >> other & 1 else 0
 
 
 def _pairs_wrong(sayer, pathing, among):
@@ -99,22 +130,42 @@ def _pairs_of(rows):
 def _looked_through(chart, sayer, leads, paths, pairs):
     """The pairs of cells of which the paths do not say what is said; and records of such two that break it, or ()."""
     doubts = []
+    right = [*RIGHT]
     for pair in pairs:
-        doubted, records = _checked(chart, sayer, paths, pair)
+        trees = _trees_of(sayer, paths, pair)
+        if trees in right:
+            continue
+        doubted, records = _checked(chart, trees, pair)
         if doubted:
             records = records or _broken_in(chart, sayer, leads, ascending(pair))
             if records:
                 return doubts, records
             doubts.append(pair)
+        elif _asks_once(trees):
+            right.append(trees)
     return doubts, ()
 
 
-def _checked(chart, sayer, paths, pair):
+def _trees_of(sayer, paths, pair):
+    """What is said of two cells, what is said of them the other way round, and what paths say of them."""
+    one, other = pair
+    return (said_of(sayer, one, other), said_of(sayer, other, one), tree_of_paths(paths[one], paths[other]))
+
+
+def _asks_once(trees):
+    """Whether such trees ask for two values alone: then they are right for all cells or for none."""
+    asked = []
+    for tree, who in zip(trees, ("a", "b", "a")):
+        for _, one, other in tests_in(tree):
+            fields = (one[1], other[1]) if one[0] == who else (other[1], one[1])
+            if fields not in asked:
+                asked.append(fields)
+    return len(asked) == 1
+
+
+def _checked(chart, trees, pair):
     """Whether paths say something else of two cells than is said; and two records of them that break it, or ()."""
     one, other = pair
-    trees = (said_of(sayer, one, other), said_of(sayer, other, one), tree_of_paths(paths[one], paths[other]))
-    if trees in RIGHT:
-        return False, ()
     chain = chain_of(chart.cells[one], 0)
     doubted = False
     asked = ((trees[0], 0, 1, SAID), (trees[1], 1, 0, SAID), (trees[2], 0, 1, SAID))
@@ -131,7 +182,7 @@ def _broken_in(chart, sayer, leads, cells):
     found = False
     for at, one in enumerate(cells):
         for other in cells[at:]:
-            doubted, records = _checked(chart, sayer, paths, (one, other))
+            doubted, records = _checked(chart, _trees_of(sayer, paths, (one, other)), (one, other))
             if records:
                 return records
             found = found or doubted

@@ -1,9 +1,10 @@
 """What the cells of two records decide of a tree, told for all pairs of cells at once.
 
-*Rows* are a list with a set of cells for each cell: of the pairs of this cell and one of the set, something is known.
-What is known of a condition is `(who, yes, no)`: for who "a" or "b", yes is the set of the cells of which the record a
-or b has the condition, no the set of all others. For who "" yes and no are rows: pairs of cells that have the condition
-for certain, and pairs that do not have it for certain; of other pairs it hangs on the values.
+*Rows* are a list with a set of cells for each cell: of the pairs of this cell and one of the set, something is known. A
+*note* tells of a condition `(who, yes, no, condition, parts)`. For who "a" or "b", yes is the set of the cells of which
+the record a or b has the condition, no the set of all others. For who "" yes and no are rows: pairs of cells that have
+the condition for certain, and pairs that do not have it for certain; of other pairs it hangs on the values. The parts
+are the notes of what is joined by "not", "and" and "or". A *noted* tree has notes in the place of conditions.
 """
 
 from keybehind.charts import set_of
@@ -14,30 +15,21 @@ from keybehind.trees import is_of_kind
 LACKING = -1
 
 
+def noted(chart, tree):
+    """A tree with notes of its conditions."""
+    return _noted_tree(chart, _known(chart, tree), tree)
+
+
 def decided(chart, tree):
-    """For each word of a tree, the rows of the pairs of cells of which it is said for certain."""
-    known = {}
-    for test in tests_in(tree):
-        if test not in known:
-            known[test] = _met_test(chart, test)
-    return _words(chart, known, tree)
-
-
-def cells_with(chart, condition):
-    """The set of the cells of which the records have a condition on one record."""
-    _, yes, _ = _met(chart, {test: _met_test(chart, test) for test in tests_in(condition)}, condition)
-    return yes
-
-
-def _words(chart, known, tree):
+    """For each word of a noted tree, the rows of the pairs of cells of which it is said for certain."""
     many = len(chart.cells)
     if isinstance(tree, str):
         return {tree: [chart.full] * many}
     if tree[0] == "then":
-        return _words_then(chart, known, tree)
-    who, yes, no = _met(chart, known, tree[1])
-    first = _words(chart, known, tree[2])
-    last = _words(chart, known, tree[3])
+        return _decided_then(chart, tree)
+    who, yes, no, _, _ = tree[1]
+    first = decided(chart, tree[2])
+    last = decided(chart, tree[3])
     none = [0] * many
     found = {}
     for word in [*first, *[other for other in last if other not in first]]:
@@ -53,13 +45,52 @@ def _words(chart, known, tree):
     return found
 
 
-def _words_then(chart, known, tree):
+def cells_with(chart, condition):
+    """The set of the cells of which the records have a condition on one record."""
+    return _note(chart, _known(chart, condition), condition)[1]
+
+
+def _known(chart, thing):
+    """What is known of each test in a tree or a condition: who, yes and no."""
+    known = {}
+    for test in tests_in(thing):
+        if test not in known:
+            known[test] = _met_test(chart, test)
+    return known
+
+
+def _noted_tree(chart, known, tree):
+    if isinstance(tree, str):
+        return tree
+    if tree[0] == "then":
+        rows = [(word, _noted_tree(chart, known, rest)) for word, rest in tree[2]]
+        return ("then", _noted_tree(chart, known, tree[1]), tuple(rows))
+    yes, no = [_noted_tree(chart, known, part) for part in tree[2:]]
+    return ("if", _note(chart, known, tree[1]), yes, no)
+
+
+def _note(chart, known, condition):
+    """The note of a condition."""
+    word = condition[0]
+    if word != "not" and word not in JOINTS:
+        return (*known[condition], condition, ())
+    parts = tuple([_note(chart, known, part) for part in condition[1:]])
+    if word == "and":
+        return (*_all_of(chart, parts), condition, parts)
+    if word == "or":
+        who, no, yes = _all_of(chart, [(who, no, yes) for who, yes, no, _, _ in parts])
+    else:
+        who, no, yes = parts[0][:3]
+    return (who, yes, no, condition, parts)
+
+
+def _decided_then(chart, tree):
     """The same for a tree that goes on, word by word, where another one ends."""
-    ahead = _words(chart, known, tree[1])
+    ahead = decided(chart, tree[1])
     found = {}
     for word, rest in tree[2]:
         if word in ahead:
-            below = _words(chart, known, rest)
+            below = decided(chart, rest)
             for last in below:
                 rows = [one & other for one, other in zip(ahead[word], below[last])]
                 old = found.get(last, [0] * len(rows))
@@ -67,27 +98,13 @@ def _words_then(chart, known, tree):
     return found
 
 
-def _met(chart, known, condition):
-    """What is known of a condition."""
-    word = condition[0]
-    if word == "not":
-        who, yes, no = _met(chart, known, condition[1])
-        return (who, no, yes)
-    if word not in JOINTS:
-        return known[condition]
-    parts = [_met(chart, known, part) for part in condition[1:]]
-    if word == "and":
-        return _all_of(chart, parts)
-    who, no, yes = _all_of(chart, [(who, no, yes) for who, yes, no in parts])
-    return (who, yes, no)
-
-
 def _all_of(chart, parts):
-    """What is known of several conditions joined by "and"."""
+    """What is known of several conditions joined by "and": who, yes and no."""
     mine = chart.full
     yours = chart.full
     rows = ()
-    for who, yes, no in parts:
+    for part in parts:
+        who, yes, no = part[:3]
         if who == "a":
             mine = mine & yes
         elif who == "b":
@@ -109,7 +126,7 @@ def _all_of(chart, parts):
 
 
 def _met_test(chart, test):
-    """What is known of a test."""
+    """What is known of a test: who, yes and no."""
     word, one, other = test
     if word in ("is", "kind"):
         yes = set_of([is_of_kind(chart.family, test, kind) for kind, _ in chart.cells])
@@ -133,7 +150,7 @@ def _met_test(chart, test):
 
 
 def _met_between(chart, word, one, other):
-    """What is known of a test of a value of each record."""
+    """What is known of a test of a value of each record: who, yes and no."""
     mine, yours = (one, other) if one[0] == "a" else (other, one)
     zones = _zones_by_cell(chart, mine[1])
     beside = _zones_by_cell(chart, yours[1])

@@ -58,10 +58,12 @@ def arranged(chart, chain, cell):
     return found
 
 
-def pair_of(chart, one, other):
-    """Any two records of two cells."""
-    chain = chain_of(chart.cells[one], 0)
-    return records_in(chart, joined(chart, chain, other, _first_spans(chart, chain, other), 1), (one, other))
+def records_of(chart, cells):
+    """Any records of these cells."""
+    chain = chain_of(chart.cells[cells[0]], 0)
+    for who, cell in enumerate(cells[1:], start=1):
+        chain = joined(chart, chain, cell, _first_spans(chart, chain, cell), who)
+    return records_in(chart, chain, cells)
 
 
 def joined(chart, chain, cell, spans, who):

@@ -54,11 +54,20 @@ def _is_needed(chart, paths, pair):
     """Whether something else is said of some records if their values move past this limit together."""
     moved = []
     for at, cell in enumerate(chart.cells):
-        path = paths[chart.numbers[_raised(cell, pair)]]
+        path = paths[chart.numbers[_raised(cell, pair)]] if _is_passed(chart, at, pair) else paths[at]
         if path != paths[at] and not path[0][1]:
             return True
         moved.append(path)
     return moved != paths and plain_paths(chart, moved) != paths
+
+
+def _is_passed(chart, cell, pair):
+    """Whether a limit moves past a value of a cell if it moves up to just below the next one."""
+    mark = chart.marks[pair]
+    for slot in list(chart.places[cell].values()):
+        if chart.slots[cell][slot][0] == pair[0] and mark <= chart.zones[cell][slot] <= mark + 1:
+            return True
+    return False
 
 
 def _lowered(cell, measure, field):

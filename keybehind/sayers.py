@@ -11,7 +11,7 @@ paths are a list with the path of each cell; those of a plain key are *plain*.
 """
 
 from keybehind.cells import narrowed
-from keybehind.deciding import decided
+from keybehind.deciding import decided, noted
 from keybehind.reading import tests_in
 from keybehind.trees import is_of_kind, settled
 
@@ -24,11 +24,12 @@ class Comparing:
     def __init__(self, chart, comparison):
         self.chart = chart
         self.comparison = comparison
-        self.decided = decided(chart, comparison)
+        self._noted = noted(chart, comparison)
+        self.decided = decided(chart, self._noted)
 
     def tree(self, one, other):
         """What is said of records of two cells."""
-        return settled(self.chart, self.comparison, one, other)
+        return settled(self._noted, one, other)
 
     def firsts(self):
         """For each cell the first one that is like it."""

@@ -4,6 +4,8 @@ A tree is a word; or ("if", condition, yes, no) as in comparisons; or ("then", t
 each word at which the first tree can end, where it goes on with the second one. Its conditions are those on two
 records, with one more test: ("kind", who, kind), the record is of just this kind.
 
+What is left of a tree if the cells of both records are known has only tests with a field of each record.
+
 *Spans* tell of each field of a record from which height to which one its value may lie, as `(low, high)`; if both are
 one, it lies there. Only values of one measure are compared, so each measure has heights of its own.
 """
@@ -13,21 +15,21 @@ from keybehind.parsing import JOINTS
 BACK = {"a": "b", "b": "a"}
 
 
-def settled(chart, tree, one, other):
-    """A tree, as it is left if the cells of both records are known: in each test a field of each record is left."""
+def settled(tree, one, other):
+    """What is left of a noted tree if the cells of both records are known."""
     while not isinstance(tree, str) and tree[0] == "if":
-        condition = _settled_condition(chart, tree[1], one, other)
-        if not isinstance(condition, bool):
-            yes = settled(chart, tree[2], one, other)
-            no = settled(chart, tree[3], one, other)
-            return yes if yes == no else ("if", condition, yes, no)
-        tree = tree[2] if condition else tree[3]
+        met = _told(tree[1], one, other)
+        if met is None:
+            yes = settled(tree[2], one, other)
+            no = settled(tree[3], one, other)
+            return yes if yes == no else ("if", _left(tree[1], one, other), yes, no)
+        tree = tree[2] if met else tree[3]
     if isinstance(tree, str):
         return tree
-    ahead = settled(chart, tree[1], one, other)
+    ahead = settled(tree[1], one, other)
     if isinstance(ahead, str):
-        return settled(chart, rest_behind(tree, ahead), one, other)
-    return ("then", ahead, tuple([(word, settled(chart, rest, one, other)) for word, rest in tree[2]]))
+        return settled(rest_behind(tree, ahead), one, other)
+    return ("then", ahead, tuple([(word, settled(rest, one, other)) for word, rest in tree[2]]))
 
 
 def word_in(tree, spans, other_spans):
@@ -74,61 +76,24 @@ def _swapped_condition(condition):
     return (word, *[side if isinstance(side, int) else (BACK[side[0]], side[1]) for side in condition[1:]])
 
 
-def _settled_condition(chart, condition, one, other):
-    """A condition, as it is left if the cells are known; True or False if it is decided."""
-    word = condition[0]
-    if word == "not":
-        part = _settled_condition(chart, condition[1], one, other)
-        return (not part) if isinstance(part, bool) else ("not", part)
-    if word not in JOINTS:
-        return _settled_test(chart, condition, one, other)
-    # The part that decides: a false one among those joined by "and", a true one among those joined by "or".
-    deciding = word == "or"
-    left = []
-    for part in condition[1:]:
-        part_left = _settled_condition(chart, part, one, other)
-        if not isinstance(part_left, bool):
-            left.append(part_left)
-        elif part_left == deciding:
-            return deciding
-    if len(left) == 1:
-        return left[0]
-    return (word, *left) if left else not deciding
+def _told(note, one, other):
+    """Whether two records have a condition, if their cells tell that; otherwise None."""
+    who, yes, no, _, _ = note
+    if who:
+        return yes >> (one if who == "a" else other) & 1 == 1
+    if yes[one] >> other & 1:
+        return True
+    return False if no[one] >> other & 1 else None
 
 
-def _settled_test(chart, test, one, other):
-    word, low, high = test
-    if word in ("is", "kind"):
-        return is_of_kind(chart.family, test, chart.cells[one if low == "a" else other][0])
-    if isinstance(low, int):
-        cell = one if high[0] == "a" else other
-        return _met_beside_limit(chart, word, cell, high[1], low, True)
-    cell = one if low[0] == "a" else other
-    if isinstance(high, int):
-        return _met_beside_limit(chart, word, cell, low[1], high, False)
-    beside = one if high[0] == "a" else other
-    if low[1] not in chart.places[cell] or high[1] not in chart.places[beside]:
-        return False
-    slot = chart.places[cell][low[1]]
-    other_slot = chart.places[beside][high[1]]
-    if low[0] == high[0]:
-        return slot < other_slot if word == "less" else slot == other_slot
-    zone = chart.zones[cell][slot]
-    other_zone = chart.zones[beside][other_slot]
-    if zone == other_zone and zone % 2 == 0:
-        return test
-    return zone < other_zone if word == "less" else zone == other_zone
-
-
-def _met_beside_limit(chart, word, cell, field, limit, turned):
-    """Whether a field and a limit, or turned the limit and the field, have a test."""
-    if field not in chart.places[cell]:
-        return False
-    zone = chart.zones[cell][chart.places[cell][field]]
-    mark = chart.marks[(chart.family.measure_of(field), limit)]
-    if word == "same":
-        return zone == mark
-    return mark < zone if turned else zone < mark
+def _left(note, one, other):
+    """What is left of a condition of which the cells of two records do not tell whether they have it."""
+    _, _, _, condition, parts = note
+    if not parts:
+        return condition
+    left = [_left(part, one, other) for part in parts if _told(part, one, other) is None]
+    # One alone is all that counts of several that are joined.
+    return left[0] if len(left) == 1 and condition[0] in JOINTS else (condition[0], *left)
 
 
 def _met(condition, spans, other_spans):

@@ -1,4 +1,6 @@
-"""Families for the tests, and values that are bent at any place."""
+"""Families for the tests, values that are bent at any place, and a check of errors."""
+
+import unittest
 
 from keybehind.families import Family
 
@@ -55,3 +57,14 @@ def deep(inner, many, word="not"):
     for _ in range(many):
         inner = (word, inner)
     return inner
+
+
+class Case(unittest.TestCase):
+    def assert_raises(self, error, call, **attributes):
+        with self.assertRaises(error) as caught:
+            call()
+        self.assertIs(type(caught.exception), error)
+        for name, value in attributes.items():
+            self.assertEqual(getattr(caught.exception, name), value)
+            self.assertEqual(type(getattr(caught.exception, name)), type(value))
+        return caught.exception

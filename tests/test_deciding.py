@@ -7,7 +7,7 @@ from itertools import product
 from keybehind.breaking import verdict
 from keybehind.building import found_paths, leads_of, said_of
 from keybehind.charts import Chart, bits_in, lowest_in, set_of
-from keybehind.deciding import cells_with, decided
+from keybehind.deciding import cells_with, decided, noted
 from keybehind.plainpaths import node_of, plain_paths
 from keybehind.sayers import Comparing, Pathing, paths_for, tree_of_paths
 from keybehind.trees import settled, word_in
@@ -62,15 +62,16 @@ class Deciding(unittest.TestCase):
             for _ in range(12):
                 comparison = any_comparison(choice, family, named)
                 word = reference.worded(family, comparison)
-                rows = decided(chart, comparison)
+                tree = noted(chart, comparison)
+                rows = decided(chart, tree)
                 for one, other in choice.choices(list(product(records, records)), k=60):
                     words = {word(r, s) for r in records[one][:12] for s in records[other][:12]}
                     certain = [said for said in rows if rows[said][one] >> other & 1]
-                    tree = settled(chart, comparison, one, other)
+                    left = settled(tree, one, other)
                     if certain:
                         self.assertEqual(set(certain), words)
                     else:
-                        self.assertTrue(words <= set(leaves(tree)))
+                        self.assertTrue(words <= set(leaves(left)))
                     found[bool(certain)] = found[bool(certain)] + 1
         self.assertGreater(min(found.values()), 1000)
 
@@ -97,14 +98,14 @@ class Deciding(unittest.TestCase):
         for _ in range(40):
             ahead = samples.tree_from(choice, tests, 2)
             rests = {said: samples.tree_from(choice, tests, 2) for said in ("less", "alike", "greater")}
-            tree = ("then", ahead, tuple(rests.items()))
-            whole = grafted(ahead, rests)
+            tree = noted(chart, ("then", ahead, tuple(rests.items())))
+            whole = noted(chart, grafted(ahead, rests))
             rows, due = decided(chart, tree), decided(chart, whole)
             for one, other in choice.choices(list(product(range(len(chart.cells)), repeat=2)), k=30):
                 for said in rows:
                     if rows[said][one] >> other & 1:
                         self.assertTrue(due[said][one] >> other & 1)
-                left, right = settled(chart, tree, one, other), settled(chart, whole, one, other)
+                left, right = settled(tree, one, other), settled(whole, one, other)
                 spans = [
                     {field: (height, height) for field, height in zip(fields, choice.sample(range(9), len(fields)))}
                     for fields in (sorted(chart.places[one]), sorted(chart.places[other]))

@@ -7,7 +7,7 @@ from keybehind.drafts import Draft
 from keybehind.errors import BadCondition, Broken, NoField, NotOrder, NothingThere, Opposite, OtherFamily, TooMany
 from keybehind.families import Family
 from keybehind.orders import Order
-from tests import reference
+from tests import helpers, reference
 from tests.comparisons import ORDERS, by, first, under
 from tests.helpers import SHOP, TIMES, bent
 from tests.reference import FAMILIES
@@ -20,15 +20,7 @@ LATE = ("less", 2000, ("a", "begin"))
 PRICE = Order.by(SHOP, "price")
 
 
-class Case(unittest.TestCase):
-    def assert_raises(self, error, call, **attributes):
-        with self.assertRaises(error) as caught:
-            call()
-        self.assertIs(type(caught.exception), error)
-        for name, value in attributes.items():
-            self.assertEqual(getattr(caught.exception, name), value)
-        return caught.exception
-
+class Case(helpers.Case):
     def assert_is(self, draft, order, many):
         """Checks a draft's order and how many changes can be taken back."""
         self.assertIs(type(draft), Draft)

@@ -5,8 +5,9 @@ import unittest
 from itertools import product
 
 from keybehind.charts import Chart
+from keybehind.deciding import noted
 from keybehind.families import Family
-from keybehind.meetings import arranged, chain_of, joined, outcomes, pair_of, records_in
+from keybehind.meetings import arranged, chain_of, joined, outcomes, records_in, records_of
 from keybehind.parsing import SAID
 from keybehind.trees import settled, word_in
 from tests import reference, samples
@@ -39,7 +40,7 @@ def whole_chart(family, limits):
 
 
 def tree_between(chart, comparison, one, other):
-    return settled(chart, comparison, one, other)
+    return settled(noted(chart, comparison), one, other)
 
 
 class Meetings(unittest.TestCase):
@@ -169,8 +170,10 @@ class Meetings(unittest.TestCase):
                 self.assertEqual(len(found), len(set(found)))
                 rows = product(by_cell[chart.cells[one]], by_cell[chart.cells[other]])
                 self.assertLessEqual({reference.lying(family, chart.limits, r, s) for r, s in rows}, set(found))
-                pair = pair_of(chart, one, other)
+                pair = records_of(chart, (one, other))
                 self.assertIn(reference.lying(family, chart.limits, *pair), found)
+                three = records_of(chart, (one, other, one))
+                self.assertEqual([chart.numbers[cell(family, chart.reads, chart.limits, record)] for record in three], [one, other, one])
 
     def asking(self, chart, tests, one, other):
         """A tree that asks for all of the tests, one after the other, whatever the answers are."""

@@ -10,7 +10,7 @@ from keybehind.errors import BadOperators, Broken, NotOrder, NotRecord, OtherFam
 from keybehind.families import Family
 from keybehind.operators import Operators
 from keybehind.orders import Order
-from tests import reference, samples
+from tests import helpers, reference, samples
 from tests.classes import REFLECTED, SIGNS, Classes, by_less, due
 from tests.comparisons import ORDERS, by, by_known, first, ordered_from, swapped, under
 from tests.helpers import SHOP, TIMES, bent, deep
@@ -72,16 +72,7 @@ def some_records(family, limits, times=5):
     ]
 
 
-class Case(unittest.TestCase):
-    def assert_raises(self, error, call, **attributes):
-        with self.assertRaises(error) as caught:
-            call()
-        self.assertIs(type(caught.exception), error)
-        for name, value in attributes.items():
-            self.assertEqual(getattr(caught.exception, name), value)
-            self.assertEqual(type(getattr(caught.exception, name)), type(value))
-        return caught.exception
-
+class Case(helpers.Case):
     def assert_pair(self, family, records):
         self.assertIs(type(records), tuple)
         self.assertEqual([family.is_record(record) for record in records], [True, True])

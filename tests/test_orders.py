@@ -23,7 +23,7 @@ from keybehind.families import Family
 from keybehind.judging import broken_holds, judge
 from keybehind.keys import is_normal, plain
 from keybehind.orders import Order
-from tests import reference, samples
+from tests import helpers, reference, samples
 from tests.comparisons import BROKEN, ORDERS, apart, by, by_known, first, ordered_from, over, under, where
 from tests.helpers import SHOP, TIMES, bent, deep
 from tests.reference import BARE, FAMILIES, SINGLE, TURNED, broken, key_word
@@ -94,7 +94,7 @@ TWO = tuple(groups_of_orders(150))
 KNOWN = tuple((family, comparison, Order(family, comparison)) for family, comparison in ORDERS)
 
 
-class Case(unittest.TestCase):
+class Case(helpers.Case):
     def assert_says(self, order, word, records):
         """Checks what an order says of all pairs of these records, and that it is what its key says."""
         self.assertIs(type(order), Order)
@@ -105,14 +105,6 @@ class Case(unittest.TestCase):
             self.assertEqual(order(one, other), due)
             self.assertEqual(key_word(order.family, order.key, one, other), due)
 
-    def assert_raises(self, error, call, **attributes):
-        with self.assertRaises(error) as caught:
-            call()
-        self.assertIs(type(caught.exception), error)
-        for name, value in attributes.items():
-            self.assertEqual(getattr(caught.exception, name), value)
-            self.assertEqual(type(getattr(caught.exception, name)), type(value))
-        return caught.exception
 
 
 class Making(Case):

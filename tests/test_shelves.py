@@ -9,7 +9,7 @@ from keybehind.families import Family
 from keybehind.orders import Order
 from keybehind.runs import obstacle
 from keybehind.shelves import Shelf
-from tests import reference
+from tests import helpers, reference
 from tests.comparisons import ORDERS, under
 from tests.helpers import SHOP, TIMES, bent
 from tests.reference import FAMILIES, records_with
@@ -46,15 +46,7 @@ class Listed:
         return words.count("less"), words.count("less") + words.count("alike")
 
 
-class Case(unittest.TestCase):
-    def assert_raises(self, error, call, **attributes):
-        with self.assertRaises(error) as caught:
-            call()
-        self.assertIs(type(caught.exception), error)
-        for name, value in attributes.items():
-            self.assertIs(getattr(caught.exception, name), value)
-        return caught.exception
-
+class Case(helpers.Case):
     def assert_is(self, shelf, order, rows):
         self.assertIs(type(shelf), Shelf)
         self.assertIs(type(shelf.rows), tuple)

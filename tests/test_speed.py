@@ -76,7 +76,9 @@ class Speed(unittest.TestCase):
             self.assertEqual(word, "broken")
             self.assertIs(broken_holds(ITEMS, comparison, records), True)
             self.assertTrue(reference.breaks(ITEMS, comparison, records))
-            self.assert_short(most, lambda: judge(ITEMS, comparison), 150)
+            self.assertLess(calls_in(lambda: judge(ITEMS, comparison)), most)
+            for _ in range(150):
+                self.assertIs(broken_holds(ITEMS, comparison, judge(ITEMS, comparison)[1]), True)
 
     def test_reading_a_condition(self):
         flat = Order(SHELF, "alike")
