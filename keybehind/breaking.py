@@ -33,7 +33,7 @@ def verdict(chart, sayer):
         return ("broken", records)
     leads = leads_of(chart, trees)
     paths = found_paths(chart, sayer, leads, cells, 0)
-    pathing = Pathing([paths[first] for first in firsts])
+    pathing = Pathing(chart, [paths[first] for first in firsts])
     # What is certain of two cells can be compared fast, so that comes first.
     pairs = _pairs_wrong(sayer, pathing, among)
     doubts = []

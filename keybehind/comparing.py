@@ -3,12 +3,14 @@
 from keybehind.building import said_of
 from keybehind.charts import bits_in, lowest_in
 from keybehind.meetings import chain_of, joined, outcomes, records_in
-from keybehind.sayers import certain
+from keybehind.sayers import certain, firsts_of, maybe
 
 UNLIKE = (("less", "alike"), ("less", "greater"), ("alike", "less"), ("alike", "greater"), ("greater", "less"),
           ("greater", "alike"))
 NOT_LESS = (("less", "alike"), ("less", "greater"))
 OPPOSITE = (("less", "greater"),)
+# With fewer pairs of cells it is not worth while to look which of them are like each other.
+FEW = 50
 
 
 def pair_said(chart, sayer, other_sayer, wanted, among):
@@ -20,29 +22,26 @@ def pair_said(chart, sayer, other_sayer, wanted, among):
             found = certain(sayer, word, one) & certain(other_sayer, other_word, one) & among
             if found:
                 return _pair_of_cells(chart, sayer, other_sayer, wanted, one, lowest_in(found))
-    for one in cells:
-        for other in bits_in(among & ~_told(sayer, other_sayer, wanted, one)):
-            records = _pair_of_cells(chart, sayer, other_sayer, wanted, one, other)
-            if records:
-                return records
+    for one, other in _pairs_left(sayer, other_sayer, wanted, among):
+        records = _pair_of_cells(chart, sayer, other_sayer, wanted, one, other)
+        if records:
+            return records
     return None
 
 
-def _told(sayer, other_sayer, wanted, cell):
-    """The set of the cells of which, beside one cell, it is certain that none of the wanted pairs of words is said."""
-    some = 0
-    for word, other_word in wanted:
-        some = some | _possible(sayer, word, cell) & _possible(other_sayer, other_word, cell)
-    return ~some
-
-
-def _possible(sayer, word, cell):
-    """The set of the cells of which, beside one cell, a sayer may say a word; also numbers that are no cells."""
-    others = 0
-    for due in sayer.decided:
-        if due != word:
-            others = others | sayer.decided[due][cell]
-    return ~others
+def _pairs_left(sayer, other_sayer, wanted, among):
+    """The pairs of cells of a set of which one of the wanted pairs of words may be said."""
+    pairs = []
+    for one in bits_in(among):
+        some = 0
+        for word, other_word in wanted:
+            some = some | maybe(sayer, word, one) & maybe(other_sayer, other_word, one)
+        pairs.extend([(one, other) for other in bits_in(among & some)])
+    if len(pairs) < FEW:
+        return pairs
+    looks = list(zip(sayer.firsts(), other_sayer.firsts()))
+    firsts = firsts_of([(look, among >> at & 1) for at, look in enumerate(looks)])
+    return [pair for pair in pairs if firsts[pair[0]] == pair[0] and firsts[pair[1]] == pair[1]]
 
 
 def _pair_of_cells(chart, sayer, other_sayer, wanted, one, other):

@@ -20,16 +20,16 @@ def noted(chart, tree):
     return _noted_tree(chart, _known(chart, tree), tree)
 
 
-def decided(chart, tree):
-    """For each word of a noted tree, the rows of the pairs of cells of which it is said for certain."""
+def possible(chart, tree):
+    """For each word of a noted tree, the rows of the pairs of cells of which it may be said, as far as they tell."""
     many = len(chart.cells)
     if isinstance(tree, str):
         return {tree: [chart.full] * many}
     if tree[0] == "then":
-        return _decided_then(chart, tree)
+        return _possible_then(chart, tree)
     who, yes, no, _, _ = tree[1]
-    first = decided(chart, tree[2])
-    last = decided(chart, tree[3])
+    first = possible(chart, tree[2])
+    last = possible(chart, tree[3])
     none = [0] * many
     found = {}
     for word in [*first, *[other for other in last if other not in first]]:
@@ -40,8 +40,19 @@ def decided(chart, tree):
         elif who == "b":
             found[word] = [one & yes | other & no for one, other in zip(ones, others)]
         else:
-            found[word] = [one & met | other & unmet | one & other
-                           for one, other, met, unmet in zip(ones, others, yes, no)]
+            found[word] = [one & ~unmet | other & ~met for one, other, met, unmet in zip(ones, others, yes, no)]
+    return found
+
+
+def decided(rows_by_word):
+    """For each word the rows of the pairs of cells of which it is said for certain, given those of which it may be."""
+    found = {}
+    for word, rows in rows_by_word.items():
+        left = list(rows)
+        for other in rows_by_word:
+            if other != word:
+                left = [row & ~beside for row, beside in zip(left, rows_by_word[other])]
+        found[word] = left
     return found
 
 
@@ -84,13 +95,13 @@ def _note(chart, known, condition):
     return (who, yes, no, condition, parts)
 
 
-def _decided_then(chart, tree):
+def _possible_then(chart, tree):
     """The same for a tree that goes on, word by word, where another one ends."""
-    ahead = decided(chart, tree[1])
+    ahead = possible(chart, tree[1])
     found = {}
     for word, rest in tree[2]:
         if word in ahead:
-            below = decided(chart, rest)
+            below = possible(chart, rest)
             for last in below:
                 rows = [one & other for one, other in zip(ahead[word], below[last])]
                 old = found.get(last, [0] * len(rows))

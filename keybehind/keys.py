@@ -64,7 +64,7 @@ def chart_for(family, *parts):
 
 def sayer_for(chart, key):
     """What a key says, for a chart that has at least its reads and limits."""
-    return Pathing(plain_paths(chart, paths_for(chart, key)))
+    return Pathing(chart, plain_paths(chart, paths_for(chart, key)))
 
 
 def place_on(family, path, record):

@@ -134,20 +134,32 @@ def _tree_of(operators, sign):
     kinds_by_plan = {}
     for kind in operators.family.names:
         for other in operators.family.names:
-            kinds_by_plan.setdefault(_plan(operators, sign, kind, other), []).append((kind, other))
+            plan = tuple([(_like(operators, number), turned) for number, turned in _plan(operators, sign, kind, other)])
+            kinds_by_plan.setdefault(plan, []).append((kind, other))
     tree = "refused"
     for plan, kinds in kinds_by_plan.items():
-        if plan:
+        if len(kinds_by_plan) == 1:
+            tree = _tree_of_plan(operators, plan)
+        elif plan:
             tree = ("if", _are_of_kinds(kinds), _tree_of_plan(operators, plan), tree)
     return tree
+
+
+def _like(operators, number):
+    """The number of the first entry with the same program as an entry: so kinds that answer alike are told alike."""
+    programs = [entry[2] for entry in operators.entries]
+    return programs.index(programs[number])
 
 
 def _are_of_kinds(pairs):
     """The condition that two records are of just the two kinds of one of some pairs."""
     others = {}
     for kind, other in pairs:
-        others.setdefault(kind, []).append(("kind", "b", other))
-    return ("or", *[("and", ("kind", "a", kind), ("or", *tests)) for kind, tests in others.items()])
+        others.setdefault(kind, []).append(other)
+    kinds = {}
+    for kind in others:
+        kinds.setdefault(tuple(others[kind]), []).append(kind)
+    return ("or", *[("and", ("kind", "a", tuple(kinds[row])), ("kind", "b", row)) for row in kinds])
 
 
 def _tree_of_plan(operators, plan):

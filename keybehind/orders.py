@@ -106,7 +106,7 @@ class Order:
         if not isinstance(other, Order):
             return NotImplemented
         chart, paths, other_paths = _side_by_side(self, other)
-        sayers = [Pathing(plain_paths(chart, part)) for part in (paths, other_paths)]
+        sayers = [Pathing(chart, plain_paths(chart, part)) for part in (paths, other_paths)]
         records = pair_said(chart, sayers[0], sayers[1], OPPOSITE, chart.full)
         if records:
             raise Opposite(records[0], records[1])
@@ -208,7 +208,7 @@ def _pair_said(one, other, wanted):
     chart, paths, other_paths = _side_by_side(one, other)
     if one.key == other.key:
         return None
-    sayers = [Pathing(plain_paths(chart, part)) for part in (paths, other_paths)]
+    sayers = [Pathing(chart, plain_paths(chart, part)) for part in (paths, other_paths)]
     return pair_said(chart, sayers[0], sayers[1], wanted, chart.full)
 
 

@@ -1,7 +1,7 @@
 """Sayers: what says of two records whether the first one is less, alike or greater, told by the cells of a chart.
 
-Each sayer has `decided`, for each word the rows of the pairs of cells of which it says this word for certain, and
-`tree`, a settled tree for two cells of which it is not certain. With those that may be broken, `firsts` tells for each
+Each sayer has `possible` and `decided`, for each word the rows of the pairs of cells of which it may say this word, and
+of those of which it says it for certain; and `tree`, what is left to be asked of two cells. And `firsts` tells for each
 cell the first one that is like it: the same is said of both, beside whatever cell.
 
 A *path* tells of a cell what its records are compared by, step after step. A step is `(number, way, field)`: the lesser
@@ -11,7 +11,7 @@ paths are a list with the path of each cell; those of a plain key are *plain*.
 """
 
 from keybehind.cells import narrowed
-from keybehind.deciding import decided, noted
+from keybehind.deciding import decided, noted, possible
 from keybehind.reading import tests_in
 from keybehind.trees import is_of_kind, settled
 
@@ -25,7 +25,8 @@ class Comparing:
         self.chart = chart
         self.comparison = comparison
         self._noted = noted(chart, comparison)
-        self.decided = decided(chart, self._noted)
+        self.possible = possible(chart, self._noted)
+        self.decided = decided(self.possible)
 
     def tree(self, one, other):
         """What is said of records of two cells."""
@@ -36,19 +37,25 @@ class Comparing:
         family = self.chart.family
         asked = [test for test in tests_in(self.comparison) if test[0] in ("is", "kind")]
         signs = {kind: tuple([is_of_kind(family, test, kind) for test in asked]) for kind in family.names}
-        return _firsts_of([(signs[kind], rows) for kind, rows in self.chart.cells])
+        return firsts_of([(signs[kind], rows) for kind, rows in self.chart.cells])
 
 
 class Pathing:
     """What plain paths say."""
 
-    def __init__(self, paths):
+    def __init__(self, chart, paths):
+        self.chart = chart
         self.paths = paths
-        self.decided = _decided_by_paths(paths)
+        self.possible = _possible_by_paths(paths)
+        self.decided = decided(self.possible)
 
     def tree(self, one, other):
         """What is said of records of two cells."""
         return tree_of_paths(self.paths[one], self.paths[other])
+
+    def firsts(self):
+        """For each cell the first one that is like it."""
+        return firsts_of([(path, rows) for path, (_, rows) in zip(self.paths, self.chart.cells)])
 
 
 class Changing:
@@ -59,10 +66,11 @@ class Changing:
         self.paths = paths
         self.changed_paths = changed_paths
         self.having = having
-        rows = _decided_by_paths(paths)
-        changed = _decided_by_paths(changed_paths)
-        self.decided = {word: [_joined(having, at, row, changed[word][at]) for at, row in enumerate(rows[word])]
-                        for word in rows}
+        rows = _possible_by_paths(paths)
+        changed = _possible_by_paths(changed_paths)
+        self.possible = {word: [_joined(having, at, row, changed[word][at]) for at, row in enumerate(rows[word])]
+                         for word in rows}
+        self.decided = decided(self.possible)
 
     def tree(self, one, other):
         """What is said of records of two cells."""
@@ -72,13 +80,27 @@ class Changing:
 
     def firsts(self):
         """For each cell the first one that is like it."""
-        return _firsts_of([(self.having >> at & 1, path, self.changed_paths[at], self.chart.cells[at][1])
+        return firsts_of([(self.having >> at & 1, path, self.changed_paths[at], self.chart.cells[at][1])
                            for at, path in enumerate(self.paths)])
+
+
+def firsts_of(looks):
+    """For each of some values the number of the first one that is equal to it."""
+    firsts = {}
+    for at, look in enumerate(looks):
+        firsts.setdefault(look, at)
+    return [firsts[look] for look in looks]
 
 
 def certain(sayer, word, cell):
     """The set of the cells of which, beside one cell, a sayer says a word for certain."""
     rows = sayer.decided.get(word, ())
+    return rows[cell] if rows else 0
+
+
+def maybe(sayer, word, cell):
+    """The set of the cells of which, beside one cell, a sayer may say a word."""
+    rows = sayer.possible.get(word, ())
     return rows[cell] if rows else 0
 
 
@@ -126,32 +148,25 @@ def paths_for(chart, key):
     return [paths[narrowed(cell, reads, limits)] for cell in chart.cells]
 
 
-def _firsts_of(looks):
-    """For each of some values the number of the first one that is equal to it."""
-    firsts = {}
-    for at, look in enumerate(looks):
-        firsts.setdefault(look, at)
-    return [firsts[look] for look in looks]
-
-
-def _decided_by_paths(paths):
-    """For each word, the rows of the pairs of cells of which plain paths say it whatever the values are."""
+def _possible_by_paths(paths):
+    """For each word, the rows of the pairs of cells of which plain paths say it, or may say it."""
     sets = []
     for at, path in enumerate(paths):
         number = path[0][0]
         while number >= len(sets):
             sets.append(0)
         sets[number] = sets[number] | 1 << at
-    behind = []
     ahead = []
     passed = 0
     for found in sets:
         ahead.append(passed)
         passed = passed | found
     behind = [passed ^ low ^ found for low, found in zip(ahead, sets)]
-    return {"less": [behind[path[0][0]] for path in paths],
-            "alike": [0 if path[0][1] else sets[path[0][0]] for path in paths],
-            "greater": [ahead[path[0][0]] for path in paths]}
+    # Records of one block may be less, alike or greater if there is a way.
+    here = [sets[path[0][0]] if path[0][1] else 0 for path in paths]
+    return {"less": [behind[path[0][0]] | open_ones for path, open_ones in zip(paths, here)],
+            "alike": [sets[path[0][0]] for path in paths],
+            "greater": [ahead[path[0][0]] | open_ones for path, open_ones in zip(paths, here)]}
 
 
 def _joined(having, at, row, changed):

@@ -2,7 +2,7 @@
 
 A tree is a word; or ("if", condition, yes, no) as in comparisons; or ("then", tree, rows) with a row (word, tree) for
 each word at which the first tree can end, where it goes on with the second one. Its conditions are those on two
-records, with one more test: ("kind", who, kind), the record is of just this kind.
+records, with one more test: ("kind", who, kinds), the record is of just one of these kinds.
 
 What is left of a tree if the cells of both records are known has only tests with a field of each record.
 
@@ -59,7 +59,7 @@ def swapped(tree):
 
 def is_of_kind(family, test, kind):
     """Whether a test of the kind of a record is true for a kind."""
-    return kind == test[2] if test[0] == "kind" else family.is_heir(kind, test[2])
+    return kind in test[2] if test[0] == "kind" else family.is_heir(kind, test[2])
 
 
 def rest_behind(tree, ahead):

@@ -7,7 +7,7 @@ from itertools import product
 from keybehind.breaking import verdict
 from keybehind.building import found_paths, leads_of, said_of
 from keybehind.charts import Chart, bits_in, lowest_in, set_of
-from keybehind.deciding import cells_with, decided, noted
+from keybehind.deciding import cells_with, decided, noted, possible
 from keybehind.plainpaths import node_of, plain_paths
 from keybehind.sayers import Comparing, Pathing, paths_for, tree_of_paths
 from keybehind.trees import settled, word_in
@@ -63,7 +63,7 @@ class Deciding(unittest.TestCase):
                 comparison = any_comparison(choice, family, named)
                 word = reference.worded(family, comparison)
                 tree = noted(chart, comparison)
-                rows = decided(chart, tree)
+                rows = decided(possible(chart, tree))
                 for one, other in choice.choices(list(product(records, records)), k=60):
                     words = {word(r, s) for r in records[one][:12] for s in records[other][:12]}
                     certain = [said for said in rows if rows[said][one] >> other & 1]
@@ -100,7 +100,7 @@ class Deciding(unittest.TestCase):
             rests = {said: samples.tree_from(choice, tests, 2) for said in ("less", "alike", "greater")}
             tree = noted(chart, ("then", ahead, tuple(rests.items())))
             whole = noted(chart, grafted(ahead, rests))
-            rows, due = decided(chart, tree), decided(chart, whole)
+            rows, due = decided(possible(chart, tree)), decided(possible(chart, whole))
             for one, other in choice.choices(list(product(range(len(chart.cells)), repeat=2)), k=30):
                 for said in rows:
                     if rows[said][one] >> other & 1:
@@ -127,7 +127,7 @@ class PlainPaths(unittest.TestCase):
             self.assertEqual(paths_for(chart, key), paths)
             self.assertTrue(reference.is_plain(family, key))
             trees = {at: tree_of_paths(path, path) for at, path in enumerate(paths)}
-            asked = found_paths(chart, Pathing(paths), leads_of(chart, trees), list(trees), 0)
+            asked = found_paths(chart, Pathing(chart, paths), leads_of(chart, trees), list(trees), 0)
             self.assertEqual([asked[at] for at in trees], paths)
 
     def test_steps_without_need_are_left_out(self):
