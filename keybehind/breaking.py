@@ -3,7 +3,7 @@
 The paths that the questions make are right for some cells if what is said of the records of these cells is an order. So
 if something else is said of two cells, they are looked at alone: what is said of their records is broken, or the
 questions about these two make other paths. If it is broken for no two cells, it is for three of them: the two, and one
-by which their places were found.
+by which their places were found. (Should this ever find nothing, all cells are looked through by threes.)
 """
 
 from keybehind.basics import ascending
@@ -44,7 +44,7 @@ def verdict(chart, sayer):
         more, records = _looked_through(chart, sayer, leads, paths, _pairs_left(sayer, among))
         doubts = [*doubts, *more]
     if doubts and not records:
-        records = _broken_by_three(chart, sayer, leads, doubts, cells)
+        records = _broken_by_three(chart, sayer, leads, doubts, cells) or broken_anywhere(chart, sayer, cells)
     return ("broken", records) if records else ("plain", pathing.paths)
 
 
@@ -205,6 +205,17 @@ def _broken_by_three(chart, sayer, leads, doubts, cells):
         for third in cells:
             if third not in (one, other):
                 records = _broken_in(chart, sayer, leads, ascending((one, other, third)))
+                if records:
+                    return records
+    return ()
+
+
+def broken_anywhere(chart, sayer, cells):
+    """Three records of any of these cells that break what is said, or (); no two of them do so."""
+    for at, one in enumerate(cells):
+        for beside, other in enumerate(cells[at:], start=at):
+            for third in cells[beside:]:
+                records = _three_of(chart, sayer, (one, other, third))
                 if records:
                     return records
     return ()

@@ -3,10 +3,15 @@
 import random
 import unittest
 
+from keybehind.breaking import broken_anywhere, verdict
+from keybehind.cells import number_of_cells
+from keybehind.charts import Chart
 from keybehind.errors import Broken, NotOrder, TooMany
 from keybehind.families import Family
 from keybehind.judging import broken_holds, judge, key_holds
 from keybehind.orders import Order
+from keybehind.reading import read_and_named
+from keybehind.sayers import Comparing
 from tests import reference
 from tests.comparisons import apart, by, first, swapped, under
 from tests.drawn import LIMITS, any_comparison, any_family
@@ -97,6 +102,34 @@ class Drawn(Case):
             if due:
                 self.assertIs(key_holds(family, comparison, key), True)
             found[due] = found[due] + 1
+
+
+class Anywhere(Case):
+    def test_beside_looking_everywhere(self):
+        # What is told by two cells, or by three of them, beside all rows of three cells.
+        choice = random.Random(53)
+        found = {"key": 0, "broken": 0}
+        while min(found.values()) < 40:
+            family, limits = any_family(choice), choice.choice(((), (), (0,)))
+            comparison = any_comparison(choice, family, limits)
+            reads, named = read_and_named(family, comparison)
+            if number_of_cells(family, reads, named) > 14:
+                continue
+            chart = Chart(family, reads, named)
+            sayer = Comparing(chart, comparison)
+            word, records = verdict(chart, sayer)
+            if word == "broken" and len(records) < 3:
+                continue
+            everywhere = broken_anywhere(chart, sayer, list(range(len(chart.cells))))
+            self.assertEqual(bool(everywhere), word == "broken", (family.text, comparison))
+            if everywhere and self.unbroken_by_two(family, comparison, everywhere):
+                self.assertTrue(reference.breaks(family, comparison, everywhere))
+                found["broken"] = found["broken"] + 1
+            elif word == "plain":
+                found["key"] = found["key"] + 1
+
+    def unbroken_by_two(self, family, comparison, records):
+        return not any(reference.breaks(family, comparison, (r, s)) for r in records for s in records)
 
 
 class Apart(Case):
