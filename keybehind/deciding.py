@@ -89,7 +89,8 @@ def _note(chart, known, condition):
     if word == "and":
         return (*_all_of(chart, parts), condition, parts)
     if word == "or":
-        who, no, yes = _all_of(chart, [(who, no, yes) for who, yes, no, _, _ in parts])
+        # Turned round: it does not hold if none of the parts does.
+        who, no, yes = _all_of(chart, [(part[0], part[2], part[1]) for part in parts])
     else:
         who, no, yes = parts[0][:3]
     return (who, yes, no, condition, parts)
