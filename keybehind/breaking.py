@@ -189,10 +189,10 @@ def _broken_in(chart, sayer, leads, cells):
     if not found:
         return ()
     if len(cells) == 3:
-        return _three_of(chart, sayer, cells)
+        return three_of(chart, sayer, cells)
     one, other = cells[0], cells[-1]
     for row in ((one, one, other), (one, other, other), (one, one, one), (other, other, other)):
-        records = _three_of(chart, sayer, row)
+        records = three_of(chart, sayer, row)
         if records:
             return records
     return ()
@@ -215,13 +215,13 @@ def broken_anywhere(chart, sayer, cells):
     for at, one in enumerate(cells):
         for beside, other in enumerate(cells[at:], start=at):
             for third in cells[beside:]:
-                records = _three_of(chart, sayer, (one, other, third))
+                records = three_of(chart, sayer, (one, other, third))
                 if records:
                     return records
     return ()
 
 
-def _three_of(chart, sayer, cells):
+def three_of(chart, sayer, cells):
     """Three records of just these cells that break what is said, or (); no two of them do so."""
     one, other, third = cells
     chain = chain_of(chart.cells[one], 0)

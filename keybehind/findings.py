@@ -62,7 +62,7 @@ def _has_runs(order, condition, row, many):
     """Whether a row is a sorted one of records that have a condition and do not have it by turns, with so many runs."""
     if not isinstance(order, Order) or not is_condition(order.family, condition) or not isinstance(row, tuple):
         return False
-    if not is_whole(many) or many < 0 or len(row) != (2 * many - 1 if many else 0):
+    if not is_whole(many) or len(row) != (2 * many - 1 if many else 0):
         return False
     if not all([order.family.is_record(record) for record in row]):
         return False

@@ -2,10 +2,12 @@
 
 import random
 import unittest
+from itertools import combinations_with_replacement, product
 
-from keybehind.breaking import broken_anywhere, verdict
+from keybehind.breaking import broken_anywhere, three_of, verdict
 from keybehind.cells import number_of_cells
 from keybehind.charts import Chart
+from keybehind.conditions import read_comparison
 from keybehind.errors import Broken, NotOrder, TooMany
 from keybehind.families import Family
 from keybehind.judging import broken_holds, judge, key_holds
@@ -46,6 +48,56 @@ def ring(yes):
         condition = ("and", ("is", "a", one), ("is", "b", other), yes)
         tree = ("if", condition, "less", ("if", swapped(condition), "greater", tree))
     return ("if", ("or", *[("and", ("is", "a", kind), ("is", "b", kind)) for kind in "klo"]), by("x"), tree)
+
+
+# Texts of families and of comparisons. With these no two cells are enough: each two of them are in order.
+BY_THREE_CELLS = (
+    (
+        "field x m\nfield y m\nkind k : ; x y",
+        "if ((0 < a.y and 0 < b.y) and (and b.x == a.x)) then if (a.x == a.y and not b.x == b.y) then less else if (b.x == "
+        "b.y and not a.x == a.y) then greater else alike else if a.x < b.x then less else if b.x < a.x then greater else "
+        "alike",
+    ),
+    (
+        "field x m\nfield y m\nkind k : ; x y",
+        "if a.y < b.y then less else if b.y < a.y then greater else if (not a.x == a.y and not b.x == b.y) then if b.y < a.y "
+        "then less else if a.y < b.y then greater else alike else if a.x < b.x then less else if b.x < a.x then greater "
+        "else alike",
+    ),
+    (
+        "field x m\nfield y m\nkind k : ; x\nkind l : ; y\nkind o : ; x y",
+        "if a.x < b.x then less else if b.x < a.x then greater else if (a.x == a.y and not b.x == b.y) then less else if (b.x "
+        "== b.y and not a.x == a.y) then greater else if (a is l and not b is l) then less else if (b is l and not a is l) "
+        "then greater else alike",
+    ),
+    (
+        "field w n\nfield x m\nfield y m\nkind k : ; w x y",
+        "if not (b.x < b.y or 0 == a.w) then if not (a.x < a.y or 0 == b.w) then if b.y < a.y then less else if a.y < b.y "
+        "then greater else alike else greater else if not (a.x < a.y or 0 == b.w) then less else if b.y < a.y then less "
+        "else if a.y < b.y then greater else alike",
+    ),
+    (
+        "field x m\nkind k : ; x\nkind l : ; x\nkind o : ; x",
+        "if (a is k and b is o) then less else if (b is k and a is o) then greater else if a.x < b.x then less else if b.x < "
+        "a.x then greater else alike",
+    ),
+)
+# With these it counts how the first two of three records lie, whatever is said of the two.
+BY_THREE_RECORDS = (
+    (
+        "field x m\nfield y m\nfield z m\nkind k : ; x y z",
+        "if (a.x == a.y or b.z < b.y) then if (b.x == b.y or a.z < a.y) then if a.y < b.y then less else if b.y < a.y then "
+        "greater else alike else greater else if (b.x == b.y or a.z < a.y) then less else if a.y < b.y then less else if "
+        "b.y < a.y then greater else alike",
+    ),
+    (
+        "field x m\nfield y m\nkind k : ; x y\nkind l : ; x y\nkind o : k ; x",
+        "if (or (b.y == b.x or a is l or a is o)) then if (or (a.y == a.x or b is l or b is o)) then if b.y < a.y then less "
+        "else if a.y < b.y then greater else alike else if not not b.y == b.y then less else greater else if (or (a.y == "
+        "a.x or b is l or b is o)) then if not not b.y == b.y then greater else less else if b.y < a.y then less else if "
+        "a.y < b.y then greater else alike",
+    ),
+)
 
 
 class Case(unittest.TestCase):
@@ -128,8 +180,56 @@ class Anywhere(Case):
             elif word == "plain":
                 found["key"] = found["key"] + 1
 
+    def test_beside_all_records_that_have_three_cells(self):
+        # Also where it counts how the first two of three records lie, whatever is said of the two.
+        text = (
+            "if (not b.y < b.x and (a.y == a.y and a.x < a.y) and b.x == b.x) then if (not a.y < a.x and (b.y == b.y and "
+            "b.x < b.y) and a.x == a.x) then if b.y < a.y then less else if a.y < b.y then greater else alike else less "
+            "else if (not a.y < a.x and (b.y == b.y and b.x < b.y) and a.x == a.x) then greater else if b.y < a.y then "
+            "less else if a.y < b.y then greater else alike"
+        )
+        choice = random.Random(54)
+        records = reference.records_with(TWO, range(6))
+        comparisons = [read_comparison(TWO, text), EVEN, by("x", "-y")]
+        found = {True: 0, False: 0}
+        while min(found.values()) < 150:
+            comparison = comparisons.pop(0) if comparisons else any_comparison(choice, TWO, ())
+            reads, named = (("k", "x"), ("k", "y")), ()
+            words = table(TWO, comparison, records)
+            if any(words[one][other] != reference.TURNED[words[other][one]] for one in range(36) for other in range(36)):
+                continue
+            chart = Chart(TWO, reads, named)
+            at_cell = [chart.numbers[reference.cell(TWO, reads, named, record)] for record in records]
+            due = set()
+            for one, other, third in product(range(36), repeat=3):
+                row = (words[one][other], words[other][third])
+                if "greater" not in row and words[one][third] != ("alike" if row == ("alike", "alike") else "less"):
+                    due.add(tuple(sorted((at_cell[one], at_cell[other], at_cell[third]))))
+            for cells in combinations_with_replacement(range(3), 3):
+                three = three_of(chart, Comparing(chart, comparison), cells)
+                self.assertEqual(bool(three), cells in due, (comparison, cells))
+                self.assertTrue(not three or reference.breaks(TWO, comparison, three))
+                found[bool(three)] = found[bool(three)] + 1
+
     def unbroken_by_two(self, family, comparison, records):
         return not any(reference.breaks(family, comparison, (r, s)) for r in records for s in records)
+
+
+class Texts(Case):
+    def test_by_three_cells(self):
+        for family_text, text in BY_THREE_CELLS:
+            family = Family.read(family_text)
+            records = self.assert_broken(family, read_comparison(family, text))
+            self.assertEqual(len(records), 3)
+
+    def test_by_three_records(self):
+        for family_text, text in BY_THREE_RECORDS:
+            family = Family.read(family_text)
+            comparison = read_comparison(family, text)
+            self.assert_broken(family, comparison)
+            chart = Chart(family, *read_and_named(family, comparison))
+            records = broken_anywhere(chart, Comparing(chart, comparison), list(range(len(chart.cells))))
+            self.assertTrue(reference.breaks(family, comparison, records))
 
 
 class Apart(Case):

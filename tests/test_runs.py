@@ -298,6 +298,19 @@ class Serving(Case):
                 self.assertNotIn("less", [wish(s, r) for r, s in zip(row, row[1:])])
         self.assertGreater(min(found.values()), 50)
 
+    def test_in_kinds_that_are_like_others(self):
+        # What lies in the way for one kind lies there for each kind with the same fields, and for no other one.
+        family = Family((("x", "m"), ("y", "m"), ("z", "m")), *[(kind, (), ("x", "y", "z")) for kind in "klmnop"])
+        order, wish = Order.by(family, "x", "-y", "z"), Order.by(family, "x", "-y", "-z")
+        for kind in family.names:
+            self.assertIsNone(obstacle(order, Order.by(family, "x"), ("is", "a", kind)))
+            records = obstacle(order, wish, ("is", "a", kind))
+            self.assertEqual([record[0] for record in records], [kind, kind])
+            self.assertEqual((wish(*records), order(*records)), ("less", "greater"))
+            self.assertIsNone(obstacle(order, wish, ("and", ("is", "a", kind), ("not", ("is", "a", kind)))))
+        self.assertIsNotNone(order.unlike(wish))
+        self.assertIsNone(order.unlike(Order.by(family, "x") + "-y" + "z"))
+
     def test_with_all_records_it_is_to_be_finer(self):
         for family, _, (order, other) in TWO:
             try:
