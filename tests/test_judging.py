@@ -3,7 +3,7 @@
 import ast
 import random
 import unittest
-from itertools import product
+from itertools import permutations, product
 
 from keybehind.cells import cells_of
 from keybehind.conditions import read_comparison
@@ -11,6 +11,7 @@ from keybehind.errors import BadComparison, TooMany
 from keybehind.families import Family
 from keybehind.judging import broken_holds, judge, key_holds
 from keybehind.keys import is_normal, is_plain, plain
+from keybehind.orders import Order
 from tests import reference, samples
 from tests.comparisons import (
     ABOVE,
@@ -237,6 +238,19 @@ class Judge(unittest.TestCase):
         ):
             self.assertEqual(judge(WORDY, comparison)[0], due)
             self.assert_right(WORDY, comparison, 60)
+
+    def test_three_values_in_all_rows_and_ways(self):
+        # Which value leads, which follows: told by comparisons, and by the names of fields.
+        records = reference.records_with(TRIPLE, range(3))
+        for names in permutations("xyz"):
+            for signs in product(("", "-"), repeat=3):
+                row = [sign + name for sign, name in zip(signs, names)]
+                comparison = by(*row)
+                word, key = judge(TRIPLE, comparison)
+                self.assertEqual((word, key), ("key", Order.by(TRIPLE, *row).key))
+                words = table(TRIPLE, comparison, records)
+                for one, other in random.Random(5).choices(list(product(range(27), repeat=2)), k=60):
+                    self.assertEqual(key_word(TRIPLE, key, records[one], records[other]), words[one][other])
 
     def test_three_values_of_one_measure(self):
         for comparison, due in (
